@@ -1,0 +1,1 @@
+"""Declared types: faces, groups of datatypes, and looking up."""

@@ -1,0 +1,1 @@
+"""Types: books of stamps, terms, schemes and solving."""

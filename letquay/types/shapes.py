@@ -1,0 +1,106 @@
+"""The shape of types: their parts, judged and put together without a book, and without recursion.
+
+Types can be three hundred deep, so all functions here keep what is still to be done in a list.
+"""
+
+from letquay.checks import is_integer, is_whole
+
+MAX_SIZE = 300
+
+
+def children(T):
+    """The tuple of the types directly inside of a type."""
+    if T[0] == "var":
+        return ()
+    if T[0] == "fn":
+        return T[1:]
+    return T[1] if T[0] == "tuple" else T[2]
+
+
+def with_children(T, parts):
+    """The type with other types directly inside of it."""
+    if T[0] == "fn":
+        return ("fn", *parts)
+    return ("tuple", parts) if T[0] == "tuple" else ("made", T[1], parts)
+
+
+def _parts_of(value, arities):
+    """What stands directly in a value, or None if it cannot be a type."""
+    if not isinstance(value, tuple) or len(value) < 2 or not isinstance(value[0], str):
+        return None
+    word = value[0]
+    if word == "var":
+        return () if len(value) == 2 and is_whole(value[1]) else None
+    if word == "fn":
+        return value[1:] if len(value) == 3 else None
+    if not isinstance(value[-1], tuple):
+        return None
+    if word == "tuple":
+        return value[1] if len(value) == 2 and len(value[1]) != 1 else None
+    if word != "made" or len(value) != 3 or not is_integer(value[1]) or not 1 <= value[1] <= len(arities):
+        return None
+    return value[2] if len(value[2]) == arities[value[1] - 1] else None
+
+
+def is_shape(value, arities):
+    """Whether any value is a type that can be passed, where the stamps from 1 on have these arities."""
+    todo = [value]
+    size = 0
+    while todo:
+        parts = _parts_of(todo.pop(), arities)
+        size += 1
+        if parts is None or size > MAX_SIZE:
+            return False
+        todo.extend(parts)
+    return True
+
+
+def nodes_of(T):
+    """The list of all types that stand in a type, itself included, as they stand in the text of the parts."""
+    found = []
+    todo = [T]
+    while todo:
+        part = todo.pop()
+        found.append(part)
+        todo.extend(children(part)[::-1])
+    return found
+
+
+def variables_in(T):
+    """The tuple of the numbers of the variables, each once, as they first stand."""
+    found = {part[1]: True for part in nodes_of(T) if part[0] == "var"}
+    return tuple(found)
+
+
+def greatest_in(T):
+    """The greatest stamp that stands in a type, or 0."""
+    return max([0, *[part[1] for part in nodes_of(T) if part[0] == "made"]])
+
+
+def size_with(T, sizes):
+    """The size of a type when types of these sizes, a dict by variables, are put in the place of all variables."""
+    return sum([sizes[part[1]] if part[0] == "var" else 1 for part in nodes_of(T)])
+
+
+def replaced(T, images):
+    """The type with the image of each variable, in a dict by variables, put in its place."""
+    done = []
+    todo = [(T, False)]
+    while todo:
+        part, ready = todo.pop()
+        if part[0] == "var":
+            done.append(images[part[1]])
+        elif ready:
+            first = len(done) - len(children(part))
+            parts = tuple(done[first:])
+            del done[first:]
+            done.append(with_children(part, parts))
+        else:
+            todo.append((part, True))
+            todo.extend([(inner, False) for inner in children(part)[::-1]])
+    return done[0]
+
+
+def numbered(variables):
+    """The dict that renames variables to 0, 1, .. in this order."""
+    return {variable: ("var", number) for number, variable in enumerate(variables)}

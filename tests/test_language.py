@@ -243,6 +243,7 @@ class NamesTest(unittest.TestCase):
         plain, decorated = set(), set()
         for module, node in nodes(ast.ClassDef):
             self.assertEqual(node.decorator_list, [])
+            self.assertTrue(node.name[0].isupper(), node.name)
             methods = [entry.name for entry in node.body if isinstance(entry, ast.FunctionDef)]
             stored = {inner.attr for inner in ast.walk(node) if isinstance(inner, ast.Attribute)
                       and isinstance(inner.ctx, ast.Store)}

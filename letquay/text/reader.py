@@ -12,7 +12,7 @@ from letquay.text.trees import is_tree
 MOST_OPEN = 60
 
 
-class _Reading:
+class Reading:
     """A text that is being read: what has been read so far, and how many tokens are open."""
 
     def __init__(self, text):
@@ -22,18 +22,18 @@ class _Reading:
         self.marks = []
         self.opened = 0
 
-    def kind(self):
+    def next_kind(self):
         """The kind of the next token."""
         return self.tokens[self.at][0]
 
-    def spot(self):
+    def next_spot(self):
         """The index at which the next token begins."""
         return self.tokens[self.at][2]
 
     def take(self, kind):
         """Read the next token, which must be of a kind."""
-        if self.kind() != kind:
-            raise ParseError(self.spot())
+        if self.next_kind() != kind:
+            raise ParseError(self.next_spot())
         worth = self.tokens[self.at][1]
         if worth is not None:
             self.held.append(worth)
@@ -43,18 +43,18 @@ class _Reading:
         """Open the next token."""
         self.opened += 1
         if self.opened > MOST_OPEN:
-            raise ParseError(self.spot())
+            raise ParseError(self.next_spot())
 
-    def last(self, many):
+    def take_last(self, many):
         """Take away the last values, as a tuple."""
         first = len(self.held) - many
         found = tuple(self.held[first:])
         del self.held[first:]
         return found
 
-    def marked(self):
+    def take_marked(self):
         """Take away the values behind the last mark, as a tuple."""
-        return self.last(len(self.held) - self.marks.pop())
+        return self.take_last(len(self.held) - self.marks.pop())
 
     def push(self, worth):
         """Hold a value more."""
@@ -76,24 +76,24 @@ def _sequence(found):
 def _act_on_parts(reading, word):
     """Do what takes away values and gives one of them, or a tuple."""
     if word == "tuple":
-        reading.push(reading.marked())
+        reading.push(reading.take_marked())
     elif word == "members":
-        reading.push(_one_or_tuple(reading.marked()))
+        reading.push(_one_or_tuple(reading.take_marked()))
     elif word == "then":
-        reading.push(_sequence(reading.marked()))
+        reading.push(_sequence(reading.take_marked()))
     elif word == "one":
-        reading.push(reading.last(1))
+        reading.push(reading.take_last(1))
     elif word == "swap":
-        first, second = reading.last(2)
+        first, second = reading.take_last(2)
         reading.push(second)
         reading.push(first)
     elif word == "applied":
-        args, path = reading.last(2)
+        args, path = reading.take_last(2)
         reading.push(("con", path, args))
     elif word == "cons":
-        reading.push(("call", ("con", ("Cons",)), ("tuple", reading.last(2))))
+        reading.push(("call", ("con", ("Cons",)), ("tuple", reading.take_last(2))))
     elif word == "pattern":
-        reading.push(("con", ("Cons",), ("tuple", reading.last(2))))
+        reading.push(("con", ("Cons",), ("tuple", reading.take_last(2))))
 
 
 def _act(reading, action):
@@ -101,7 +101,7 @@ def _act(reading, action):
     word, slash, count = action.partition("/")
     lead, _, rest = action.partition("-")
     if slash:
-        reading.push((word, *reading.last(int(count))))
+        reading.push((word, *reading.take_last(int(count))))
     elif word == "in":
         reading.enter()
     elif word == "out":
@@ -115,7 +115,7 @@ def _act(reading, action):
     elif lead == "name":
         reading.push(rest)
     elif lead in ("op", "monad"):
-        reading.push(("op", rest, reading.last(2 if lead == "op" else 1)))
+        reading.push(("op", rest, reading.take_last(2 if lead == "op" else 1)))
     else:
         _act_on_parts(reading, word)
 
@@ -130,16 +130,16 @@ def _read(text, rule, sort):
     """The tree of a sort with a text, by a rule of the grammar."""
     if not isinstance(text, str):
         raise ParseError(None)
-    reading = _Reading(text)
+    reading = Reading(text)
     todo = ["end of text", rule]
     while todo:
         symbol = todo.pop()
         if symbol[0] == "@":
             _act(reading, symbol[1:])
         elif symbol[0] in HIGH_LETTERS:
-            line = _line_of(symbol, reading.kind())
+            line = _line_of(symbol, reading.next_kind())
             if line is None:
-                raise ParseError(reading.spot())
+                raise ParseError(reading.next_spot())
             todo.extend(line.split()[::-1])
         else:
             reading.take(symbol)

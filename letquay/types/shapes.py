@@ -24,8 +24,8 @@ def with_children(T, parts):
     return ("tuple", parts) if T[0] == "tuple" else ("made", T[1], parts)
 
 
-def _parts_of(value, arities):
-    """What stands directly in a value, or None if it cannot be a type."""
+def _parts_of(value):
+    """What stands directly in a value, or None if it cannot be a type, whatever stamps there are."""
     if not isinstance(value, tuple) or len(value) < 2 or not isinstance(value[0], str):
         return None
     word = value[0]
@@ -37,9 +37,9 @@ def _parts_of(value, arities):
         return None
     if word == "tuple":
         return value[1] if len(value) == 2 and len(value[1]) != 1 else None
-    if word != "made" or len(value) != 3 or not is_integer(value[1]) or not 1 <= value[1] <= len(arities):
-        return None
-    return value[2] if len(value[2]) == arities[value[1] - 1] else None
+    if word == "made" and len(value) == 3 and is_integer(value[1]) and value[1] > 0:
+        return value[2]
+    return None
 
 
 def is_shape(value, arities):
@@ -47,9 +47,29 @@ def is_shape(value, arities):
     todo = [value]
     size = 0
     while todo:
-        parts = _parts_of(todo.pop(), arities)
+        part = todo.pop()
+        parts = _parts_of(part)
         size += 1
         if parts is None or size > MAX_SIZE:
+            return False
+        if part[0] == "made" and (part[1] > len(arities) or arities[part[1] - 1] != len(parts)):
+            return False
+        todo.extend(parts)
+    return True
+
+
+def is_loose_shape(value, first_arities, most):
+    """Whether any value is a type of some book: each stamp behind the first ones has one arity, not above the most."""
+    arities = {stamp: arity for stamp, arity in enumerate(first_arities, start=1)}
+    todo = [value]
+    size = 0
+    while todo:
+        part = todo.pop()
+        parts = _parts_of(part)
+        size += 1
+        if parts is None or size > MAX_SIZE:
+            return False
+        if part[0] == "made" and (len(parts) > most or arities.setdefault(part[1], len(parts)) != len(parts)):
             return False
         todo.extend(parts)
     return True
@@ -64,6 +84,12 @@ def nodes_of(T):
         found.append(part)
         todo.extend(children(part)[::-1])
     return found
+
+
+def outline(T):
+    """The tuple of what each type in a type has of its own, in this order: types with equal outlines are equal."""
+    own = {"var": 1, "made": 1}
+    return tuple([(part[0], part[own[part[0]]] if part[0] in own else 0, len(children(part))) for part in nodes_of(T)])
 
 
 def variables_in(T):

@@ -1,7 +1,9 @@
 """Faces: what has been declared, by names."""
 
 from letquay.checks import is_integer
-from letquay.errors import InvalidFace, InvalidNumber, InvalidOperation, InvalidScheme, InvalidType, TooMany, UnknownName
+from letquay.errors import (
+    InvalidFace, InvalidNumber, InvalidOperation, InvalidScheme, InvalidType, TooMany, UnknownName,
+)
 from letquay.text.forms import SEQUENCES
 from letquay.text.names import is_high, is_high_path, is_low, is_low_path, is_type_path
 from letquay.types.books import FIRST_ROWS, MAX_ARITY, is_arity
@@ -14,6 +16,10 @@ MAX_ITEMS = 2000
 RESERVED_TYPES = ("int", "string", "bool", "exn", "unit", "list", "ref")
 RESERVED_CONSTRUCTORS = (("True", 3, 0), ("False", 3, 1), ("Nil", 5, 0), ("Cons", 5, 1))
 RESERVED_EXCEPTIONS = ("Match", "Div", "Size", "End")
+
+
+# Constructors and exceptions are one name space: an item of one kind hides one of the other.
+RIVALS = {"constructor": "exception", "exception": "constructor"}
 
 
 def is_reserved_type(name):
@@ -47,10 +53,9 @@ def _is_index(value):
     return is_integer(value) and 0 <= value < SEQUENCES["constructors"][2]
 
 
-def _without_rival(table, kind, name):
-    """The items but for the one that an item of this kind and name hides in another kind of its name space."""
-    rival = {"constructor": "exception", "exception": "constructor"}.get(kind, kind)
-    return {key: table[key] for key in table if key != (rival, name)}
+def _rival(kind, name):
+    """The key of the item that an item of this kind and name hides, it may be of another kind."""
+    return RIVALS.get(kind, kind), name
 
 
 class Face:
@@ -79,7 +84,8 @@ class Face:
         return face
 
     def _with_item(self, kind, name, worth, greatest, many):
-        table = _without_rival(self._table, kind, name)
+        rival = _rival(kind, name)
+        table = {key: self._table[key] for key in self._keys if key != rival}
         table[(kind, name)] = (worth, greatest, many)
         return self._with_table(table)
 
@@ -159,7 +165,7 @@ class Face:
             raise InvalidFace("this is no face")
         table = {key: self._table[key] for key in self._keys}
         for kind, name in other._keys:
-            table.pop(({"constructor": "exception", "exception": "constructor"}.get(kind, kind), name), None)
+            table.pop(_rival(kind, name), None)
             table[(kind, name)] = other._table[(kind, name)]
         return self._with_table(table)
 

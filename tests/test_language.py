@@ -176,8 +176,10 @@ class ModulesTest(unittest.TestCase):
                 elif isinstance(node, ast.Assign):
                     self.assertEqual(len(node.targets), 1)
                     names.append(node.targets[0].id)
+                    plain = (ast.Constant, ast.Tuple, ast.List, ast.Dict, ast.BinOp, ast.UnaryOp, ast.Name, ast.operator,
+                             ast.unaryop, ast.expr_context)
                     for inner in ast.walk(node.value):
-                        self.assertNotIsInstance(inner, (ast.Call, ast.Lambda, ast.ListComp, ast.DictComp, ast.Set))
+                        self.assertIsInstance(inner, plain, where(module, node))
                 else:
                     names.append(node.name)
             self.assertEqual(len(set(names)), len(names), module)

@@ -7,7 +7,7 @@ from letquay.text.names import is_low
 from letquay.types.books import are_constructors, is_arity
 from letquay.types.schemes import Scheme
 from letquay.types.shapes import MAX_SIZE, children, nodes_of
-from letquay.types.terms import check_book, check_type, needed_parts
+from letquay.types.terms import asked_variables, check_book, check_type
 
 REF = 6
 
@@ -44,26 +44,10 @@ def _extended(book, draft, asks):
     return book.with_stamps(tuple(rows))
 
 
-def _asked(book, types):
-    """The ascending tuple of the variables asked in some types, or `None` if one of them is never equal."""
-    found = {}
-    todo = list(types)
-    while todo:
-        part = todo.pop()
-        if part[0] == "var":
-            found[part[1]] = True
-            continue
-        needed = needed_parts(book, part)
-        if needed is None:
-            return None
-        todo.extend(needed)
-    return tuple(sorted(found))
-
-
 def asked_in(book, T):
     """The ascending tuple of the asked variables of a type, or `None` if it is never equal."""
     check_type(book, T)
-    return _asked(book, (T,))
+    return asked_variables(book, (T,))
 
 
 def carried_types(constructors):
@@ -78,7 +62,7 @@ def least_asks(book, draft):
     while asks != wanted:
         asks = wanted
         trial, _ = _extended(book, draft, asks)
-        wanted = tuple([_asked(trial, carried_types(row[2])) for row in draft])
+        wanted = tuple([asked_variables(trial, carried_types(row[2])) for row in draft])
     return asks
 
 

@@ -3,14 +3,11 @@
 from letquay.data.faces import Face, is_reserved_tag, is_reserved_type, maker_of
 from letquay.data.groups import extended_by
 from letquay.errors import InvalidFace, InvalidOperation, InvalidTree, Refused, TooMany, UnknownName
-from letquay.text.forms import SEQUENCES
 from letquay.text.names import is_high, is_low
 from letquay.text.trees import is_tree, part_at, places_in
 from letquay.types.schemes import Scheme
 from letquay.types.shapes import MAX_SIZE, nodes_of
 from letquay.types.terms import check_book, put_in
-
-MAX_PARAMETERS = SEQUENCES["parameters"][2]
 
 
 def check_scope(book, scope):

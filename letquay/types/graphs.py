@@ -149,6 +149,10 @@ class Graph:
         asks = None if head[0] == "fn" else self.book.asks(head[1])
         return None if asks is None else tuple([parts[position] for position in asks])
 
+    def _mark(self, index):
+        node = self.nodes[index]
+        self._replace(index, (*node[:MUST], True, *node[MUST + 1:]))
+
     def demand_of_parts(self, roots):
         """Let all parts of some roots, that must admit equality, do so as well; whether this is possible."""
         todo = list(roots)
@@ -159,7 +163,7 @@ class Graph:
             for part in needed:
                 index = self.root(part)
                 if not self.nodes[index][MUST]:
-                    self._replace(index, (*self.nodes[index][:MUST], True, *self.nodes[index][MUST + 1:]))
+                    self._mark(index)
                     todo.append(index)
         return True
 
@@ -168,7 +172,7 @@ class Graph:
         index = self.root(index)
         if self.nodes[index][MUST]:
             return True
-        self._replace(index, (*self.nodes[index][:MUST], True, *self.nodes[index][MUST + 1:]))
+        self._mark(index)
         return self.demand_of_parts([index])
 
     def is_great(self, start):

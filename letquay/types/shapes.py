@@ -42,8 +42,9 @@ def _parts_of(value):
     return None
 
 
-def is_shape(value, arities):
-    """Whether any value is a type that can be passed, where the stamps from 1 on have these arities."""
+def _made_in(value):
+    """The list of the pairs (stamp, number of arguments) in any value, or None if it is no type that can be passed."""
+    found = []
     todo = [value]
     size = 0
     while todo:
@@ -51,27 +52,28 @@ def is_shape(value, arities):
         parts = _parts_of(part)
         size += 1
         if parts is None or size > MAX_SIZE:
-            return False
-        if part[0] == "made" and (part[1] > len(arities) or arities[part[1] - 1] != len(parts)):
-            return False
+            return None
+        if part[0] == "made":
+            found.append((part[1], len(parts)))
         todo.extend(parts)
-    return True
+    return found
+
+
+def is_shape(value, arities):
+    """Whether any value is a type that can be passed, where the stamps from 1 on have these arities."""
+    found = _made_in(value)
+    return found is not None and all([stamp <= len(arities) and arities[stamp - 1] == many for stamp, many in found])
 
 
 def is_loose_shape(value, first_arities, most):
     """Whether any value is a type of some book: each stamp behind the first ones has one arity, not above the most."""
     arities = {stamp: arity for stamp, arity in enumerate(first_arities, start=1)}
-    todo = [value]
-    size = 0
-    while todo:
-        part = todo.pop()
-        parts = _parts_of(part)
-        size += 1
-        if parts is None or size > MAX_SIZE:
+    found = _made_in(value)
+    if found is None:
+        return False
+    for stamp, many in found:
+        if many > most or arities.setdefault(stamp, many) != many:
             return False
-        if part[0] == "made" and (len(parts) > most or arities.setdefault(part[1], len(parts)) != len(parts)):
-            return False
-        todo.extend(parts)
     return True
 
 

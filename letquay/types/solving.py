@@ -4,7 +4,7 @@ from letquay.checks import is_place, is_whole
 from letquay.errors import InvalidNumber, InvalidOperation, InvalidType, NothingToUndo, Refused, TooMany
 from letquay.types.graphs import Graph
 from letquay.types.shapes import MAX_SIZE, children, numbered, replaced, variables_in
-from letquay.types.terms import are_types, check_book, check_marked, is_type, needed_parts
+from letquay.types.terms import admits_with, are_types, asked_variables, check_book, check_marked, is_type
 
 
 def renumbered_together(types):
@@ -180,19 +180,8 @@ def _are_one(T, U, value):
 
 def _admits_put(book, T, value, marked):
     """Whether a type admits equality when a tuple of types is put in."""
-    todo = [(T, False)]
-    while todo:
-        part, inside = todo.pop()
-        part, inside = _with_put(part, inside, value)
-        if part[0] == "var":
-            if part[1] not in marked:
-                return False
-            continue
-        needed = needed_parts(book, part)
-        if needed is None:
-            return False
-        todo.extend([(inner, inside) for inner in needed])
-    return True
+    asked = asked_variables(book, (T,))
+    return asked is not None and all([admits_with(book, value[variable], marked) for variable in asked])
 
 
 def _is_met(book, demand, value, marked):

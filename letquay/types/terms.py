@@ -78,8 +78,8 @@ def put(book, T, types):
     return put_in(T, {variable: types[variable] for variable in variables})
 
 
-def needed_parts(book, T):
-    """The tuple of the parts of a type, no variable, that must admit equality if it does; `None` if it never does."""
+def _needed_parts(book, T):
+    """The parts of a type, no variable, that must admit equality if it does; `None` if it never does."""
     if T[0] == "fn":
         return None
     if T[0] == "tuple":
@@ -88,20 +88,26 @@ def needed_parts(book, T):
     return None if asks is None else tuple([T[2][position] for position in asks])
 
 
-def admits_with(book, T, marked):
-    """Whether a type of the book admits equality, for some marked variables."""
-    todo = [T]
+def asked_variables(book, types):
+    """The ascending tuple of the variables that must be marked if some types admit equality; `None` if one never does."""
+    found = {}
+    todo = list(types)
     while todo:
         part = todo.pop()
         if part[0] == "var":
-            if part[1] not in marked:
-                return False
+            found[part[1]] = True
             continue
-        needed = needed_parts(book, part)
+        needed = _needed_parts(book, part)
         if needed is None:
-            return False
+            return None
         todo.extend(needed)
-    return True
+    return tuple(sorted(found))
+
+
+def admits_with(book, T, marked):
+    """Whether a type of the book admits equality, for some marked variables."""
+    asked = asked_variables(book, (T,))
+    return asked is not None and all([variable in marked for variable in asked])
 
 
 def admits(book, T, *, marked=()):

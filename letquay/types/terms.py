@@ -89,7 +89,7 @@ def _needed_parts(book, T):
 
 
 def asked_variables(book, types):
-    """The ascending tuple of the variables that must be marked if some types admit equality; `None` if one never does."""
+    """The ascending tuple of the variables that must be marked if types admit equality; `None` if one never does."""
     found = {}
     todo = list(types)
     while todo:

@@ -192,6 +192,7 @@ class WrongItemsTest(unittest.TestCase):
 
     def test_makers(self):
         for maker in ((0, INT), (4, ("fn", var(3), var(0))), (1, INT), (2, ("made", 99, (A, B))), (0, sized(300)),
+                      (0, ("made", 99, (INT,) * 4)),
                       (0, ("made", 10 ** 59, ()))):
             self.assertEqual(Face().with_type("t", maker).maker(("t",)), maker)
         for maker in ((0, A), (1, B), (5, INT), (-1, INT), (True, INT), (None, INT), (0, None), (0,), (0, INT, INT), [0, INT],

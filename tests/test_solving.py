@@ -7,6 +7,7 @@ from letquay.errors import (
 )
 from letquay.types.books import Book
 from letquay.types.solving import Solver, is_solution
+from letquay.types.terms import variables_of
 from tests.odd import ODD
 from tests.typing_tools import (
     BOOK, EXN, INT, STRING, UNIT, Oracle, list_of, put_plain, random_type, ref_of, renamed, sampler, size_plain, sized,
@@ -378,6 +379,16 @@ class SolutionTest(unittest.TestCase):
                 (list_of(INT), (), False), ((list_of(ref_of(F)), ref_of(F)), (), True),
                 ((list_of(("made", 1, ())), ("made", True, ())), (), False), ((list_of(var(0)), var(False)), (0,), False)):
             self.assertIs(is_solution(BOOK, demands, value, marked=marked), truth, value)
+
+    def test_each_unlike_pair(self):
+        types = (INT, STRING, UNIT, F, ("tuple", (INT, INT)), ("tuple", (INT, INT, INT)), list_of(INT), ref_of(INT), C, D,
+                 ("made", 7, (INT, INT)), ("fn", F, INT), ("tuple", (INT, STRING)), ("made", 8, (INT,)))
+        for T in types:
+            for U in types:
+                self.assertIs(is_solution(BOOK, (("one", (), A, B),), (T, U)), T == U)
+                self.assertIs(is_solution(BOOK, (("one", (), list_of(A), list_of(B)),), (T, U)), T == U)
+                if variables_of(BOOK, U) == ():
+                    self.assertIs(is_solution(BOOK, (("one", (), A, U),), (T,)), T == U)
 
     def test_odd_values(self):
         for value in ODD:

@@ -209,7 +209,7 @@ def _node_items(tree, sort, row):
 
 def _string_text(value):
     inside = value.replace("\\", "\\\\").replace("\"", "\\\"")
-    return f"\"{inside}\""
+    return "\"" + inside + "\""
 
 
 def _leaf_text(value, sort):

@@ -20,7 +20,7 @@ class Reading:
         self.at = 0
         self.held = []
         self.marks = []
-        self.opened = 0
+        self.many_open = 0
 
     def next_kind(self):
         """The kind of the next token."""
@@ -41,8 +41,8 @@ class Reading:
 
     def enter(self):
         """Open the next token."""
-        self.opened += 1
-        if self.opened > MOST_OPEN:
+        self.many_open += 1
+        if self.many_open > MOST_OPEN:
             raise ParseError(self.next_spot())
 
     def take_last(self, many):
@@ -105,7 +105,7 @@ def _act(reading, action):
     elif word == "in":
         reading.enter()
     elif word == "out":
-        reading.opened -= 1
+        reading.many_open -= 1
     elif word == "mark":
         reading.marks.append(len(reading.held))
     elif word == "unmark":

@@ -279,7 +279,34 @@ class NamesTest(unittest.TestCase):
                     self.assertEqual(node.decorator_list, [], where(module, node))
 
 
+def lengths_of_ranges(trees):
+    """The `len(range(..))` in a `__len__` of a class that is iterated over, or beside a `__getitem__` in the package."""
+    classes = [node for tree in trees for node in ast.walk(tree) if isinstance(node, ast.ClassDef)]
+    methods = {node: {entry.name: entry for entry in node.body if isinstance(entry, ast.FunctionDef)} for node in classes}
+    indexed = any("__getitem__" in found for found in methods.values())
+    names = {node.name: node for node in classes}
+
+    def has_iter(node):
+        return "__iter__" in methods[node] or any(
+            has_iter(names[base.id]) for base in node.bases if isinstance(base, ast.Name) and base.id in names)
+    return [
+        inner for node in classes if "__len__" in methods[node] and (indexed or has_iter(node))
+        for inner in ast.walk(methods[node]["__len__"])
+        if isinstance(inner, ast.Call) and ast.unparse(inner).startswith("len(range(")]
+
+
 class CallsTest(unittest.TestCase):
+    def test_no_length_of_a_range_beside_iteration(self):
+        self.assertEqual([ast.unparse(node) for node in lengths_of_ranges(TREES.values())], [])
+        length = "def __len__(self):\n  return len(range(self.many))\n "
+        fine = length.replace("range(self.many)", "list(range(self.many))")
+        walked = "def __iter__(self):\n  return iter(self.rows)\n"
+        for text, many in (
+                (f"class A:\n {length}{walked}", 1), (f"class A:\n {fine}{walked}", 0), (f"class A:\n {length}", 0),
+                (f"class A:\n {walked}\nclass B(A):\n {length}", 1),
+                (f"class A:\n {length}\nclass B:\n def __getitem__(self, at):\n  return 1", 1)):
+            self.assertEqual(len(lengths_of_ranges([ast.parse(text)])), many, text)
+
     def test_no_generators(self):
         for module, node in nodes(ast.GeneratorExp):
             self.fail(where(module, node))

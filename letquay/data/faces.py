@@ -226,7 +226,7 @@ class Face:
         return isinstance(other, Face) and self._table == other._table
 
     def __len__(self):
-        return len(range(self._many))
+        return len(list(range(self._many)))
 
     def __str__(self):
         return f"face of {self._many} items"

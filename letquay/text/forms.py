@@ -136,22 +136,43 @@ def is_literal_string(value):
     return all([" " <= letter <= "~" for letter in value])
 
 
-def is_leaf(sort, value):
-    """Whether the value is a part of this sort, one without nodes in it."""
-    if sort == "low":
-        return is_low(value)
-    if sort == "high":
-        return is_high(value)
-    if sort == "low path":
-        return is_low_path(value)
-    if sort == "high path":
-        return is_high_path(value)
-    if sort == "type path":
-        return is_type_path(value)
-    if sort == "integer":
-        return is_literal_integer(value)
-    if sort == "string":
-        return is_literal_string(value)
-    if sort == "operator":
-        return isinstance(value, str) and (value in ONE_OPERAND or value in TWO_OPERANDS)
+def _is_operator(value):
+    return isinstance(value, str) and (value in ONE_OPERAND or value in TWO_OPERANDS)
+
+
+def _is_boolean(value):
     return isinstance(value, bool)
+
+
+LEAF_TESTS = {
+    "low": is_low,
+    "high": is_high,
+    "low path": is_low_path,
+    "high path": is_high_path,
+    "type path": is_type_path,
+    "integer": is_literal_integer,
+    "string": is_literal_string,
+    "operator": _is_operator,
+    "boolean": _is_boolean,
+}
+
+
+def _are_strings(values):
+    return all([isinstance(value, str) for value in values])
+
+
+def _are_short_paths(values):
+    """Whether the values are tuples of one string."""
+    if not all([isinstance(value, tuple) and len(value) == 1 for value in values]):
+        return False
+    return _are_strings([value[0] for value in values])
+
+
+def are_leaves(sort, values):
+    """Whether values are parts of this sort, one without nodes in it; equal names are looked at once."""
+    test = LEAF_TESTS[sort]
+    if sort in ("low", "high", "operator") and _are_strings(values):
+        return all([test(value) for value in sorted(set(values))])
+    if sort in ("low path", "high path", "type path") and _are_short_paths(values):
+        return all([test((name,)) for name in sorted(set([value[0] for value in values]))])
+    return all([test(value) for value in values])

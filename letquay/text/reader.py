@@ -1,6 +1,7 @@
 """Reading: the tree with a text, by the table of the grammar.
 
-What is still to be read stands in a list, the next symbol last, so that no text is too deep to be read.
+What is still to be read stands in a list, the next item last, so that no text is too deep to be read. An item is a
+kind of token, rules one behind the other with blanks between them, or an action as a pair (word, count).
 """
 
 from letquay.errors import ParseError
@@ -12,8 +13,55 @@ from letquay.text.trees import is_tree
 MOST_OPEN = 60
 
 
+def _action(symbol):
+    """An action of the grammar as a pair; the count is 0 where there is none."""
+    word, slash, count = symbol[1:].partition("/")
+    return (word, int(count)) if slash else (symbol[1:], 0)
+
+
+def _items(symbols):
+    """The items of symbols, the next one last, where rules that stand side by side are one item."""
+    found = []
+    rules = ""
+    for symbol in symbols:
+        if symbol[0] in HIGH_LETTERS:
+            rules = f"{rules} {symbol}" if rules else symbol
+            continue
+        if rules:
+            found.append(rules)
+            rules = ""
+        found.append(_action(symbol) if symbol[0] == "@" else symbol)
+    if rules:
+        found.append(rules)
+    return found[::-1]
+
+
+def _expanded(rules, kind):
+    """The items that stand for rules at a kind of token, the next one last, or None if no text has this token there.
+
+    Nothing is read ahead of the first token, so rules ahead of it are expanded too.
+    """
+    ahead = []
+    todo = rules.split()[::-1]
+    while todo and (todo[-1][0] == "@" or todo[-1][0] in HIGH_LETTERS):
+        symbol = todo.pop()
+        if symbol[0] == "@":
+            ahead.append(_action(symbol))
+            continue
+        line = RULES.get(f"{symbol} {kind}")
+        if line is None:
+            line = RULES.get(symbol)
+        if line is None:
+            return None
+        todo.extend(line.split()[::-1])
+    return [*_items(todo[::-1]), *ahead[::-1]]
+
+
 class Reading:
-    """A text that is being read: what has been read so far, and how many tokens are open."""
+    """A text that is being read: what has been read so far, and how many tokens are open.
+
+    What stands for rules at a kind of token is looked up once: `lines` has a dict by rules for each kind.
+    """
 
     def __init__(self, text):
         self.tokens = tokens_of(text)
@@ -21,29 +69,17 @@ class Reading:
         self.held = []
         self.marks = []
         self.many_open = 0
+        self.lines = {}
 
-    def next_kind(self):
-        """The kind of the next token."""
-        return self.tokens[self.at][0]
-
-    def next_spot(self):
+    def spot(self):
         """The index at which the next token begins."""
         return self.tokens[self.at][2]
-
-    def take(self, kind):
-        """Read the next token, which must be of a kind."""
-        if self.next_kind() != kind:
-            raise ParseError(self.next_spot())
-        worth = self.tokens[self.at][1]
-        if worth is not None:
-            self.held.append(worth)
-        self.at += 1
 
     def enter(self):
         """Open the next token."""
         self.many_open += 1
         if self.many_open > MOST_OPEN:
-            raise ParseError(self.next_spot())
+            raise ParseError(self.spot())
 
     def take_last(self, many):
         """Take away the last values, as a tuple."""
@@ -59,6 +95,35 @@ class Reading:
     def push(self, worth):
         """Hold a value more."""
         self.held.append(worth)
+
+    def line_at(self, rules, kind):
+        """The items that stand for rules at the next token, which is of a kind."""
+        known = self.lines.setdefault(kind, {})
+        if rules not in known:
+            known[rules] = _expanded(rules, kind)
+        if known[rules] is None:
+            raise ParseError(self.spot())
+        return known[rules]
+
+    def run(self, rule):
+        """Read the whole text by a rule, and give back its tree."""
+        todo = ["end of text", rule]
+        kind, worth, _ = self.tokens[0]
+        while todo:
+            item = todo.pop()
+            if item == kind:
+                if worth is not None:
+                    self.held.append(worth)
+                self.at += 1
+                if todo:
+                    kind, worth, _ = self.tokens[self.at]
+            elif isinstance(item, tuple):
+                _act(self, item[0], item[1])
+            elif item[0] in HIGH_LETTERS:
+                todo.extend(self.line_at(item, kind))
+            else:
+                raise ParseError(self.spot())
+        return self.held[0]
 
 
 def _one_or_tuple(found):
@@ -96,12 +161,11 @@ def _act_on_parts(reading, word):
         reading.push(("con", ("Cons",), ("tuple", reading.take_last(2))))
 
 
-def _act(reading, action):
-    """Do an action of the grammar, without the sign ahead of it."""
-    word, slash, count = action.partition("/")
-    lead, _, rest = action.partition("-")
-    if slash:
-        reading.push((word, *reading.take_last(int(count))))
+def _act(reading, word, count):
+    """Do an action of the grammar: with a count, or a 0 that stands there, it makes a node of so many values."""
+    lead, _, rest = word.partition("-")
+    if count > 0 or word == "any":
+        reading.push((word, *reading.take_last(count)))
     elif word == "in":
         reading.enter()
     elif word == "out":
@@ -120,30 +184,11 @@ def _act(reading, action):
         _act_on_parts(reading, word)
 
 
-def _line_of(rule, kind):
-    """What stands for a rule at a kind of token, or None."""
-    line = RULES.get(f"{rule} {kind}")
-    return RULES.get(rule) if line is None else line
-
-
 def _read(text, rule, sort):
     """The tree of a sort with a text, by a rule of the grammar."""
     if not isinstance(text, str):
         raise ParseError(None)
-    reading = Reading(text)
-    todo = ["end of text", rule]
-    while todo:
-        symbol = todo.pop()
-        if symbol[0] == "@":
-            _act(reading, symbol[1:])
-        elif symbol[0] in HIGH_LETTERS:
-            line = _line_of(symbol, reading.next_kind())
-            if line is None:
-                raise ParseError(reading.next_spot())
-            todo.extend(line.split()[::-1])
-        else:
-            reading.take(symbol)
-    tree = reading.held[0]
+    tree = Reading(text).run(rule)
     if not is_tree(tree, sort):
         raise ParseError(len(text))
     return tree

@@ -5,6 +5,9 @@ from letquay.text.names import DIGITS, HIGH_LETTERS, KEYWORDS, LOW_LETTERS, is_h
 
 LONG_SIGNS = (":>", "=>", "->", ":=", "::")
 SHORT_SIGNS = "()[],;:=|_.*+-<^!"
+# With these a longer sign begins.
+LEADING_SIGNS = ":=-"
+RUN_LETTERS = LOW_LETTERS + HIGH_LETTERS + DIGITS
 # More digits than any integer of 63 bits has.
 MANY_DIGITS = 20
 
@@ -15,7 +18,7 @@ MANY_DIGITS = 20
 def _run_end(text, start):
     """Where the letters and digits end that begin at an index."""
     at = start
-    while at < len(text) and (text[at] in LOW_LETTERS or text[at] in HIGH_LETTERS or text[at] in DIGITS):
+    while at < len(text) and text[at] in RUN_LETTERS:
         at += 1
     return at
 
@@ -29,19 +32,27 @@ def _number_of(digits):
     return int(digits)
 
 
-def _word_token(text, start):
-    end = _run_end(text, start)
-    run = text[start:end]
+def _word_of(run):
+    """The pair (kind, value) of a run of letters and digits."""
     if run in KEYWORDS:
-        return (run, None, start), end
+        return run, None
     if is_low(run):
-        return ("low", run, start), end
+        return "low", run
     if is_high(run):
-        return ("high", run, start), end
+        return "high", run
     number = _number_of(run)
     if number is None or number > GREATEST_INTEGER:
-        return ("none", None, start), end
-    return ("number", number, start), end
+        return "none", None
+    return "number", number
+
+
+def _word_token(text, start, words):
+    """A token, where `words` has what is already known of runs."""
+    end = _run_end(text, start)
+    run = text[start:end]
+    if run not in words:
+        words[run] = _word_of(run)
+    return (*words[run], start), end
 
 
 def _negative_token(text, start):
@@ -78,18 +89,18 @@ def _string_token(text, start):
 
 
 def _sign_token(text, start):
-    if text[start:start + 2] in LONG_SIGNS:
+    if text[start] in LEADING_SIGNS and text[start:start + 2] in LONG_SIGNS:
         return (text[start:start + 2], None, start), start + 2
     if text[start] in SHORT_SIGNS:
         return (text[start], None, start), start + 1
     return ("none", None, start), start
 
 
-def _token_at(text, start):
+def _token_at(text, start, words):
     """The token that begins at an index, and the index behind it."""
     letter = text[start]
-    if letter in LOW_LETTERS or letter in HIGH_LETTERS or letter in DIGITS:
-        return _word_token(text, start)
+    if letter in RUN_LETTERS:
+        return _word_token(text, start, words)
     if letter == "~":
         return _negative_token(text, start)
     if letter == "'":
@@ -102,12 +113,13 @@ def _token_at(text, start):
 def tokens_of(text):
     """The list of the tokens of a text; the last one is its end, or the first thing that is no token."""
     found = []
+    words = {}
     at = 0
     while at < len(text):
         if text[at] in " \n":
             at += 1
             continue
-        token, at = _token_at(text, at)
+        token, at = _token_at(text, at, words)
         found.append(token)
         if token[0] == "none":
             return found

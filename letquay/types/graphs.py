@@ -6,7 +6,8 @@ of a variable among them, or `None`; `must` tells whether they must admit equali
 parts as well. Nodes are never changed but replaced, so that the old one can be kept for taking the step back.
 """
 
-from letquay.types.shapes import MAX_SIZE, children, with_children
+from letquay.errors import Refused, TooMany
+from letquay.types.shapes import MAX_SIZE, children, numbered, replaced, variables_in, with_children
 
 MUST = 4
 
@@ -62,6 +63,10 @@ class Graph:
     def add_variable(self, number, must):
         """The node of a new variable."""
         return self._add(None, (), number, must)
+
+    def add_made(self, word, own, parts):
+        """The node of a type of other nodes: with a stamp of its own, or else the number of the parts."""
+        return self._add((word, own), parts, None, False)
 
     def add_type(self, T, variables):
         """The node of a type, where the variable n is the node `variables[n]`."""
@@ -203,7 +208,58 @@ class Graph:
                 todo.extend([(part, False) for part in parts[::-1]])
         return done[0]
 
+    def variables_below(self, start):
+        """The dict of the pairs (root, number) of the variables that stand in the type of a node."""
+        found = {}
+        seen = {}
+        todo = [start]
+        while todo:
+            index = self.root(todo.pop())
+            if index in seen:
+                continue
+            seen[index] = True
+            _, head, parts, least, _, _ = self.nodes[index]
+            if head is None:
+                found[index] = least
+            todo.extend(parts)
+        return found
+
+    def number_of(self, index):
+        """The least number of the variables that are one with a node, or `None`."""
+        return self.nodes[self.root(index)][3]
+
     def free_and_marked(self, index):
         """Whether a node is a variable without a type put in, that must admit equality."""
         _, head, _, _, must, _ = self.nodes[self.root(index)]
         return head is None and must
+
+
+def renumbered_together(types):
+    """The types with their variables renamed to 0, 1, .. in the order in which they first stand in all of them."""
+    images = numbered(variables_in(("tuple", types)))
+    return tuple([replaced(T, images) for T in types])
+
+
+def refuse(graph, word, place, nodes):
+    """Refuse a demand with the types that some nodes have in the graph."""
+    if any([graph.is_great(node) for node in nodes]):
+        raise TooMany(MAX_SIZE)
+    raise Refused((word, place, *renumbered_together(tuple([graph.type_at(node) for node in nodes]))))
+
+
+def check_size(graph, node):
+    """Raise an error if the type of a node is too great."""
+    if graph.is_great(node):
+        raise TooMany(MAX_SIZE)
+
+
+def demand_one(graph, place, one, other):
+    """Let two nodes become one; the graph is not taken back if this is refused."""
+    moment = graph.moment()
+    late = graph.unite(one, other)
+    if late is None or not graph.is_finite(one):
+        graph.back(moment)
+        refuse(graph, "clash" if late is None else "endless", place, (one, other))
+    if not graph.demand_of_parts(late):
+        refuse(graph, "unequal", place, (one,))
+    check_size(graph, one)

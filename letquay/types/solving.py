@@ -2,15 +2,9 @@
 
 from letquay.checks import is_place, is_whole
 from letquay.errors import InvalidNumber, InvalidOperation, InvalidType, NothingToUndo, Refused, TooMany
-from letquay.types.graphs import Graph
-from letquay.types.shapes import MAX_SIZE, children, numbered, replaced, variables_in
+from letquay.types.graphs import Graph, check_size, demand_one, refuse
+from letquay.types.shapes import MAX_SIZE, children, variables_in
 from letquay.types.terms import admits_with, are_types, asked_variables, check_book, check_marked, is_type
-
-
-def renumbered_together(types):
-    """The types with their variables renamed to 0, 1, .. in the order in which they first stand in all of them."""
-    images = numbered(variables_in(("tuple", types)))
-    return tuple([replaced(T, images) for T in types])
 
 
 class Solver:
@@ -44,20 +38,7 @@ class Solver:
         self._note(("fresh", marked), moment)
         return ("var", number)
 
-    def _refuse(self, word, place, nodes, moment):
-        """Refuse a demand with the types of some nodes, and take it back to a moment."""
-        great = any([self._graph.is_great(node) for node in nodes])
-        types = () if great else tuple([self._graph.type_at(node) for node in nodes])
-        self._graph.back(moment)
-        if great:
-            raise TooMany(MAX_SIZE)
-        raise Refused((word, place, *renumbered_together(types)))
-
-    def _keep(self, demand, node, moment):
-        """Keep a demand, unless its type has become too great."""
-        if self._graph.is_great(node):
-            self._graph.back(moment)
-            raise TooMany(MAX_SIZE)
+    def _keep(self, demand, moment):
         self._demands.append(demand)
         self._note(demand, moment)
         return True
@@ -71,14 +52,12 @@ class Solver:
         moment = self._graph.moment()
         one = self._graph.add_type(T, self._variables)
         other = self._graph.add_type(U, self._variables)
-        apart = self._graph.moment()
-        late = self._graph.unite(one, other)
-        if late is None or not self._graph.is_finite(one):
-            self._graph.back(apart)
-            self._refuse("clash" if late is None else "endless", place, (one, other), moment)
-        if not self._graph.demand_of_parts(late):
-            self._refuse("unequal", place, (one,), moment)
-        return self._keep(("one", place, T, U), one, moment)
+        try:
+            demand_one(self._graph, place, one, other)
+        except (Refused, TooMany):
+            self._graph.back(moment)
+            raise
+        return self._keep(("one", place, T, U), moment)
 
     def admit(self, place, T):
         """Demand that a type admits equality."""
@@ -87,9 +66,14 @@ class Solver:
         self._check_type(T)
         moment = self._graph.moment()
         node = self._graph.add_type(T, self._variables)
-        if not self._graph.demand(node):
-            self._refuse("unequal", place, (node,), moment)
-        return self._keep(("equal", place, T), node, moment)
+        try:
+            if not self._graph.demand(node):
+                refuse(self._graph, "unequal", place, (node,))
+            check_size(self._graph, node)
+        except (Refused, TooMany):
+            self._graph.back(moment)
+            raise
+        return self._keep(("equal", place, T), moment)
 
     def solved(self, T):
         """The type by the most general solution."""

@@ -1,0 +1,1 @@
+"""Matches: what rows meet, what they leave out, and trees of tests."""

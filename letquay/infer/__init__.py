@@ -1,0 +1,1 @@
+"""Typing of expressions and of declarations of values."""

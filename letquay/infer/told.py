@@ -1,0 +1,56 @@
+"""Telling: the derivation of a walk, with the types of the solution of all its demands."""
+
+from letquay.types.graphs import check_size
+from letquay.types.shapes import replaced, variables_in
+
+
+class Telling:
+    """New numbers for the variables of a walk, in the order in which they first stand in its derivation."""
+
+    def __init__(self, walk):
+        self.walk = walk
+        self.numbers = {}
+        self.marked = {}
+
+    def _number(self, T):
+        """Give numbers to the variables of a type that have none."""
+        graph = self.walk.graph
+        for variable in variables_in(T):
+            if variable not in self.numbers:
+                self.numbers[variable] = len(self.numbers)
+                self.marked[self.numbers[variable]] = graph.free_and_marked(self.walk.variables[variable])
+
+    def type_of(self, node):
+        """The type of a node, with the new numbers."""
+        check_size(self.walk.graph, node)
+        T = self.walk.graph.type_at(node)
+        self._number(T)
+        return replaced(T, {variable: ("var", self.numbers[variable]) for variable in variables_in(T)})
+
+    def put_in(self, pairs):
+        """The tuple of the types that are put in, those for a local name in the order of its new numbers."""
+        nodes = [(k if number is None else self.numbers[number], node) for k, (number, node) in enumerate(pairs)]
+        return tuple([self.type_of(node) for _, node in sorted(nodes)])
+
+    def general(self, roots):
+        """The ascending tuple of the new numbers of generalized variables."""
+        return tuple(sorted([self.numbers[self.walk.graph.number_of(root)] for root in roots]))
+
+
+def derivation_of(telling):
+    """The told derivation of a walk."""
+    walk = telling.walk
+    rows = []
+    for place in sorted(walk.nodes):
+        T = telling.type_of(walk.nodes[place])
+        rows.append((place, T, telling.put_in(walk.put_in.get(place, []))))
+    # The numbers of a let stand ahead of the rows in which its variables get them.
+    told = [(place, T, telling.general(walk.general[place]) if place in walk.general else more)
+            for place, T, more in rows]
+    return tuple(told), tuple([number for number, marked in telling.marked.items() if marked])
+
+
+def cases_with(telling):
+    """The rows of all matches of a walk, ascending by places, with their types."""
+    cases = {place: (node, rows) for place, node, rows in telling.walk.cases}
+    return tuple([(place, telling.type_of(cases[place][0]), cases[place][1]) for place in sorted(cases)])

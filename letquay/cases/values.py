@@ -167,10 +167,12 @@ def _parts_of_value(kinds, value, kind):
         return None if members is None else list(zip(members, kinds_inside))
     if has_form(value, "thing", 1):
         return [] if sort in ("thing", "exn") else None
-    if sort == "data" and has_form(value, "con", 3):
-        if not is_high(value[1]) or value[1] not in kinds.constructors(kind):
+    if sort == "data":
+        if not has_form(value, "con", 3) or not is_high(value[1]) or value[1] not in kinds.constructors(kind):
             return None
-    elif sort != "exn" or not has_form(value, "exn", 3) or not is_high_path(value[1]) or not kinds.is_exception(value[1]):
+    elif sort != "exn" or not has_form(value, "exn", 3):
+        return None
+    elif not is_high_path(value[1]) or not kinds.is_exception(value[1]):
         return None
     under = kinds.under(kind, value[1])
     if under is None or value[2] is None:

@@ -262,6 +262,14 @@ class NamesTest(unittest.TestCase):
                 self.returns(module, entry)
         self.assertFalse(plain & decorated, plain & decorated)
 
+    def test_no_name_is_an_attribute_and_a_method_or_property(self):
+        """Stricter than the rules, which let this in unlike classes where nothing else stands against it."""
+        inside = [entry for _, node in nodes(ast.ClassDef) for entry in node.body if isinstance(entry, ast.FunctionDef)]
+        methods = {entry.name for entry in inside if not entry.decorator_list}
+        decorated = {entry.name for entry in inside if entry.decorator_list}
+        stored = {node.attr for _, node in nodes(ast.Attribute) if isinstance(node.ctx, ast.Store)}
+        self.assertEqual((stored & methods, stored & decorated, methods & decorated), (set(), set(), set()))
+
     def returns(self, module, method):
         if method.name in ("__len__", "__str__", "__repr__"):
             self.assertIsInstance(method.body[-1], ast.Return, where(module, method))

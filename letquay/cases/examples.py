@@ -37,12 +37,12 @@ class Examples:
         """The pair of what must be known ahead, or None, and of a value, or None if there is none."""
         sort = self.kinds.sort(kind)
         if sort == "tuple":
-            return self._tuple(kind, deep)
+            return self._of_tuple(kind, deep)
         if sort == "data":
-            return self._data(kind, deep)
+            return self._of_data(kind, deep)
         return None, {"int": 0, "string": ""}.get(sort, ("thing",))
 
-    def _data(self, kind, deep):
+    def _of_data(self, kind, deep):
         for name, under in self.kinds.constructors(kind).items():
             if under is None:
                 return None, ("con", name, None)
@@ -52,7 +52,7 @@ class Examples:
                 return None, ("con", name, self.known[(under, deep - 1)])
         return None, None
 
-    def _tuple(self, kind, deep):
+    def _of_tuple(self, kind, deep):
         members = []
         for member in self.kinds.members(kind):
             if (member, deep) not in self.known:

@@ -55,7 +55,7 @@ class Making:
         self.todo = []
         self.done = []
 
-    def made(self, left):
+    def make(self, left):
         """The tree for what is left."""
         self.todo.append(("rows", left))
         while self.todo:

@@ -15,7 +15,7 @@ MAX_TREE = 2000
 def tree_of(book, face, T, rows):
     """A right tree for rows."""
     kinds, kind, found = matched_rows(book, face, T, rows)
-    return Making(kinds, kind, rows, MAX_TREE).made(left_of(found))
+    return Making(kinds, kind, rows, MAX_TREE).make(left_of(found))
 
 
 def is_tree_of(book, face, T, rows, value):

@@ -8,7 +8,7 @@ from letquay.text.forms import SEQUENCES
 from letquay.text.names import is_high, is_high_path, is_low, is_low_path, is_type_path
 from letquay.types.books import FIRST_ROWS, MAX_ARITY, is_arity
 from letquay.types.schemes import Scheme
-from letquay.types.shapes import greatest_in, is_loose_shape, variables_in
+from letquay.types.shapes import MAX_SIZE, greatest_in, is_loose_shape, variables_in, with_makers
 
 MAX_ITEMS = 2000
 
@@ -43,7 +43,8 @@ def _is_free_type(value, count):
     return is_loose_shape(value, first, MAX_ARITY) and all([number < count for number in variables_in(value)])
 
 
-def _is_maker(value):
+def is_maker(value):
+    """Whether the value is a maker, whatever stamps are in it."""
     if not isinstance(value, tuple) or len(value) != 2 or not is_arity(value[0]):
         return False
     return _is_free_type(value[1], value[0])
@@ -56,6 +57,30 @@ def _is_index(value):
 def _rival(kind, name):
     """The key of the item that an item of this kind and name hides, it may be of another kind."""
     return RIVALS.get(kind, kind), name
+
+
+def _bounded(worth):
+    if worth is None:
+        raise TooMany(MAX_SIZE)
+    return worth
+
+
+def _changed(kind, worth, makers):
+    """What becomes of an item where types of some stamps are those of their makers, and the greatest stamp in it."""
+    if kind == "value":
+        scheme = _bounded(worth.with_makers(makers))
+        return scheme, greatest_in(scheme.body)
+    if kind == "type":
+        T = _bounded(with_makers(worth[1], makers))
+        return (worth[0], T), greatest_in(T)
+    if kind == "structure":
+        face = worth.with_makers(makers)
+        return face, face.greatest
+    if kind == "constructor":
+        stamp = makers[worth[0]][1][1] if worth[0] in makers else worth[0]
+        return (stamp, worth[1]), stamp
+    carried = None if worth is None else _bounded(with_makers(worth, makers))
+    return carried, 0 if carried is None else greatest_in(carried)
 
 
 class Face:
@@ -129,7 +154,7 @@ class Face:
         """The face with a type."""
         if not is_low(name):
             raise InvalidOperation("this is no name of a type")
-        if not _is_maker(maker):
+        if not is_maker(maker):
             raise InvalidType("this is no maker")
         return self._with_item("type", name, maker, greatest_in(maker[1]), 1)
 
@@ -167,6 +192,18 @@ class Face:
         for kind, name in other._keys:
             table.pop(_rival(kind, name), None)
             table[(kind, name)] = other._table[(kind, name)]
+        return self._with_table(table)
+
+    def with_makers(self, makers):
+        """The face in which the types of some stamps are those of their makers: `TooMany` if a type gets too great.
+
+        For stamps with constructors these are makers of stamps.
+        """
+        least = min(makers, default=0)
+        table = {}
+        for key in self._keys:
+            row = self._table[key]
+            table[key] = row if row[1] < least or not makers else (*_changed(key[0], row[0], makers), row[2])
         return self._with_table(table)
 
     def _found(self, path, kinds):

@@ -38,12 +38,6 @@ def check_draft(book, draft):
         raise InvalidOperation("this is no draft for the book")
 
 
-def _extended(book, draft, asks):
-    """The pair of the book with the stamps of a draft, and of these, where the rows ask something."""
-    rows = [(row[0], row[1], asked, row[2]) for row, asked in zip(draft, asks)]
-    return book.with_stamps(tuple(rows))
-
-
 def asked_in(book, T):
     """The ascending tuple of the asked variables of a type, or `None` if it is never equal."""
     check_type(book, T)
@@ -55,21 +49,33 @@ def carried_types(constructors):
     return [pair[1] for pair in constructors if pair[1] is not None]
 
 
-def least_asks(book, draft):
-    """The asks of the rows of a draft: they ask nothing at first, and then whatever must be asked for that."""
+def with_least_asks(book, rows):
+    """The pair of the book with rows (printed, arity, asks, constructors), and of their stamps.
+
+    The asks of those with constructors are the least ones: they ask nothing at first, and then whatever must be asked
+    for that.
+    """
     asks = None
-    wanted = tuple([() for _ in draft])
+    wanted = [row[2] if row[3] is None else () for row in rows]
+    extended, stamps = None, None
     while asks != wanted:
         asks = wanted
-        trial, _ = _extended(book, draft, asks)
-        wanted = tuple([asked_variables(trial, carried_types(row[2])) for row in draft])
-    return asks
+        asking = [(row[0], row[1], asked, row[3]) for row, asked in zip(rows, asks)]
+        extended, stamps = book.with_stamps(tuple(asking))
+        wanted = [row[2] if row[3] is None else asked_variables(extended, carried_types(row[3])) for row in rows]
+    return extended, stamps
+
+
+def _with_draft(book, draft):
+    """The pair of the book with the stamps of a draft, and of these."""
+    return with_least_asks(book, [(row[0], row[1], None, row[2]) for row in draft])
 
 
 def asks_of(book, draft):
     """The tuple of the asks of the rows of a draft."""
     check_draft(book, draft)
-    return least_asks(book, draft)
+    extended, stamps = _with_draft(book, draft)
+    return tuple([extended.asks(stamp) for stamp in stamps])
 
 
 def _stamps_below(book, types):
@@ -161,10 +167,6 @@ def _least_sets(stamp, arity, alive):
     return tuple(sorted([_positions(mask) for mask in least]))
 
 
-def _all_carried(draft):
-    return [T for row in draft for T in carried_types(row[2])]
-
-
 def _made_types(book, stamps):
     """A type of each stamp."""
     return [("made", stamp, tuple([("var", k) for k in range(book.arity(stamp))])) for stamp in stamps]
@@ -173,18 +175,24 @@ def _made_types(book, stamps):
 def sets_of(book, draft):
     """For each row of a draft the least sets with which its stamp lives."""
     check_draft(book, draft)
-    extended, stamps = _extended(book, draft, [() for _ in draft])
+    extended, stamps = _with_draft(book, draft)
     alive = living_sets(extended, _made_types(extended, stamps))
     return tuple([_least_sets(stamp, extended.arity(stamp), alive) for stamp in stamps])
 
 
+def empty_ones(book, stamps):
+    """The list of the indices of those of some stamps with constructors that do not live with all their parameters."""
+    alive = living_sets(book, _made_types(book, stamps))
+    full = [(1 << book.arity(stamp)) - 1 for stamp in stamps]
+    return [
+        row for row, stamp in enumerate(stamps)
+        if book.constructors(stamp) is not None and (stamp, full[row]) not in alive]
+
+
 def extended_by(book, draft):
     """The triple of the book with the stamps of a draft, of these, and of the list of the rows without values."""
-    extended, stamps = _extended(book, draft, least_asks(book, draft))
-    alive = living_sets(extended, _made_types(extended, stamps))
-    full = [(1 << extended.arity(stamp)) - 1 for stamp in stamps]
-    empty = [row for row, stamp in enumerate(stamps) if (stamp, full[row]) not in alive]
-    return extended, stamps, empty
+    extended, stamps = _with_draft(book, draft)
+    return extended, stamps, empty_ones(extended, stamps)
 
 
 def with_draft(book, draft):

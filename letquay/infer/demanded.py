@@ -17,7 +17,7 @@ def demands_of(book, face, tree):
     try:
         expression(walk, tree, (), {})
     except Refused:
-        return tuple(walk.demands)
+        return tuple(walk.told_demands)
     # A type of the derivation that is too great is told here, too.
     derivation_of(Telling(walk))
-    return tuple(walk.demands)
+    return tuple(walk.told_demands)

@@ -48,12 +48,12 @@ class Judge:
     def __init__(self, book, found, rows, marked):
         self.book = book
         self.found = found
-        self.marked = marked
-        self.types = {place: T for place, T, _ in rows}
+        self.admitting = marked
+        self.given = {place: T for place, T, _ in rows}
         self.lines = {place: outline(T) for place, T, _ in rows}
         self.more = {place: more for place, _, more in rows}
 
-    def put_in(self, place, many):
+    def lines_put_in(self, place, many):
         """The outlines of the types that are put in at a place, or None if there are not so many."""
         more = self.more[place]
         if len(more) != many or not all([is_shape(T, self.book.arities) for T in more]):
@@ -62,18 +62,18 @@ class Judge:
 
     def is_instance(self, place, line, numbers, marks):
         """Whether the type at a place is one with the types at it put in for some variables, some of them marked."""
-        images = self.put_in(place, len(numbers))
+        images = self.lines_put_in(place, len(numbers))
         if images is None:
             return False
         for number, T in zip(numbers, self.more[place]):
-            if number in marks and not admits_with(self.book, T, self.marked):
+            if number in marks and not admits_with(self.book, T, self.admitting):
                 return False
         put = {number: image for number, image in zip(numbers, images)}
         return line_put(line, put) == self.lines[place]
 
     def admits(self, place):
         """Whether the type at a place admits equality."""
-        return admits_with(self.book, self.types[place], self.marked)
+        return admits_with(self.book, self.given[place], self.admitting)
 
     def is_generalized(self, place, bound, names, final):
         """Whether what is generalized at a place, for bound names, can be; `names` has the locals that it can see."""
@@ -92,14 +92,15 @@ class Judge:
 def _with_general(bound, more):
     """The locals for bound outlines: pairs of the outline and the tuple of its generalized variables."""
     return {
-        name: (line, tuple([number for number in more if number in variables_on(line)])) for name, line in bound.items()}
+        name: (line, tuple([number for number in more if number in variables_on(line)]))
+        for name, line in bound.items()}
 
 
 def _con_lines(judge, place):
     """The outlines of the type of a constructor or exception, and of what it carries or None; None if it is wrong."""
     kind, *rest = judge.found[place]
     many = 0 if kind == "exn" else judge.book.arity(rest[0])
-    images = judge.put_in(place, many)
+    images = judge.lines_put_in(place, many)
     if images is None:
         return None
     if kind == "exn":
@@ -217,7 +218,7 @@ def _name(judge, tree, place, names):
     path = tree[1]
     if len(path) == 1 and path[0] in names:
         line, general = names[path[0]]
-        return judge.is_instance(place, line, general, judge.marked)
+        return judge.is_instance(place, line, general, judge.admitting)
     scheme = judge.found[place]
     return judge.is_instance(place, outline(scheme.body), tuple(range(scheme.total)), scheme.marks)
 

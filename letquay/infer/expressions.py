@@ -34,12 +34,16 @@ class Typing:
 
     def __init__(self, book, derivation, body, *, cases, scheme=None, names=None):
         self.body = body
-        self.marked = derivation[1]
         self.derivation = derivation
         self.scheme = scheme
         self.cases = cases
         self._names = {} if names is None else names
-        self._text = text_with(book, body, self.marked)
+        self._text = text_with(book, body, derivation[1])
+
+    @property
+    def marked(self):
+        """The ascending tuple of the variables that must admit equality."""
+        return self.derivation[1]
 
     @property
     def names(self):

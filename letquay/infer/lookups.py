@@ -13,7 +13,7 @@ class Lookup:
 
     def __init__(self, face):
         self.face = face
-        self.types = Names(face, {}, {})
+        self.type_names = Names(face, {}, {})
         self.found = {}
         self.places = []
 
@@ -98,7 +98,7 @@ def look_at_expression(look, book, tree, place, local):
     for steps, part in plain_parts(tree):
         look_at_expression(look, book, part, (*place, *steps), local)
     if word == "typed":
-        look.found[(*place, 2)] = look.types.type_at(tree[2], (*place, 2))
+        look.found[(*place, 2)] = look.type_names.type_at(tree[2], (*place, 2))
     if word in ROWS_AT:
         at = ROWS_AT[word]
         look_at_rows(look, book, tree[at], (*place, at), local)

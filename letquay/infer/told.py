@@ -10,7 +10,7 @@ class Telling:
     def __init__(self, walk):
         self.walk = walk
         self.numbers = {}
-        self.marked = {}
+        self.are_marked = {}
 
     def _number(self, T):
         """Give numbers to the variables of a type that have none."""
@@ -18,7 +18,7 @@ class Telling:
         for variable in variables_in(T):
             if variable not in self.numbers:
                 self.numbers[variable] = len(self.numbers)
-                self.marked[self.numbers[variable]] = graph.free_and_marked(self.walk.variables[variable])
+                self.are_marked[self.numbers[variable]] = graph.free_and_marked(self.walk.variables[variable])
 
     def type_of(self, node):
         """The type of a node, with the new numbers."""
@@ -27,12 +27,12 @@ class Telling:
         self._number(T)
         return replaced(T, {variable: ("var", self.numbers[variable]) for variable in variables_in(T)})
 
-    def put_in(self, pairs):
+    def types_put_in(self, pairs):
         """The tuple of the types that are put in, those for a local name in the order of its new numbers."""
         nodes = [(k if number is None else self.numbers[number], node) for k, (number, node) in enumerate(pairs)]
         return tuple([self.type_of(node) for _, node in sorted(nodes)])
 
-    def general(self, roots):
+    def numbers_of(self, roots):
         """The ascending tuple of the new numbers of generalized variables."""
         return tuple(sorted([self.numbers[self.walk.graph.number_of(root)] for root in roots]))
 
@@ -43,11 +43,11 @@ def derivation_of(telling):
     rows = []
     for place in sorted(walk.nodes):
         T = telling.type_of(walk.nodes[place])
-        rows.append((place, T, telling.put_in(walk.put_in.get(place, []))))
+        rows.append((place, T, telling.types_put_in(walk.put_in.get(place, []))))
     # The numbers of a let stand ahead of the rows in which its variables get them.
-    told = [(place, T, telling.general(walk.general[place]) if place in walk.general else more)
+    told = [(place, T, telling.numbers_of(walk.general[place]) if place in walk.general else more)
             for place, T, more in rows]
-    return tuple(told), tuple([number for number, marked in telling.marked.items() if marked])
+    return tuple(told), tuple([number for number, marked in telling.are_marked.items() if marked])
 
 
 def cases_with(telling):

@@ -43,7 +43,7 @@ class Walk:
         self.told = told
         self.graph = Graph(book)
         self.variables = []
-        self.demands = []
+        self.told_demands = []
         # By places: the nodes of expressions and patterns; for names and constructors the pairs (number of the
         # variable of the name or None, node that is put in); for let and letrec the roots that are generalized.
         self.nodes = {}
@@ -71,7 +71,7 @@ class Walk:
         if self.told:
             check_size(self.graph, one)
             check_size(self.graph, other)
-            self.demands.append(("one", place, self.graph.type_at(one), self.graph.type_at(other)))
+            self.told_demands.append(("one", place, self.graph.type_at(one), self.graph.type_at(other)))
         demand_one(self.graph, place, one, other)
 
     def note(self, place, node):

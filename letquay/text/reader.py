@@ -71,7 +71,7 @@ class Reading:
         self.many_open = 0
         self.lines = {}
 
-    def spot(self):
+    def next_spot(self):
         """The index at which the next token begins."""
         return self.tokens[self.at][2]
 
@@ -79,7 +79,7 @@ class Reading:
         """Open the next token."""
         self.many_open += 1
         if self.many_open > MOST_OPEN:
-            raise ParseError(self.spot())
+            raise ParseError(self.next_spot())
 
     def take_last(self, many):
         """Take away the last values, as a tuple."""
@@ -102,7 +102,7 @@ class Reading:
         if rules not in known:
             known[rules] = _expanded(rules, kind)
         if known[rules] is None:
-            raise ParseError(self.spot())
+            raise ParseError(self.next_spot())
         return known[rules]
 
     def run(self, rule):
@@ -122,7 +122,7 @@ class Reading:
             elif item[0] in HIGH_LETTERS:
                 todo.extend(self.line_at(item, kind))
             else:
-                raise ParseError(self.spot())
+                raise ParseError(self.next_spot())
         return self.held[0]
 
 

@@ -2,8 +2,9 @@
 
 from letquay.checks import is_ascending
 from letquay.errors import InvalidBook, InvalidOperation, InvalidScheme, Refused, TooMany
+from letquay.types.books import Book
 from letquay.types.graphs import Graph
-from letquay.types.shapes import MAX_SIZE, children, numbered, outline, replaced, variables_in
+from letquay.types.shapes import MAX_SIZE, children, numbered, outline, replaced, variables_in, with_makers
 from letquay.types.terms import (
     admits_with, are_types, check_book, check_marked, check_type, is_type, put_in, text_with,
 )
@@ -53,6 +54,19 @@ class Scheme:
         variables = variables_in(T)
         marks = [number for number, variable in enumerate(variables) if variable in marked]
         return cls(book, tuple(marks), replaced(T, numbered(variables)))
+
+    def with_makers(self, makers):
+        """The scheme in whose body the types of some stamps are those of their makers, or None if it gets too great."""
+        T = with_makers(self.body, makers)
+        if T is None:
+            return None
+        variables = variables_in(T)
+        scheme = Scheme(Book(), (), ("tuple", ()))
+        scheme.marks = tuple([number for number, variable in enumerate(variables) if variable in self.marks])
+        scheme.body = replaced(T, numbered(variables))
+        scheme.total = len(variables)
+        scheme._outline = outline(scheme.body)
+        return scheme
 
     def _check_body(self, book):
         """Raise an error unless the body is a type of the book."""

@@ -129,6 +129,39 @@ def replaced(T, images):
     return done[0]
 
 
+def with_makers(T, makers):
+    """The type in which the types of some stamps are those of their makers, or None if it gets too great.
+
+    What a maker does not use can be as great as it wants.
+    """
+    done = []
+    todo = [(T, False)]
+    while todo:
+        part, ready = todo.pop()
+        if part[0] == "var":
+            done.append((1, part))
+        elif ready:
+            first = len(done) - len(children(part))
+            inside = done[first:]
+            del done[first:]
+            done.append(_with_maker(part, inside, makers))
+        else:
+            todo.append((part, True))
+            todo.extend([(inner, False) for inner in children(part)[::-1]])
+    return done[0][1]
+
+
+def _with_maker(part, inside, makers):
+    """The pair of the size and of the type of what has these pairs inside, or None for one that is too great."""
+    types = {k: T for k, (_, T) in enumerate(inside)}
+    if part[0] == "made" and part[1] in makers:
+        body = makers[part[1]][1]
+        size = size_with(body, {k: many for k, (many, _) in enumerate(inside)})
+        return size, replaced(body, types) if size <= MAX_SIZE else None
+    size = 1 + sum([many for many, _ in inside])
+    return size, with_children(part, tuple([T for _, T in inside])) if size <= MAX_SIZE else None
+
+
 def numbered(variables):
     """The dict that renames variables to 0, 1, .. in this order."""
     return {variable: ("var", number) for number, variable in enumerate(variables)}

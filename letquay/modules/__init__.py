@@ -1,0 +1,1 @@
+"""Signatures, matching, structures, functors and units."""

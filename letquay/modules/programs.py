@@ -1,0 +1,127 @@
+"""Programs: units that have been typed."""
+
+from letquay.data.faces import Face, base_face
+from letquay.errors import InvalidFace, InvalidTree, Refused
+from letquay.modules.functors import typed_functor
+from letquay.modules.scopes import Scope
+from letquay.modules.structures import Course, Declaring
+from letquay.text.names import is_high
+from letquay.text.trees import is_signature, is_unit
+from letquay.types.books import Book
+from letquay.types.terms import check_book
+
+# Where the signature and the body of a functor stand in its declaration.
+FUNCTOR_PARTS = {"signature": 3, "body": 4}
+
+
+class Program:
+    """What has been typed of a unit. It never changes."""
+
+    def __init__(self, unit, result, face, tables):
+        self.declarations, self.signature, self._uses = unit
+        self.book = result.book
+        self.inner = result.face
+        self.notes = result.notes
+        self.faces = result.faces
+        self.face = face
+        self._signatures, self._functors = tables
+
+    @property
+    def uses(self):
+        """The faces of the used units, by names."""
+        return dict(self._uses)
+
+    @property
+    def signatures(self):
+        """The signed faces that are declared, by names."""
+        return dict(self._signatures)
+
+    @property
+    def functors(self):
+        """The functors that are declared, by names."""
+        return dict(self._functors)
+
+    def __eq__(self, other):
+        if not isinstance(other, Program) or self.book != other.book or self._uses != other._uses:
+            return False
+        return self.declarations == other.declarations and self.signature == other.signature
+
+
+def _check_uses(book, uses):
+    if not isinstance(uses, dict):
+        raise InvalidFace("used units are a dict from high names to faces")
+    for name, face in uses.items():
+        if not is_high(name) or not isinstance(face, Face) or face.greatest > len(book):
+            raise InvalidFace("used units are a dict from high names to faces for the book")
+
+
+class UnitCourse:
+    """Goes through the declarations of a unit."""
+
+    def __init__(self, book, scope, uses):
+        self.course = Course(book)
+        self.declaring = Declaring(self.course, scope)
+        self.used = uses
+        self.signed = {}
+        self.made_once = {}
+
+    def declare(self, tree, place):
+        """Go through a declaration, which stands at a place."""
+        word = tree[0]
+        if word in ("signature", "functor"):
+            if tree[1] in (self.signed if word == "signature" else self.made_once):
+                raise Refused(("twice", place, tree[1]))
+            if word == "signature":
+                self._signature(tree, place)
+            else:
+                self._functor(tree, place)
+            return
+        if word == "structure" and tree[1] in self.used:
+            raise Refused(("twice", place, tree[1]))
+        self.declaring.declare(tree, place)
+
+    def _signature(self, tree, place):
+        signed = self.course.signed_at(self.declaring.scope, tree[2], (*place, 2))
+        self.signed[tree[1]] = signed
+        self.declaring.scope = self.declaring.scope.with_signature(tree[1], signed)
+
+    def _functor(self, tree, place):
+        scope = self.declaring.scope
+        try:
+            self.course.book, functor = typed_functor(self.course.book, scope, tree[2], tree[3], tree[4])
+        except Refused as refused:
+            word, (part, *rest), *more = refused.reason
+            raise Refused((word, (*place, FUNCTOR_PARTS[part], *rest), *more)) from None
+        self.made_once[tree[1]] = functor
+        self.course.notes.extend([((*place, 4, *inner), note) for inner, note in functor.notes])
+        self.course.faces.extend([((*place, 4, *inner), face) for inner, face in functor.faces])
+        self.declaring.scope = scope.with_functor(tree[1], functor)
+
+
+def _ascending(table):
+    return {name: table[name] for name in sorted(table)}
+
+
+def typed_unit(declarations, *, signature=None, book=None, uses=None):
+    """The program of a unit."""
+    if not is_unit(declarations) or signature is not None and not is_signature(signature):
+        raise InvalidTree("this is no unit, or no signature")
+    if book is None:
+        book = Book()
+    check_book(book)
+    if uses is None:
+        uses = {}
+    _check_uses(book, uses)
+    face = base_face()
+    for name in sorted(uses):
+        face = face.with_structure(name, uses[name])
+    unit = UnitCourse(book, Scope(face), uses)
+    for k, tree in enumerate(declarations):
+        unit.declare(tree, (k,))
+    inner = unit.declaring.face
+    outer = inner
+    if signature is not None:
+        signed = unit.course.signed_at(Scope(face), signature, ("signature",))
+        outer = unit.course.seal(inner, signed, ("signature",))
+    tables = _ascending(unit.signed), _ascending(unit.made_once)
+    return Program((declarations, signature, _ascending(uses)), unit.course.result(inner), outer, tables)

@@ -158,7 +158,8 @@ def is_matching(book, found, signed, value):
 
 def fitted(book, found, signed):
     """The face that is fitted to a signed face."""
-    return signed.put(matched(book, found, signed))
+    makers = matched(book, found, signed)
+    return signed.put(makers)
 
 
 def sealed(book, found, signed):

@@ -7,7 +7,7 @@ from letquay.data.looking import check_scope, declared_group, scheme_of_tree, ty
 from letquay.errors import InvalidFace, InvalidOperation, InvalidTree, Refused, UnknownName
 from letquay.modules.bases import SignedBase, behind
 from letquay.modules.scopes import check_scope_of
-from letquay.text.names import is_high_path, is_low_path
+from letquay.text.names import is_high_path, is_low_path, is_type_path
 from letquay.text.trees import is_signature
 from letquay.types.shapes import outline
 from letquay.types.terms import admits_with, check_book
@@ -46,7 +46,9 @@ def item_at(face, kind, path):
 
 
 def _is_path_of(kind, path):
-    return is_low_path(path) if kind in ("value", "type", "data") else is_high_path(path)
+    if kind in ("type", "data"):
+        return is_type_path(path)
+    return is_low_path(path) if kind == "value" else is_high_path(path)
 
 
 def _is_entry(book, face, value):

@@ -270,9 +270,38 @@ class NamesTest(unittest.TestCase):
         stored = {node.attr for _, node in nodes(ast.Attribute) if isinstance(node.ctx, ast.Store)}
         self.assertEqual((stored & methods, stored & decorated, methods & decorated), (set(), set(), set()))
 
+    def test_methods_have_no_names_of_builtin_ones(self):
+        taken = {name for kind in (str, int, list, dict, set, bytes, tuple) for name in dir(kind)} - METHODS | NO_NAMES
+        for module, node in nodes(ast.ClassDef):
+            for entry in node.body:
+                if isinstance(entry, ast.FunctionDef) and not entry.name.startswith("__"):
+                    self.assertNotIn(entry.name, taken, where(module, entry))
+
+    def test_calls_with_stars(self):
+        for module, node in nodes(ast.Call):
+            for arg in node.args:
+                if isinstance(arg, ast.Starred):
+                    self.assertIsInstance(arg.value, (ast.Name, ast.Attribute, ast.List, ast.Tuple), where(module, node))
+
+    def test_tables_hold_functions_of_their_own_file(self):
+        for module, tree in TREES.items():
+            own = {node.name for node in tree.body if isinstance(node, ast.FunctionDef)}
+            every = {entry.name for _, entry in nodes(ast.FunctionDef)}
+            for node in tree.body:
+                if isinstance(node, ast.Assign):
+                    for inner in ast.walk(node.value):
+                        if isinstance(inner, ast.Name) and inner.id in every:
+                            self.assertIn(inner.id, own, where(module, node))
+
     def returns(self, module, method):
         if method.name in ("__len__", "__str__", "__repr__"):
             self.assertIsInstance(method.body[-1], ast.Return, where(module, method))
+        if method.name in ("__str__", "__repr__"):
+            for node in ast.walk(method):
+                if isinstance(node, ast.Return):
+                    plain = isinstance(node.value, (ast.JoinedStr, ast.Constant)) or (
+                        isinstance(node.value, ast.Call) and ast.unparse(node.value.func) in ("str", "repr"))
+                    self.assertTrue(plain, where(module, node))
         if method.name == "__len__":
             self.assertEqual(method.body[-1].value.func.id, "len", where(module, method))
         if method.name == "__iter__":

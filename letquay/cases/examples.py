@@ -26,7 +26,8 @@ class Examples:
         """A value of a kind with at most so many constructors one below the other, or None."""
         todo = [(kind, deep)]
         while todo:
-            wanted, found = self._attempt(*todo[-1])
+            last, least = todo[-1]
+            wanted, found = self._attempt(last, least)
             if wanted is None:
                 self.known[todo.pop()] = found
             else:
@@ -35,7 +36,7 @@ class Examples:
 
     def _attempt(self, kind, deep):
         """The pair of what must be known ahead, or None, and of a value, or None if there is none."""
-        sort = self.kinds.sort(kind)
+        sort = self.kinds.sort_of(kind)
         if sort == "tuple":
             return self._of_tuple(kind, deep)
         if sort == "data":
@@ -77,6 +78,6 @@ class Examples:
         if word == "tuple":
             members = self.kinds.members(kind)
             return ("tuple", tuple([self.met(member, part) for member, part in zip(members, told[1])]))
-        key = told[1] if self.kinds.sort(kind) == "exn" else told[1][0]
+        key = told[1] if self.kinds.sort_of(kind) == "exn" else told[1][0]
         inner = None if told[2] is None else self.met(self.kinds.under(kind, key), told[2])
-        return ("exn" if self.kinds.sort(kind) == "exn" else "con", key, inner)
+        return ("exn" if self.kinds.sort_of(kind) == "exn" else "con", key, inner)

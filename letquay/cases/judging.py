@@ -66,7 +66,7 @@ class TreeJudge:
             return None
         kind = self.kind
         for at, step in enumerate(place):
-            sort = self.kinds.sort(kind)
+            sort = self.kinds.sort_of(kind)
             if sort == "tuple":
                 if not is_integer(step) or not 0 <= step < len(self.kinds.members(kind)):
                     return None
@@ -81,7 +81,7 @@ class TreeJudge:
 
     def is_key(self, kind, value):
         """Whether any value is a key of a kind."""
-        sort = self.kinds.sort(kind)
+        sort = self.kinds.sort_of(kind)
         if sort == "int":
             return is_literal_integer(value)
         if sort == "string":
@@ -94,19 +94,19 @@ class TreeJudge:
         """Whether a test can be done on a way."""
         _, place, table, other = value
         kind = self.kind_at(place, way)
-        if kind is None or self.kinds.sort(kind) not in ("int", "string", "exn", "data"):
+        if kind is None or self.kinds.sort_of(kind) not in ("int", "string", "exn", "data"):
             return False
         keys = [pair[0] for pair in table]
         if not all([self.is_key(kind, key) for key in keys]) or len(set(keys)) < len(keys):
             return False
         asked = way.asked.get(place)
-        if asked is not None and (self.kinds.sort(kind) != "exn" or any([key in asked for key in keys])):
+        if asked is not None and (self.kinds.sort_of(kind) != "exn" or any([key in asked for key in keys])):
             return False
         return other is not None or self.has_all(kind, keys)
 
     def has_all(self, kind, keys):
         """Whether keys are all constructors of a kind."""
-        return self.kinds.sort(kind) == "data" and len(keys) == len(self.kinds.constructors(kind))
+        return self.kinds.sort_of(kind) == "data" and len(keys) == len(self.kinds.constructors(kind))
 
     def branches(self, value, way):
         """The pairs (tree, way) behind a right test; the way is None where no value leads."""

@@ -46,7 +46,7 @@ class Kinds:
                 todo.extend([(inner, False) for inner in children(part)[::-1]])
         return done[0]
 
-    def sort(self, kind):
+    def sort_of(self, kind):
         """What values of a type are: "tuple", "int", "string", "exn", "data", or "thing"."""
         word, own, _ = self.rows[kind]
         if word == "tuple":
@@ -83,7 +83,7 @@ class Kinds:
 
     def under(self, kind, key):
         """The kind of what a constructor or exception carries, or None; it must be one of the type."""
-        if self.sort(kind) == "data":
+        if self.sort_of(kind) == "data":
             return self.constructors(kind)[key]
         carried = self.tag(key)[1]
         return None if carried is None else self.add(carried, ())
@@ -94,8 +94,8 @@ class Kinds:
         if tag is None:
             return None
         if tag[0] == "exn":
-            return path if self.sort(kind) == "exn" else None
-        if self.sort(kind) != "data" or self.rows[kind][1] != tag[1]:
+            return path if self.sort_of(kind) == "exn" else None
+        if self.sort_of(kind) != "data" or self.rows[kind][1] != tag[1]:
             return None
         names = list(self.constructors(kind))
         return path[-1] if tag[2] < len(names) and names[tag[2]] == path[-1] else None

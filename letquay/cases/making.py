@@ -107,4 +107,4 @@ class Making:
         kind = self.kind
         for step in place:
             kind = self.kinds.members(kind)[step] if isinstance(step, int) else self.kinds.under(kind, step)
-        return list(self.kinds.constructors(kind)) if self.kinds.sort(kind) == "data" else []
+        return list(self.kinds.constructors(kind)) if self.kinds.sort_of(kind) == "data" else []

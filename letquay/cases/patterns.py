@@ -88,7 +88,7 @@ def _fits_or(kinds, kind, pattern, bound):
 def fits_kind(kinds, kind, pattern, bound):
     """Whether a pattern fits a kind; the kinds of the names that it binds come into a dict."""
     word = pattern[0]
-    sort = kinds.sort(kind)
+    sort = kinds.sort_of(kind)
     if word in ("name", "as"):
         bound[pattern[1]] = kind
     if word in ("any", "name"):

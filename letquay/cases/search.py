@@ -48,7 +48,7 @@ class Search:
         entries = [self.rows[index].get(place) for index, _ in alive]
         if all([entry is None for entry in entries]):
             return [(rest, alive, (*told, ANY))]
-        if self.kinds.sort(kind) == "tuple":
+        if self.kinds.sort_of(kind) == "tuple":
             members = self.kinds.members(kind)
             inside = tuple([((*place, k), member) for k, member in enumerate(members)])
             left = [(index, met if entry is None else met + 1) for (index, met), entry in zip(alive, entries)]
@@ -58,7 +58,7 @@ class Search:
             if entry is not None:
                 keys = (entry[1],) if entry[0] == "is" else entry[1]
                 heads.update({key: True for key in keys})
-        if self.kinds.sort(kind) == "data":
+        if self.kinds.sort_of(kind) == "data":
             return self._states_of_data(columns, alive, told, heads)
         return self._states_of_literals(columns, alive, told, heads)
 
@@ -84,7 +84,7 @@ class Search:
         """The state where a head is found; what it carries is the next column."""
         place, kind = columns[0]
         left = self._left(alive, place, key)
-        sort = self.kinds.sort(kind)
+        sort = self.kinds.sort_of(kind)
         if sort in ("int", "string"):
             return columns[1:], left, (*told, (sort, key))
         under = self.kinds.under(kind, key)
@@ -112,7 +112,7 @@ class Search:
         found = [self._under_head(columns, alive, told, key) for key in keys if self._is_let(place, key)]
         entry = self.only.get(place)
         if entry is None or entry[0] == "but" or entry[1] not in heads:
-            word = "but exceptions" if self.kinds.sort(kind) == "exn" else "but"
+            word = "but exceptions" if self.kinds.sort_of(kind) == "exn" else "but"
             left = self._left(alive, place, None)
             found.append((columns[1:], left, (*told, (word, tuple(keys)))))
         return found

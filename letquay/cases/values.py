@@ -117,9 +117,9 @@ def is_told(value):
 
 def _told_key(kinds, kind, path):
     """The key of a told constructor or exception of a kind, or None if it has none such."""
-    if kinds.sort(kind) == "exn":
+    if kinds.sort_of(kind) == "exn":
         return path if kinds.is_exception(path) else None
-    if kinds.sort(kind) == "data" and len(path) == 1:
+    if kinds.sort_of(kind) == "data" and len(path) == 1:
         return path[0] if path[0] in kinds.constructors(kind) else None
     return None
 
@@ -127,7 +127,7 @@ def _told_key(kinds, kind, path):
 def entries_of_told(kinds, kind, told, place, entries):
     """Whether a told pattern fits a kind; what it wants at a place, and below it, comes into a dict."""
     word = told[0]
-    sort = kinds.sort(kind)
+    sort = kinds.sort_of(kind)
     if word == "any":
         return True
     if word in ("int", "string"):
@@ -158,7 +158,7 @@ def entries_of_told(kinds, kind, told, place, entries):
 
 def _parts_of_value(kinds, value, kind):
     """The pairs (value, kind) that must fit if any value is one of a kind, or None if it is none."""
-    sort = kinds.sort(kind)
+    sort = kinds.sort_of(kind)
     if sort in ("int", "string"):
         return [] if (is_literal_integer(value) if sort == "int" else is_literal_string(value)) else None
     if sort == "tuple":
@@ -184,7 +184,8 @@ def is_value_of_kind(kinds, value, kind):
     """Whether any value is one of a kind."""
     todo = [(value, kind)]
     while todo:
-        parts = _parts_of_value(kinds, *todo.pop())
+        part, inner = todo.pop()
+        parts = _parts_of_value(kinds, part, inner)
         if parts is None:
             return False
         todo.extend(parts)

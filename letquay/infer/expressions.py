@@ -57,7 +57,7 @@ class Typing:
         return same and _outlines_of_cases(self.cases) == _outlines_of_cases(other.cases)
 
     def __str__(self):
-        return self._text
+        return str(self._text)
 
 
 def typed(book, face, tree):

@@ -136,25 +136,23 @@ def is_literal_string(value):
     return all([" " <= letter <= "~" for letter in value])
 
 
-def _is_operator(value):
-    return isinstance(value, str) and (value in ONE_OPERAND or value in TWO_OPERANDS)
-
-
-def _is_boolean(value):
+def _is_leaf(sort, value):
+    """Whether the value is a part of this sort, one without nodes in it and no integer."""
+    if sort == "low":
+        return is_low(value)
+    if sort == "high":
+        return is_high(value)
+    if sort == "low path":
+        return is_low_path(value)
+    if sort == "high path":
+        return is_high_path(value)
+    if sort == "type path":
+        return is_type_path(value)
+    if sort == "string":
+        return is_literal_string(value)
+    if sort == "operator":
+        return isinstance(value, str) and (value in ONE_OPERAND or value in TWO_OPERANDS)
     return isinstance(value, bool)
-
-
-LEAF_TESTS = {
-    "low": is_low,
-    "high": is_high,
-    "low path": is_low_path,
-    "high path": is_high_path,
-    "type path": is_type_path,
-    "integer": is_literal_integer,
-    "string": is_literal_string,
-    "operator": _is_operator,
-    "boolean": _is_boolean,
-}
 
 
 def _are_strings(values):
@@ -170,9 +168,10 @@ def _are_short_paths(values):
 
 def are_leaves(sort, values):
     """Whether values are parts of this sort, one without nodes in it; equal names are looked at once."""
-    test = LEAF_TESTS[sort]
+    if sort == "integer":
+        return all([is_literal_integer(value) for value in values])
     if sort in ("low", "high", "operator") and _are_strings(values):
-        return all([test(value) for value in sorted(set(values))])
+        return all([_is_leaf(sort, value) for value in sorted(set(values))])
     if sort in ("low path", "high path", "type path") and _are_short_paths(values):
-        return all([test((name,)) for name in sorted(set([value[0] for value in values]))])
-    return all([test(value) for value in values])
+        return all([_is_leaf(sort, (name,)) for name in sorted(set([value[0] for value in values]))])
+    return all([_is_leaf(sort, value) for value in values])

@@ -60,7 +60,7 @@ def _expanded(rules, kind):
 class Reading:
     """A text that is being read: what has been read so far, and how many tokens are open.
 
-    What stands for rules at a kind of token is looked up once: `lines` has a dict by rules for each kind.
+    What stands for rules at a kind of token is looked up once, and then is in `lines`.
     """
 
     def __init__(self, text):
@@ -96,14 +96,20 @@ class Reading:
         """Hold a value more."""
         self.held.append(worth)
 
+    def make(self, word, count):
+        """Make a node of the last values."""
+        first = len(self.held) - count
+        self.held[first:] = [(word, *self.held[first:])]
+
     def line_at(self, rules, kind):
         """The items that stand for rules at the next token, which is of a kind."""
-        known = self.lines.setdefault(kind, {})
-        if rules not in known:
-            known[rules] = _expanded(rules, kind)
-        if known[rules] is None:
+        key = (rules, kind)
+        if key not in self.lines:
+            self.lines[key] = _expanded(rules, kind)
+        line = self.lines[key]
+        if line is None:
             raise ParseError(self.next_spot())
-        return known[rules]
+        return line
 
     def run(self, rule):
         """Read the whole text by a rule, and give back its tree."""
@@ -111,14 +117,18 @@ class Reading:
         kind, worth, _ = self.tokens[0]
         while todo:
             item = todo.pop()
-            if item == kind:
+            if isinstance(item, tuple):
+                word, count = item
+                if count > 0:
+                    self.make(word, count)
+                else:
+                    _act(self, word)
+            elif item == kind:
                 if worth is not None:
                     self.held.append(worth)
                 self.at += 1
                 if todo:
                     kind, worth, _ = self.tokens[self.at]
-            elif isinstance(item, tuple):
-                _act(self, item[0], item[1])
             elif item[0] in HIGH_LETTERS:
                 todo.extend(self.line_at(item, kind))
             else:
@@ -161,11 +171,11 @@ def _act_on_parts(reading, word):
         reading.push(("con", ("Cons",), ("tuple", reading.take_last(2))))
 
 
-def _act(reading, word, count):
-    """Do an action of the grammar: with a count, or a 0 that stands there, it makes a node of so many values."""
+def _act(reading, word):
+    """Do an action of the grammar that has no count, or the count 0."""
     lead, _, rest = word.partition("-")
-    if count > 0 or word == "any":
-        reading.push((word, *reading.take_last(count)))
+    if word == "any":
+        reading.push((word,))
     elif word == "in":
         reading.enter()
     elif word == "out":

@@ -5,8 +5,8 @@ from letquay.text.names import DIGITS, HIGH_LETTERS, KEYWORDS, LOW_LETTERS, is_h
 
 LONG_SIGNS = (":>", "=>", "->", ":=", "::")
 SHORT_SIGNS = "()[],;:=|_.*+-<^!"
-# With these a longer sign begins.
-LEADING_SIGNS = ":=-"
+# With these no longer sign begins.
+LONE_SIGNS = "()[],;|_.*+<^!"
 RUN_LETTERS = LOW_LETTERS + HIGH_LETTERS + DIGITS
 # More digits than any integer of 63 bits has.
 MANY_DIGITS = 20
@@ -46,15 +46,6 @@ def _word_of(run):
     return "number", number
 
 
-def _word_token(text, start, words):
-    """A token, where `words` has what is already known of runs."""
-    end = _run_end(text, start)
-    run = text[start:end]
-    if run not in words:
-        words[run] = _word_of(run)
-    return (*words[run], start), end
-
-
 def _negative_token(text, start):
     end = _run_end(text, start + 1)
     number = _number_of(text[start + 1:end])
@@ -89,18 +80,16 @@ def _string_token(text, start):
 
 
 def _sign_token(text, start):
-    if text[start] in LEADING_SIGNS and text[start:start + 2] in LONG_SIGNS:
+    if text[start:start + 2] in LONG_SIGNS:
         return (text[start:start + 2], None, start), start + 2
     if text[start] in SHORT_SIGNS:
         return (text[start], None, start), start + 1
     return ("none", None, start), start
 
 
-def _token_at(text, start, words):
-    """The token that begins at an index, and the index behind it."""
+def _token_at(text, start):
+    """The token that begins at an index, one of no letters and digits alone, and the index behind it."""
     letter = text[start]
-    if letter in RUN_LETTERS:
-        return _word_token(text, start, words)
     if letter == "~":
         return _negative_token(text, start)
     if letter == "'":
@@ -116,10 +105,20 @@ def tokens_of(text):
     words = {}
     at = 0
     while at < len(text):
-        if text[at] in " \n":
+        letter = text[at]
+        if letter in " \n":
             at += 1
             continue
-        token, at = _token_at(text, at, words)
+        if letter in RUN_LETTERS:
+            end = _run_end(text, at)
+            run = text[at:end]
+            if run not in words:
+                words[run] = _word_of(run)
+            token, at = (*words[run], at), end
+        elif letter in LONE_SIGNS:
+            token, at = (letter, None, at), at + 1
+        else:
+            token, at = _token_at(text, at)
         found.append(token)
         if token[0] == "none":
             return found

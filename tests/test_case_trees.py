@@ -6,6 +6,7 @@ from letquay.cases import trees as module
 from letquay.cases.trees import at_place, is_tree_of, taken, tree_of
 from letquay.errors import InvalidBook, InvalidFace, InvalidOperation, InvalidPattern, InvalidTree, InvalidType, TooMany
 from letquay.text.reader import read_pattern
+from tests import case_tools
 from tests.case_tools import (
     ANY, BOOK, BOOL, EXN, FACE, INT, PAIR, STRING, TREE, alternatives_in, cases, first_met, list_of, plain_alternatives,
     tuple_of, values)
@@ -257,6 +258,91 @@ class JudgeTest(unittest.TestCase):
                 return (*node[:2], table, None if node[3] is None else go(node[3]))
             return node
         return go(tree)
+
+
+class Wandering:
+    """Makes trees for rows that ask at random, until all values that are left come to the same row and binding."""
+
+    def __init__(self, rng, T, rows):
+        self.rng, self.T, self.rows = rng, T, rows
+        self.known = {}
+
+    def things(self, v, T, at, known):
+        """The triples (place, type, key) of what can be asked of a value, below what is known."""
+        if T[0] == "tuple":
+            return [t for k, (w, U) in enumerate(zip(v[1], T[1])) for t in self.things(w, U, (*at, k), known)]
+        if T in (INT, STRING):
+            return [(at, T, v)]
+        if T[0] != "made" or v == ("thing",) and T != EXN:
+            return []
+        key = None if v == ("thing",) else v[1]
+        found = [(at, T, key)]
+        if key is not None and v[2] is not None and known.get(at) == key:
+            inner = FACE.tag(key)[1] if T == EXN else dict(case_tools.constructors(T))[key]
+            found += self.things(v[2], inner, (*at, key), known)
+        return found
+
+    def trace(self, v, start):
+        """What a value comes to from a row on: the index, whether it is guarded, and what is bound."""
+        for k, (p, guarded) in enumerate(self.rows[start:], start):
+            bound = first_met(v, p)
+            if bound is not None:
+                return k, guarded, tuple(sorted(bound.items()))
+        return None
+
+    def tree(self, found, start=0, known=None, asked=()):
+        known = known or {}
+        traces = {self.trace(v, start) for v in found}
+        places = {(at, T) for v in found for at, T, _ in self.things(v, self.T, (), known) if at not in asked}
+        if len(traces) == 1 and (not places or self.rng.random() < 0.7):
+            trace = traces.pop()
+            if trace is None:
+                return ("fail",)
+            if trace[1]:
+                return ("guard", trace[0], trace[2], self.tree(found, trace[0] + 1, known, asked))
+            return ("row", trace[0], trace[2])
+        return self.test(found, start, known, asked, *self.rng.choice(sorted(places, key=repr)))
+
+    def test(self, found, start, known, asked, at, T):
+        by_key = {}
+        for v in found:
+            own = [key for place, _, key in self.things(v, self.T, (), known) if place == at]
+            by_key.setdefault(own[0], []).append(v)
+        every = {INT: (0, 1, 2), STRING: ("", "a", "b")}.get(T) or (
+            case_tools.EXCEPTIONS if T == EXN else [name for name, _ in case_tools.constructors(T)])
+        keys = [key for key in every if key in by_key]
+        self.rng.shuffle(keys)
+        table = tuple((key, self.tree(by_key[key], start, {**known, at: key}, (*asked, at))) for key in keys)
+        left = [v for key in by_key if key not in keys for v in by_key[key]]
+        whole = T not in (INT, STRING, EXN) and len(keys) == len(every)
+        if left:
+            return ("test", at, table, self.tree(left, start, known, (*asked, at)))
+        # No value leads there: anything that looks like a tree can stand there.
+        return ("test", at, table, None if whole else ("fail",)) if whole else None
+
+
+class WanderingTest(unittest.TestCase):
+    TYPES = (INT, BOOLS, tuple_of(INT, BOOL), EXN, tuple_of(EXN, BOOL), ("made", PAIR, (BOOL, INT)), tuple_of(BOOL, ("made", PAIR, (BOOL, BOOL))))
+
+    def test_all_right_trees_are_accepted(self):
+        rng = random.Random(31)
+        many = 0
+        for _ in range(250):
+            T = rng.choice(self.TYPES)
+            rows = case_tools.random_rows(rng, T, 3)
+            if alternatives_in(rows) > 64:
+                continue
+            found = values(T, 1)
+            tree = Wandering(rng, T, rows).tree(found)
+            if "None" in repr(tree).replace(", None)", ""):
+                continue
+            many += 1
+            self.assertTrue(is_right_for(tree, found, rows))
+            self.assertTrue(is_tree_of(BOOK, FACE, T, rows, tree), (T, rows, tree))
+            for _ in range(4):
+                near = JudgeTest.changed(self, rng, tree, len(rows))
+                self.assertIs(is_tree_of(BOOK, FACE, T, rows, near), is_right_for(near, found, rows), (T, rows, near))
+        self.assertGreater(many, 150)
 
 
 class TakenTest(unittest.TestCase):

@@ -262,6 +262,10 @@ class WhereTest(unittest.TestCase):
         self.assertEqual(refusal(f"{sig} where type 'a u = 'b"), ("unbound", (4,), ("b",)))
         self.assertEqual(refusal(f"{sig} where type t = int list list ref int"), ("arity", (4,), ("int",)))
         self.assertEqual(refusal("sig val x : no end where type t = nope"), ("unbound", (1, 1, 0, 2), ("no",)))
+        # The path stands ahead of the new type in the text.
+        self.assertEqual(refusal(f"{sig} where type no = v"), ("where", (), ("no",)))
+        self.assertEqual(refusal(f"{sig} where type 'a e = v"), ("where", (), ("e",)))
+        self.assertEqual(refusal(f"{sig} where type e = v -> int"), ("unbound", (4, 1), ("v",)))
         # A parameter that admits equality is enough for an `eqtype`.
         self.assertIs(refusal("sig eqtype 'a t end where type 'a t = 'a list"), None)
         self.assertEqual(refusal("sig eqtype 'a t end where type 'a t = 'a -> int"), ("where", (), ("t",)))

@@ -242,17 +242,17 @@ class Sense:
     def _where(self, scope, tree, place):
         _, inner, path, params, written = tree
         meaning = self.meaning(scope, inner, (*place, 1))
-        try:
-            T = type_of_tree(self.book, scope.face, written, variables=params)
-        except Refused as refused:
-            raise Refused(behind(refused.reason, (*place, 4))) from None
         found = item_at(meaning.face, "type", path)
         stamp = None if found is None else stamp_of(found[1])
         if stamp not in meaning.bound or self.book.constructors(stamp) is not None:
             raise Refused(("where", place, path))
-        marked = tuple(range(len(params)))
-        equal = self.book.asks(stamp) is not None
-        if len(params) != self.book.arity(stamp) or equal and not admits_with(self.book, T, marked):
+        if len(params) != self.book.arity(stamp):
+            raise Refused(("where", place, path))
+        try:
+            T = type_of_tree(self.book, scope.face, written, variables=params)
+        except Refused as refused:
+            raise Refused(behind(refused.reason, (*place, 4))) from None
+        if self.book.asks(stamp) is not None and not admits_with(self.book, T, tuple(range(len(params)))):
             raise Refused(("where", place, path))
         return self._with_maker(meaning, stamp, (len(params), T), place)
 

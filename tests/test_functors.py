@@ -1,7 +1,7 @@
 import unittest
 
 from letquay.data.faces import Face
-from letquay.errors import InvalidBook, InvalidFace, InvalidNumber, InvalidOperation, InvalidScope, InvalidTree, Refused, TooMany
+from letquay.errors import InvalidBook, InvalidFace, InvalidNumber, InvalidOperation, InvalidScope, InvalidTree, TooMany
 from letquay.modules.functors import applied, is_same_up_to, typed_functor
 from letquay.modules.matching import fitted
 from letquay.modules.scopes import Scope
@@ -184,9 +184,11 @@ FUNCTORS = (
     ("type ('a, 'b) p structure S : sig type t val x : (t, t) p end", "struct datatype ('a, 'b) q = Q of ('b, 'a) X.p val y = Q X.S.x end"),
     ("type t val f : t -> t", "struct structure A = X structure B = struct open A val g = fn x => f (f x) end end end"),
     ("type t", "struct exception E of X.t val h = fn E x => x :: [] | _ => [] end end"),
+    ("type 'a t", "struct datatype d = D of d X.t datatype e = E of d end"),
     ("type t", "X"), ("datatype d = D type t", "struct val x = X.D datatype e = E of X.d end"),
 )
 ARGUMENTS = (
+    "type 'a t = 'a", "type 'a t = 'a * 'a list",
     "type t = int val x = 1 datatype d = D", "type t = string val x = \"a\" val f = fn z => z ^ z end", "type 'a t = 'a list",
     "datatype 'a t = N | S of 'a * 'a t", "datatype t = A | B of t type u = int val f = fn A => 1 | B _ => 2 end", "type t = int list val x = []",
     "type ('a, 'b) p = 'a -> 'b structure S = struct type t = int val x = fn z => z end end",
@@ -201,14 +203,18 @@ class ByTextTest(unittest.TestCase):
             book, found = functor(sig, body)
             for arg in ARGUMENTS:
                 typed = structure(f"struct {arg} end", book)
-                try:
-                    more, face = applied(typed.book, found, typed.face)
-                except Refused as refused:
-                    self.assertIn(refused.reason[0], ("lacks", "unlike"))
+                reason = reason_of(applied, typed.book, found, typed.face)
+                if reason is not None and reason[0] != "empty":
+                    self.assertIn(reason[0], ("lacks", "unlike"))
                     continue
                 many += 1
                 fit = fitted(typed.book, typed.face, found.parameter)
                 scope = Scope(BASE.with_structure("X", fit))
+                if reason is not None:
+                    by_text = reason_of(typed_structure, typed.book, scope, read_structure(body))
+                    self.assertEqual((by_text[0], by_text[2]), reason)
+                    continue
+                more, face = applied(typed.book, found, typed.face)
                 text = typed_structure(typed.book, scope, read_structure(body))
                 # Put both faces over one book: stamps of both stand behind those of the argument.
                 self.assertTrue(is_same_up_to(self.longer(more, text.book), face, text.face, len(typed.book)), (body, arg))

@@ -204,6 +204,18 @@ class ModulesTest(unittest.TestCase):
 
 
 class NamesTest(unittest.TestCase):
+    def test_names_of_caught_errors(self):
+        for module, node in nodes(ast.FunctionDef):
+            caught = [entry.name for entry in ast.walk(node) if isinstance(entry, ast.ExceptHandler) and entry.name]
+            stored = {entry.id for entry in ast.walk(node) if isinstance(entry, ast.Name) and isinstance(entry.ctx, ast.Store)}
+            self.assertEqual(len(set(caught)), len(caught), where(module, node))
+            self.assertFalse(set(caught) & stored, where(module, node))
+
+    def test_attributes_are_assigned_through_a_local_name(self):
+        for module, node in nodes(ast.Attribute):
+            if isinstance(node.ctx, ast.Store):
+                self.assertIsInstance(node.value, ast.Name, where(module, node))
+
     def test_names(self):
         every = set(dir(builtins))
         for module, tree in TREES.items():

@@ -33,20 +33,27 @@ class Functor(FunctorBase):
         return self.made == other.made and self.notes == other.notes and self.faces == other.faces
 
 
+def _parameter(book, scope, signature):
+    try:
+        return signed_face(book, scope, signature)
+    except Refused as refused:
+        raise Refused(behind(refused.reason, ("signature",))) from None
+
+
+def _body(book, scope, body):
+    try:
+        return typed_structure(book, scope, body)
+    except Refused as refused:
+        raise Refused(behind(refused.reason, ("body",))) from None
+
+
 def typed_functor(book, scope, name, signature, body):
     """The pair of the book and of a functor."""
     check_scope_of(book, scope)
     if not is_high(name) or not is_signature(signature) or not is_structure(body):
         raise InvalidTree("a functor has a high name, a signature and a structure")
-    try:
-        extended, signed = signed_face(book, scope, signature)
-    except Refused as refused:
-        raise Refused(behind(refused.reason, ("signature",))) from None
-    inner = scope.with_face(scope.face.with_structure(name, signed.face))
-    try:
-        result = typed_structure(extended, inner, body)
-    except Refused as refused:
-        raise Refused(behind(refused.reason, ("body",))) from None
+    extended, signed = _parameter(book, scope, signature)
+    result = _body(extended, scope.with_face(scope.face.with_structure(name, signed.face)), body)
     made = tuple(range(len(extended) + 1, len(result.book) + 1))
     return result.book, Functor(signed, result.face, made, result.notes, result.faces)
 

@@ -81,21 +81,23 @@ class UnitCourse:
         self.declaring.declare(tree, place)
 
     def _signature(self, tree, place):
-        signed = self.course.signed_at(self.declaring.scope, tree[2], (*place, 2))
+        declaring = self.declaring
+        signed = self.course.signed_at(declaring.scope, tree[2], (*place, 2))
         self.signed[tree[1]] = signed
-        self.declaring.scope = self.declaring.scope.with_signature(tree[1], signed)
+        declaring.scope = declaring.scope.with_signature(tree[1], signed)
 
     def _functor(self, tree, place):
-        scope = self.declaring.scope
+        course, declaring = self.course, self.declaring
         try:
-            self.course.book, functor = typed_functor(self.course.book, scope, tree[2], tree[3], tree[4])
+            book, functor = typed_functor(course.book, declaring.scope, tree[2], tree[3], tree[4])
         except Refused as refused:
             word, (part, *rest), *more = refused.reason
             raise Refused((word, (*place, FUNCTOR_PARTS[part], *rest), *more)) from None
         self.made_once[tree[1]] = functor
-        self.course.notes.extend([((*place, 4, *inner), note) for inner, note in functor.notes])
-        self.course.faces.extend([((*place, 4, *inner), face) for inner, face in functor.faces])
-        self.declaring.scope = scope.with_functor(tree[1], functor)
+        course.book = book
+        course.notes.extend([((*place, 4, *inner), note) for inner, note in functor.notes])
+        course.faces.extend([((*place, 4, *inner), face) for inner, face in functor.faces])
+        declaring.scope = declaring.scope.with_functor(tree[1], functor)
 
 
 def _ascending(table):

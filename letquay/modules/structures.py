@@ -182,12 +182,12 @@ class Declaring:
             raise Refused(behind(reason, (*place, *INSIDE[tree[0]]))) from None
 
     def _declared_types(self, tree):
-        book, seen = self.course.book, self.scope.face
+        course, seen = self.course, self.scope.face
         if tree[0] == "type":
-            return declared_type(book, seen, tree[1], tree[2], tree[3])
+            return declared_type(course.book, seen, tree[1], tree[2], tree[3])
         if tree[0] == "exception":
-            return declared_exception(book, seen, tree[1], tree[2])
-        self.course.book, face = declared_group(book, seen, tree[1])
+            return declared_exception(course.book, seen, tree[1], tree[2])
+        course.book, face = declared_group(course.book, seen, tree[1])
         return face
 
 

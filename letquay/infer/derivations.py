@@ -53,6 +53,14 @@ class Judge:
         self.lines = {place: outline(T) for place, T, _ in rows}
         self.more = {place: more for place, _, more in rows}
 
+    def outline_at(self, place):
+        """The outline of the type at a place."""
+        return self.lines[place]
+
+    def meaning_at(self, place):
+        """What the name or annotation at a place means."""
+        return self.found[place]
+
     def lines_put_in(self, place, many):
         """The outlines of the types that are put in at a place, or None if there are not so many."""
         more = self.more[place]
@@ -119,7 +127,7 @@ def _judge_con_pattern(judge, tree, place, bound):
         return False
     if tree[2] is None:
         return True
-    return lines[1] == judge.lines[(*place, 2)] and judge_pattern(judge, tree[2], (*place, 2), bound)
+    return lines[1] == judge.outline_at((*place, 2)) and judge_pattern(judge, tree[2], (*place, 2), bound)
 
 
 def _judge_or(judge, tree, place, bound):
@@ -128,7 +136,7 @@ def _judge_or(judge, tree, place, bound):
         return False
     line = judge.lines[place]
     same = [bound[name] == other[name] for name in other]
-    return all(same) and line == judge.lines[(*place, 1)] and line == judge.lines[(*place, 2)]
+    return all(same) and line == judge.outline_at((*place, 1)) and line == judge.outline_at((*place, 2))
 
 
 def judge_pattern(judge, tree, place, bound):
@@ -149,7 +157,7 @@ def judge_pattern(judge, tree, place, bound):
     if not all([judge_pattern(judge, part, (*place, *steps), bound) for steps, part in parts]):
         return False
     if word == "as":
-        return line == judge.lines[(*place, 2)]
+        return line == judge.outline_at((*place, 2))
     return word != "tuple" or line == _tuple_line(judge, [(*place, *steps) for steps, _ in parts])
 
 
@@ -162,12 +170,12 @@ def _tuple_line(judge, places):
 
 def judge_rows(judge, rows, place, names):
     """The outlines from which and to which rows lead, or None if they are typed wrong."""
-    one, other = judge.lines[(*place, 0, 0)], judge.lines[(*place, 0, 2)]
+    one, other = judge.outline_at((*place, 0, 0)), judge.outline_at((*place, 0, 2))
     for k, (head, guard, body) in enumerate(rows):
         bound = {}
         if not judge_pattern(judge, head, (*place, k, 0), bound):
             return None
-        if judge.lines[(*place, k, 0)] != one or judge.lines[(*place, k, 2)] != other:
+        if judge.outline_at((*place, k, 0)) != one or judge.outline_at((*place, k, 2)) != other:
             return None
         inner = {**names, **_with_general(bound, ())}
         if guard is not None and not _judge_truth(judge, guard, (*place, k, 1), inner):
@@ -185,7 +193,7 @@ def judge_functions(judge, functions, place, names):
     """The dict of the outlines of functions by names, or None if they are typed wrong."""
     bound = {}
     for k, (name, _) in enumerate(functions):
-        bound[name] = line_of_function(judge.lines[(*place, k, 1, 0, 0)], judge.lines[(*place, k, 1, 0, 2)])
+        bound[name] = line_of_function(judge.outline_at((*place, k, 1, 0, 0)), judge.outline_at((*place, k, 1, 0, 2)))
     inner = {**names, **_with_general(bound, ())}
     for k, (_, rows) in enumerate(functions):
         if judge_rows(judge, rows, (*place, k, 1), inner) is None:
@@ -198,7 +206,7 @@ def judge_bound(judge, head, body, place, names):
     bound = {}
     if not judge_pattern(judge, head, (*place, 1), bound) or not judge_expression(judge, body, (*place, 2), names):
         return None
-    return bound if judge.lines[(*place, 1)] == judge.lines[(*place, 2)] else None
+    return bound if judge.outline_at((*place, 1)) == judge.outline_at((*place, 2)) else None
 
 
 def _let(judge, tree, place, names):
@@ -211,7 +219,8 @@ def _let(judge, tree, place, names):
         return False
     at = len(tree) - 1
     inner = {**names, **_with_general(bound, judge.more[place])}
-    return judge.lines[place] == judge.lines[(*place, at)] and judge_expression(judge, tree[at], (*place, at), inner)
+    last = (*place, at)
+    return judge.lines[place] == judge.outline_at(last) and judge_expression(judge, tree[at], last, inner)
 
 
 def _name(judge, tree, place, names):
@@ -259,14 +268,14 @@ def _match(judge, tree, place, names):
     lines = judge_rows(judge, tree[2], (*place, 2), names)
     if lines is None or lines[1] != judge.lines[place]:
         return False
-    inside = judge.lines[(*place, 1)]
+    inside = judge.outline_at((*place, 1))
     fits = inside == lines[0] if tree[0] == "case" else lines[0] == EXN_LINE and inside == lines[1]
     return fits and judge_expression(judge, tree[1], (*place, 1), names)
 
 
 def _typed(judge, tree, place, names):
-    wanted = outline(judge.found[(*place, 2)])
-    if judge.lines[place] != wanted or judge.lines[(*place, 1)] != wanted:
+    wanted = outline(judge.meaning_at((*place, 2)))
+    if judge.lines[place] != wanted or judge.outline_at((*place, 1)) != wanted:
         return False
     return judge_expression(judge, tree[1], (*place, 1), names)
 
@@ -275,7 +284,7 @@ def _in_order(judge, tree, place, names):
     """Whether what has plain parts is typed right: an if, raise, then, while, both or either."""
     word = tree[0]
     own = judge.lines[place]
-    inside = [judge.lines[(*place, k)] for k in range(1, len(tree))]
+    inside = [judge.outline_at((*place, k)) for k in range(1, len(tree))]
     fits = {
         "if": inside == [BOOL_LINE, own, own],
         "raise": inside == [EXN_LINE],
@@ -294,8 +303,8 @@ def _general_operand(judge, tree, place):
     if tree[1] == "!":
         return judge.lines[place]
     if tree[1] == ":=":
-        return judge.lines[(*place, 2, 1)]
-    return judge.lines[(*place, 2, 0)]
+        return judge.outline_at((*place, 2, 1))
+    return judge.outline_at((*place, 2, 0))
 
 
 def _op(judge, tree, place, names):

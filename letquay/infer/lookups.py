@@ -98,7 +98,8 @@ def look_at_expression(look, book, tree, place, local):
     for steps, part in plain_parts(tree):
         look_at_expression(look, book, part, (*place, *steps), local)
     if word == "typed":
-        look.found[(*place, 2)] = look.type_names.type_at(tree[2], (*place, 2))
+        inner = (*place, 2)
+        look.found[inner] = look.type_names.type_at(tree[2], inner)
     if word in ROWS_AT:
         at = ROWS_AT[word]
         look_at_rows(look, book, tree[at], (*place, at), local)

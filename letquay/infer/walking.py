@@ -305,7 +305,8 @@ def _logic(walk, tree, place, names):
 
 def _typed(walk, tree, place, names):
     node = expression(walk, tree[1], (*place, 1), names)
-    wanted = walk.plain(walk.found[(*place, 2)], {})
+    inner = (*place, 2)
+    wanted = walk.plain(walk.found[inner], {})
     walk.demand((*place, 1), wanted, node)
     return wanted
 

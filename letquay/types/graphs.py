@@ -234,6 +234,17 @@ class Graph:
         return head is None and must
 
 
+def marked_number(graph, index):
+    """The least number of the variables that are one with a node, if it must admit equality and has no type put in.
+
+    This is no method: what a property calls must change nothing, and methods are known by their names alone.
+    """
+    while graph.nodes[index][0] != index:
+        index = graph.nodes[index][0]
+    _, head, _, least, must, _ = graph.nodes[index]
+    return least if head is None and must else None
+
+
 def renumbered_together(types):
     """The types with their variables renamed to 0, 1, .. in the order in which they first stand in all of them."""
     images = numbered(variables_in(("tuple", types)))

@@ -2,7 +2,7 @@
 
 from letquay.checks import is_place, is_whole
 from letquay.errors import InvalidNumber, InvalidOperation, InvalidType, NothingToUndo, Refused, TooMany
-from letquay.types.graphs import Graph, check_size, demand_one, refuse
+from letquay.types.graphs import Graph, check_size, demand_one, marked_number, refuse
 from letquay.types.shapes import MAX_SIZE, children, variables_in
 from letquay.types.terms import admits_with, are_types, asked_variables, check_book, check_marked, is_type
 
@@ -94,11 +94,8 @@ class Solver:
     @property
     def marked(self):
         """The numbers of the variables without a type put in that must admit equality, each class by its least one."""
-        found = []
-        for number, node in enumerate(self._variables):
-            if self._graph.free_and_marked(node) and self._graph.type_at(node) == ("var", number):
-                found = [*found, number]
-        return tuple(found)
+        pairs = list(enumerate(self._variables))
+        return tuple([number for number, node in pairs if marked_number(self._graph, node) == number])
 
     def undo(self, *, many=1):
         """Take the last calls that had an effect back; how many are left."""

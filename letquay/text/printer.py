@@ -2,6 +2,7 @@
 
 from letquay.errors import InvalidTree
 from letquay.text.forms import MEMBERS, NODES, RECORDS, form_of
+from letquay.text.literals import number_text, string_text
 from letquay.text.trees import is_tree
 
 # The number of the row EA, behind all others of expressions, and that of TA and of PA.
@@ -207,16 +208,11 @@ def _node_items(tree, sort, row):
     return ["(", *items, ")"] if own < row else items
 
 
-def _string_text(value):
-    inside = value.replace("\\", "\\\\").replace("\"", "\\\"")
-    return "\"" + inside + "\""
-
-
 def _leaf_text(value, sort):
     if sort == "integer":
-        return f"~{-value}" if value < 0 else str(value)
+        return number_text(value)
     if sort == "string":
-        return _string_text(value)
+        return string_text(value)
     return value if isinstance(value, str) else ".".join(value)
 
 

@@ -65,7 +65,7 @@ class Reading:
 
     def __init__(self, text):
         self.tokens = tokens_of(text)
-        self.at = 0
+        self.position = 0
         self.held = []
         self.marks = []
         self.many_open = 0
@@ -73,7 +73,7 @@ class Reading:
 
     def next_spot(self):
         """The index at which the next token begins."""
-        return self.tokens[self.at][2]
+        return self.tokens[self.position][2]
 
     def enter(self):
         """Open the next token."""
@@ -126,9 +126,9 @@ class Reading:
             elif item == kind:
                 if worth is not None:
                     self.held.append(worth)
-                self.at += 1
+                self.position += 1
                 if todo:
-                    kind, worth, _ = self.tokens[self.at]
+                    kind, worth, _ = self.tokens[self.position]
             elif item[0] in HIGH_LETTERS:
                 todo.extend(self.line_at(item, kind))
             else:

@@ -1,0 +1,1 @@
+"""Core terms and code, compiling and the judge of code."""

@@ -1,0 +1,1 @@
+"""Sessions and desks."""

@@ -1,0 +1,1 @@
+"""The machine that runs code."""

@@ -1,0 +1,1 @@
+"""The rules: runs of typed programs, as they are written."""

@@ -1,0 +1,1 @@
+"""Units that are compiled apart, and linked."""

@@ -318,7 +318,7 @@ class NamesTest(unittest.TestCase):
             self.assertEqual(method.body[-1].value.func.id, "len", where(module, method))
         if method.name == "__iter__":
             self.assertEqual(len(method.body), 1, where(module, method))
-            self.assertEqual(ast.unparse(method.body[0])[:17], "return iter(self.")
+            self.assertIn(ast.unparse(method.body[0])[:17], ("return iter(self.", "raise TypeError('"))
 
     def test_decorators_stand_in_classes(self):
         for module, tree in TREES.items():

@@ -14,13 +14,13 @@ class Way:
 
     def __init__(self, entries, asked, start):
         self.entries = entries
-        self.asked = asked
+        self.asked_keys = asked
         self.start = start
 
     def behind(self, place, keys, entry):
         """The way on behind a test."""
         entries = {**self.entries, place: entry} if entry is not None else self.entries
-        return Way(entries, {**self.asked, place: [*self.asked.get(place, []), *keys]}, self.start)
+        return Way(entries, {**self.asked_keys, place: [*self.asked_keys.get(place, []), *keys]}, self.start)
 
 
 def _is_index(value, rows):
@@ -99,7 +99,7 @@ class TreeJudge:
         keys = [pair[0] for pair in table]
         if not all([self.is_key(kind, key) for key in keys]) or len(set(keys)) < len(keys):
             return False
-        asked = way.asked.get(place)
+        asked = way.asked_keys.get(place)
         if asked is not None and (self.kinds.sort_of(kind) != "exn" or any([key in asked for key in keys])):
             return False
         return other is not None or self.has_all(kind, keys)
@@ -165,7 +165,7 @@ class TreeJudge:
         index = value[1]
         if self.rows[index][1] != (word == "guard") or not self.is_met_first(way, index, value[2]):
             return None
-        return [(value[3], Way(way.entries, way.asked, index + 1))] if word == "guard" else []
+        return [(value[3], Way(way.entries, way.asked_keys, index + 1))] if word == "guard" else []
 
     def is_right(self, value, most):
         """Whether any value is a right tree with at most so many nodes."""

@@ -11,19 +11,39 @@ MAX_LETTERS = 10000
 
 KINDS = ("value", "structure", "exception", "functor")
 
-# What stands behind the word of a term, and of a pattern. A sort with "?" behind it can be None.
-TERMS = {
-    "int": ("integer",), "string": ("string",), "name": ("key",), "tuple": ("terms",), "con": ("high", "term?"),
-    "table": ("fields",), "field": ("term", "key"), "exception": ("high",), "packet": ("term", "term?"),
-    "reserved": ("reserved",), "fn": ("rows",), "call": ("term", "term"), "let": ("pairs", "term"),
-    "case": ("term", "rows"), "if": ("term", "term", "term"), "raise": ("term",), "handle": ("term", "rows"),
-    "then": ("term", "term"), "while": ("term", "term"), "both": ("term", "term"), "either": ("term", "term"),
-    "op": ("word", "operands"),
-}
-PATTERNS = {
-    "any": (), "name": ("key",), "int": ("integer",), "string": ("string",), "tuple": ("patterns",),
-    "con": ("high", "pattern?"), "packet": ("exception term", "pattern?"), "as": ("key", "pattern"),
-    "or": ("pattern", "pattern"),
+# What stands behind the word of a term or a pattern. A sort with "?" behind it can be None.
+FORMS = {
+    "term int": ("integer",),
+    "term string": ("string",),
+    "term name": ("key",),
+    "term tuple": ("terms",),
+    "term con": ("high", "term?"),
+    "term table": ("fields",),
+    "term field": ("term", "key"),
+    "term exception": ("high",),
+    "term packet": ("term", "term?"),
+    "term reserved": ("reserved",),
+    "term fn": ("rows",),
+    "term call": ("term", "term"),
+    "term let": ("pairs", "term"),
+    "term case": ("term", "rows"),
+    "term if": ("term", "term", "term"),
+    "term raise": ("term",),
+    "term handle": ("term", "rows"),
+    "term then": ("term", "term"),
+    "term while": ("term", "term"),
+    "term both": ("term", "term"),
+    "term either": ("term", "term"),
+    "term op": ("word", "operands"),
+    "pattern any": (),
+    "pattern name": ("key",),
+    "pattern int": ("integer",),
+    "pattern string": ("string",),
+    "pattern tuple": ("patterns",),
+    "pattern con": ("high", "pattern?"),
+    "pattern packet": ("exception term", "pattern?"),
+    "pattern as": ("key", "pattern"),
+    "pattern or": ("pattern", "pattern"),
 }
 
 
@@ -73,11 +93,11 @@ def _is_leaf(sort, value):
 LEAVES = ("integer", "string", "key", "high", "reserved", "word")
 
 
-def form_in(table, value):
-    """The sorts of the parts of any value by its word, or None if it has no such word, or other members."""
+def form_in(kind, value):
+    """The sorts of the parts of any value, as a term or pattern, or None if it has no such word, or other members."""
     if not isinstance(value, tuple) or len(value) == 0 or not isinstance(value[0], str):
         return None
-    sorts = table.get(value[0])
+    sorts = FORMS.get(f"{kind} {value[0]}")
     return sorts if sorts is not None and len(value) == 1 + len(sorts) else None
 
 
@@ -103,10 +123,10 @@ def keys_of(pattern):
 def is_named(value):
     """Whether any value is a name, a field of a name or of such a field, or reserved, as far as words tell."""
     many = 0
-    while form_in(TERMS, value) is not None and value[0] == "field" and many <= MAX_CORE_DEPTH:
+    while form_in("term", value) is not None and value[0] == "field" and many <= MAX_CORE_DEPTH:
         value = value[1]
         many += 1
-    return form_in(TERMS, value) is not None and (value[0] == "name" or value[0] == "reserved" and many == 0)
+    return form_in("term", value) is not None and (value[0] == "name" or value[0] == "reserved" and many == 0)
 
 
 class Survey:
@@ -131,7 +151,7 @@ class Survey:
             if word == "term":
                 self._term(what, depth)
             elif word == "pattern":
-                self._node(PATTERNS, what, depth)
+                self._node("pattern", what, depth)
             elif word == "row":
                 self._row(what, depth)
             elif word == "body":
@@ -162,9 +182,9 @@ class Survey:
         if not self.wrong:
             self.todo.extend(actions[::-1])
 
-    def _node(self, table, value, depth):
+    def _node(self, kind, value, depth):
         """Go through a term or pattern."""
-        sorts = form_in(table, value)
+        sorts = form_in(kind, value)
         self._add_nodes(1, depth)
         if not self._check(sorts is not None):
             return
@@ -206,8 +226,8 @@ class Survey:
         return [("term", field[1], depth + 1) for field in fields]
 
     def _term(self, value, depth):
-        if form_in(TERMS, value) is None or value[0] != "let":
-            self._node(TERMS, value, depth)
+        if form_in("term", value) is None or value[0] != "let":
+            self._node("term", value, depth)
             if not self.wrong and value[0] == "name" and self.bound.get(value[1], 0) == 0:
                 self._check(value[1][0] == "structure")
                 self.unit_names[value[1][1]] = True

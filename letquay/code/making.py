@@ -194,25 +194,25 @@ def _unbind(making, bound):
 
 def _group(making, functions, bound):
     """A group of functions, which hold their own values and behind them all functions."""
+    level = len(making.levels)
+    for place, (key, _) in enumerate(functions):
+        making.bindings.bind(key, (level, "sibling", place))
     made = []
     inside = [("member", functions, rows, made) for _, rows in functions]
     making.later([*inside, ("group", functions, made, bound)])
 
 
 def _member(making, functions, rows, made):
-    level = len(making.levels)
-    for place, (key, _) in enumerate(functions):
-        making.bindings.bind(key, (level, "sibling", place))
     making.begin_block()
     making.later([("rows", rows, 0, None, None), ("end member", functions, made)])
 
 
 def _end_member(making, functions, made):
     made.append(making.end_block(len(functions)))
-    _unbind(making, [key for key, _ in functions])
 
 
 def _end_group(making, functions, made, bound):
+    _unbind(making, [key for key, _ in functions])
     for _, held in made:
         for binding in held:
             making.push_binding(binding)

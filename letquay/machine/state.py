@@ -159,7 +159,7 @@ class State:
         self.cells = list(heap)
 
     def seen(self, value):
-        """A value with what is in its cell, and with the name of an exception, in the place of addresses and numbers."""
+        """A value with what is in its cell, and the name of an exception, in the place of addresses and numbers."""
         if value[0] == "unit":
             return ("tuple", ())
         if value[0] == "word":

@@ -125,7 +125,7 @@ class Flattening:
 
     def __init__(self, program):
         self.book = program.book
-        self.faces = {place: face for place, face in program.faces}
+        self.face_at = {place: face for place, face in program.faces}
         self.made_once = program.functors
         self.many_picked = 0
 
@@ -168,7 +168,7 @@ class Flattening:
         elif word == "structure":
             inner = (*place, 2)
             pairs.found.append((("name", ("structure", tree[1])), self.structure(tree[2], scope, inner)))
-            items = {("structure", tree[1]): _table_of(self.book, self.faces[inner])}
+            items = {("structure", tree[1]): _table_of(self.book, self.face_at[inner])}
         elif word == "functor":
             pairs.found.append((("name", ("functor", tree[1])), self._functor(tree, scope, place)))
         pairs.declare(_declared_keys(tree))
@@ -190,7 +190,7 @@ class Flattening:
             argument = self.structure(tree[2], scope, (*place, 2))
             face = self.made_once[tree[1]].parameter.face
             return ("call", ("name", ("functor", tree[1])), self.pick(face, argument))
-        return self.pick(self.faces[place], self.structure(tree[1], scope, (*place, 1)))
+        return self.pick(self.face_at[place], self.structure(tree[1], scope, (*place, 1)))
 
 
 def _built(path, tag, inner):

@@ -23,14 +23,24 @@ class Functor(FunctorBase):
         self.greatest = max([parameter.greatest, face.greatest, *made])
         self.parameter = parameter
         self.face = face
-        self.made = made
+        self._made = made
         self.notes = notes
-        self.faces = faces
+        self._faces = faces
+
+    @property
+    def made(self):
+        """The ascending tuple of the made stamps."""
+        return self._made
+
+    @property
+    def faces(self):
+        """The pairs (place, face) of all structures in the body."""
+        return self._faces
 
     def __eq__(self, other):
         if not isinstance(other, Functor) or self.parameter != other.parameter or self.face != other.face:
             return False
-        return self.made == other.made and self.notes == other.notes and self.faces == other.faces
+        return self._made == other._made and self.notes == other.notes and self._faces == other._faces
 
 
 def _parameter(book, scope, signature):

@@ -22,9 +22,14 @@ class Program:
         self.book = result.book
         self.inner = result.face
         self.notes = result.notes
-        self.faces = result.faces
+        self._faces = result.faces
         self.face = face
         self._signatures, self._functors = tables
+
+    @property
+    def faces(self):
+        """The pairs (place, face) of all structures."""
+        return self._faces
 
     @property
     def uses(self):
@@ -96,7 +101,7 @@ class UnitCourse:
         self.made_once[tree[1]] = functor
         course.book = book
         course.notes.extend([((*place, 4, *inner), note) for inner, note in functor.notes])
-        course.faces.extend([((*place, 4, *inner), face) for inner, face in functor.faces])
+        course.face_notes.extend([((*place, 4, *inner), face) for inner, face in functor.faces])
         declaring.scope = declaring.scope.with_functor(tree[1], functor)
 
 

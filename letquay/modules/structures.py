@@ -22,7 +22,12 @@ class TypedStructure:
         self.book = book
         self.face = face
         self.notes = notes
-        self.faces = faces
+        self._faces = faces
+
+    @property
+    def faces(self):
+        """The pairs (place, face) of all structures in it."""
+        return self._faces
 
 
 class Course:
@@ -31,11 +36,11 @@ class Course:
     def __init__(self, book):
         self.book = book
         self.notes = []
-        self.faces = []
+        self.face_notes = []
 
     def result(self, face):
         """What has been typed, with a face."""
-        return TypedStructure(self.book, face, tuple(self.notes), tuple(self.faces))
+        return TypedStructure(self.book, face, tuple(self.notes), tuple(self.face_notes))
 
     def structure(self, scope, tree, place):
         """The face of a structure, which stands at a place."""
@@ -48,7 +53,7 @@ class Course:
             face = self._applied(scope, tree, place)
         else:
             face = self._seal_or_fit(scope, tree, place)
-        self.faces.append((place, face))
+        self.face_notes.append((place, face))
         return face
 
     def _applied(self, scope, tree, place):

@@ -219,6 +219,19 @@ def part_at(tree, place):
     return part
 
 
+def depth_of(tree, kind):
+    """How deep a tree of some kind is."""
+    deepest = 0
+    todo = [([tree], kind, 0)]
+    while todo:
+        values, sort, depth = todo.pop()
+        if sort in NODES:
+            depth += 1
+            deepest = max(deepest, depth)
+        todo.extend([(parts, inner, depth) for inner, parts in _inside(values, sort) if parts])
+    return deepest
+
+
 def _sorts_in(part, sort):
     """The first index of what stands in a part of a tree of this sort, and the tuple of the sorts."""
     if sort in NODES:

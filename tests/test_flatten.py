@@ -259,15 +259,13 @@ class BoundsTest(unittest.TestCase):
     def test_too_deep(self):
         def nested(n):
             text = "signature Sa = sig end structure Ba = struct end "
-            names = [f"{one}{two}" for one in "abcdefghij" for two in "abcdefghij"]
-            last = "a"
-            for name_ in names[:n]:
-                text += f"signature S{name_} = sig structure A : S{last} end structure B{name_} = struct structure A = B{last} end "
-                last = name_
-            return f"{text} structure Z = B{last} :> S{last}"
-        self.assertTrue(is_core(core(nested(70))))
+            for one, two in zip("abcdefghij", "bcdefghij"[:n]):
+                text += f"signature S{two} = " + "sig structure A : " * 27 + f"S{one}" + " end" * 27 + " "
+                text += f"structure B{two} = " + "struct structure A = " * 27 + f"B{one}" + " end" * 27 + " "
+            return f"{text} structure Z = B{'abcdefghij'[n]} :> S{'abcdefghij'[n]}"
+        self.assertTrue(is_core(core(nested(2))))
         with self.assertRaises(TooMany) as caught:
-            core(nested(90))
+            core(nested(3))
         self.assertEqual(caught.exception.limit, 20000)
 
     def test_all_terms_are_core_terms_and_run_alike(self):

@@ -91,7 +91,7 @@ class WholeTest(unittest.TestCase):
         half = "val x = (" + ", ".join(["1"] * 1495) + ")"
         self.assertEqual(len(whole((unit("A", (), half), unit("B", (), half)))), 2)
         self.assertRaises(InvalidUnit, whole, (unit("A", (), half), unit("B", (), half), CELL))
-        deep = "val x = " + "(" * 56 + "1" + ", 1)" * 56
+        deep = "val x = " + "(" * 57 + "1" + ", 1)" * 57
         self.assertRaises(InvalidUnit, whole, (unit("A", (), "structure S = struct structure T = struct end end"), unit("B", (), deep)))
 
     def check(self, units, inputs=()):

@@ -1,0 +1,247 @@
+"""Sessions: promises [12.1] to [12.3], part 12a."""
+
+import unittest
+
+from letquay.desk.sessions import Session
+from letquay.errors import InvalidNumber, InvalidOperation, NothingToUndo, ParseError, Refused, TooMany, UnknownName
+from letquay.modules.programs import typed_unit
+from letquay.rules.runs import Run
+from letquay.text.reader import read_declaration, read_unit
+from tests.odd import ODD
+
+
+def state(session):
+    return (session.phrases, session.output, session.reads, session.names, len(session), str(session), session.inputs,
+            [(name, session.scheme_of(name), session.text(name)) for name in session.names], session.program)
+
+
+def given(*texts, inputs=()):
+    session = Session(inputs)
+    for text in texts:
+        session.phrase(text)
+    return session
+
+
+def reason_of(call, *args):
+    try:
+        call(*args)
+    except Refused as refused:
+        return refused.reason
+    return None
+
+
+class PhraseTest(unittest.TestCase):
+    def test_answers(self):
+        session = Session((7, 8))
+        for text, wanted in (
+                ("1 + 2", ("val it : int = 3",)), ("it * 2", ("val it : int = 6",)), ("val x = it", ("val x : int = 6",)),
+                ("val rec len = fn [] => 0 | _ :: l => 1 + len l end", ("val len : 'a list -> int = fn",)),
+                ("val (b, a) = (1, \"s\")", ('val a : string = "s"', "val b : int = 1")), ("val _ = 1", ()),
+                ("val rec odd = fn 0 => False | n => even (n - 1) end and even = fn 0 => True | n => odd (n - 1) end", (
+                    "val even : int -> bool = fn", "val odd : int -> bool = fn")),
+                ("type 'a p = 'a * 'a", ("type p",)), ("datatype 'a t = A | B of 'a and u = C", ("datatype t, u",)), ("exception E of int", ("exception E",)),
+                ("exception F = E", ("exception F",)), ("structure S = struct val q = 1 val _ = print \"in\" end", ("in", "structure S")),
+                ("signature N = sig end", ("signature N",)), ("functor G(X : N) = struct val r = ref 0 end", ("functor G",)), ("open S", ()),
+                ("q", ("val it : int = 1",)), ("(print \"a\"; print \"b\"; B 1)", ("a", "b", "val it : int t = B 1")), ("read ()", ("val it : int = 7",)),
+                ("fn x => x = x end", ("val it : ''a -> bool = fn",)), ("[]", ("val it : 'a list = []",)), ("print (text (read ()))", ("8", "val it : unit = ()")),
+                ("val\nx\n=\n\"new\"", ('val x : string = "new"',))):
+            self.assertEqual(session.phrase(text), wanted, text)
+        self.assertEqual((session.output, session.reads, len(session), str(session)), (("in", "a", "b", "8"), 2, 22, "session of 22 phrases"))
+        self.assertEqual(session.names, ("a", "b", "even", "it", "len", "odd", "x"))
+        self.assertEqual((session.text("x"), session.scheme_of("len"), session.text("it")), ('"new"', "'a list -> int", "()"))
+        self.assertEqual(session.program, typed_unit(session.phrases))
+
+    def test_a_session_is_its_program(self):
+        texts = ("val r = ref 0", "val f = fn n => (r := !r + n; print (text (!r)); !r) end", "f 5", "f (read ())", "val s = (r, it)")
+        session = given(*texts, inputs=(3, 4))
+        whole = read_unit("val r = ref 0 val f = fn n => (r := !r + n; print (text (!r)); !r) end val it = f 5 val it = f (read ()) val s = (r, it)")
+        self.assertEqual(session.phrases, whole)
+        run = Run(typed_unit(whole), (3, 4))
+        run.go_on(most=20000)
+        self.assertEqual((session.output, session.reads), (run.output, run.reads))
+        self.assertEqual(tuple((name, session.text(name)) for name in session.names), run.ends[1])
+        self.assertEqual(session.text("r"), "ref 8")
+
+    def test_refused_phrases_leave_nothing(self):
+        session = given("val r = ref 1", "exception E of int", "val x = read ()", inputs=(5, 6))
+        before = state(session)
+        for text, wanted in (
+                ("(print \"a\"; r := 5; read (); 1 div 0)", ("raised", "Div")), ("(raise E 3 : int)", ("raised", "E")), ("val 1 = 2", ("raised", "Match")),
+                ("let rec f = fn n => f (n + 1) end in (print \"a\"; (f 0 : int)) end", ("long",)), ("nothing", ("unbound", (3, 2), ("nothing",))),
+                ("val y = 1 + True", ("clash", (3, 2, 2, 1), ("made", 1, ()), ("made", 3, ()))), ("exception E", ("twice", (3,), "E")),
+                ("val y = ref []", ("open", (3, 1), "y")), ("open S", ("unbound", (3,), ("S",))), ("(read (); read ())", ("raised", "End")),
+                ("structure S = struct val a = 1 val b = c end", ("unbound", (3, 2, 1, 1, 2), ("c",)))):
+            self.assertEqual(reason_of(session.phrase, text), wanted, text)
+            self.assertEqual(state(session), before, text)
+        self.assertEqual(session.phrase("read ()"), ("val it : int = 6",))
+
+    def test_texts_that_are_none(self):
+        session = Session()
+        for text, spot in (("val x =", 7), ("", 0), ("1 +", 3), ("val", 3), ("?", 0), ("val x = 1 val y = 2", 10), ("1 2 )", 4), ("sig end", 0), ("~0", 0), ("end", 0)):
+            with self.assertRaises(ParseError) as caught:
+                session.phrase(text)
+            self.assertEqual(caught.exception.spot, spot, text)
+        for odd in ODD:
+            if not isinstance(odd, str):
+                with self.assertRaises(ParseError) as caught:
+                    session.phrase(odd)
+                self.assertIsNone(caught.exception.spot)
+                self.assertRaises(ParseError, session.asked, odd)
+        self.assertEqual(len(session), 0)
+
+    def test_how_deep(self):
+        session = Session()
+        deep = "(" * 58 + "1" + ", 1)" * 58
+        session.phrase(deep)
+        for call in (session.phrase, session.asked):
+            text = f"({deep}, 1)"
+            with self.assertRaises(ParseError) as caught:
+                call(text)
+            self.assertEqual(caught.exception.spot, len(text))
+        self.assertRaises(ParseError, session.phrase, f"val x = ({deep}, 1)")
+
+    def test_how_many_nodes(self):
+        def rows(n):
+            return "fn " + " | ".join(["1 => 1"] * n) + " end"
+        session = given(f"val x = {rows(745)}", f"val x = {rows(745)}")
+        session.phrase("(1, 2, 3, 4, 5, 6, 7, 8, 9, 10)")
+        for text in ("1", "val y = 1", "exception E", "type t = int * int"):
+            if text != "exception E":
+                with self.assertRaises(TooMany) as caught:
+                    session.phrase(text)
+                self.assertEqual(caught.exception.limit, 3000)
+        self.assertRaises(TooMany, session.asked, "x")
+        self.assertEqual(len(session), 3)
+        session.phrase("exception E")
+        self.assertRaises(TooMany, session.phrase, "exception F")
+        for call in (Session().phrase, Session().asked):
+            with self.assertRaises(TooMany) as caught:
+                call(rows(1499))
+            self.assertEqual(caught.exception.limit, 3000)
+        Session().phrase(rows(1498))
+        self.assertRaises(ParseError, Session().phrase, rows(1500))
+        great = given(*[f"val {x} = ({y}, {y}, {y})" for x, y in zip("abcd", ("1", *"abc"))])
+        with self.assertRaises(TooMany) as caught:
+            great.phrase("(d, d, d)")
+        self.assertEqual(caught.exception.limit, 300)
+
+    def test_asked(self):
+        session = given("val rec map = fn (f, []) => [] | (f, x :: l) => f x :: map (f, l) end", "val r = ref 1")
+        before = state(session)
+        for text, wanted in (("map", "('a -> 'b) * 'a list -> 'b list"), ("1 div 0", "int"), ("(print \"a\"; r := 7)", "unit"), ("fn x => x = x end", "''a -> bool"),
+                             ("read ()", "int")):
+            self.assertEqual(session.asked(text), wanted)
+        self.assertEqual(reason_of(session.asked, "map 1")[0], "clash")
+        self.assertEqual(reason_of(session.asked, "ref []"), ("open", (2, 1), "it"))
+        for text in ("val x = 1", "open S", "1 1 +"):
+            self.assertRaises(ParseError, session.asked, text)
+        self.assertEqual(state(session), before)
+
+
+class KeepingTest(unittest.TestCase):
+    def test_undo_and_redo(self):
+        session = given("val x = read ()", "val y = (print \"a\"; x + 1)", "x * y", inputs=(3,))
+        states = [state(given(*texts, inputs=(3,))) for texts in ((), ("val x = read ()",), ("val x = read ()", "val y = (print \"a\"; x + 1)"))] + [state(session)]
+        self.assertEqual(session.undo(), ("val it = x * y",))
+        self.assertEqual(state(session), states[2])
+        self.assertEqual(session.undo(many=2), ('val y = (print "a"; x + 1)', "val x = read ()"))
+        self.assertEqual(state(session), states[0])
+        self.assertEqual(session.redo(many=2), ("val x = read ()", 'val y = (print "a"; x + 1)'))
+        self.assertEqual(state(session), states[2])
+        self.assertEqual((session.undo(many=0), session.redo(many=0), state(session) == states[2]), ((), (), True))
+        self.assertEqual(reason_of(session.phrase, "1 div 0"), ("raised", "Div"))
+        self.assertEqual(session.redo(), ("val it = x * y",))
+        self.assertEqual(state(session), states[3])
+        session.undo(many=2)
+        session.phrase("x")
+        self.assertRaises(NothingToUndo, session.redo)
+        with self.assertRaises(NothingToUndo) as caught:
+            session.undo(many=3)
+        self.assertEqual(caught.exception.many, 3)
+        for wrong in (-1, True, None, "1", (), 10 ** 70):
+            for call in (session.undo, session.redo):
+                with self.assertRaises(InvalidNumber) as caught:
+                    call(many=wrong)
+                self.assertIs(caught.exception.given, wrong)
+        self.assertEqual([len(session), session.text("it")], [2, "3"])
+
+    def test_during(self):
+        session = given("val x = 1", "val y = 2")
+        session.undo()
+        before = state(session)
+
+        def play(inner):
+            self.assertIs(inner, session)
+            inner.phrase("val z = 5")
+            inner.undo(many=2)
+            inner.phrase("val w = 6")
+            return inner.text("w")
+        self.assertEqual(session.during(play), "6")
+        self.assertEqual(state(session), before)
+
+        def fail(inner):
+            play(inner)
+            raise KeyError("x")
+        self.assertRaises(KeyError, session.during, fail)
+        self.assertEqual(state(session), before)
+        self.assertEqual(session.during(lambda inner: inner.during(play)), "6")
+        self.assertEqual(session.redo(), ("val y = 2",))
+
+    def test_twins(self):
+        session = given("val x = 1", "val y = 2", "val z = 3")
+        session.undo()
+        twin = session.twin()
+        self.assertTrue(twin == session)
+        self.assertEqual(twin.redo(), ("val z = 3",))
+        self.assertTrue(twin != session)
+        twin.undo(many=3)
+        self.assertEqual((len(twin), len(session), session.redo()), (0, 2, ("val z = 3",)))
+
+    def test_equality(self):
+        self.assertTrue(given("val x = 1") == given("val  x = 1"))
+        self.assertTrue(given("val x = 1") != given("val x = 2"))
+        self.assertTrue(Session((1,)) != Session())
+        one = given("val x = 1", "val y = 2")
+        one.undo()
+        self.assertTrue(one == given("val x = 1"))
+        for odd in ODD:
+            self.assertFalse(Session() == odd)
+        with self.assertRaises(TypeError):
+            list(one)
+
+    def test_names(self):
+        session = given("val x = 1", "structure S = struct val y = 2 end")
+        self.assertEqual(session.names, ("x",))
+        for wrong in (*ODD, "y", "S", "S.y", ("x",)):
+            if wrong != "x":
+                for call in (session.scheme_of, session.text):
+                    with self.assertRaises(UnknownName) as caught:
+                        call(wrong)
+                    self.assertIs(caught.exception.wanted, wrong)
+
+    def test_wrong_inputs(self):
+        for wrong in (*ODD, (2 ** 62,), (True,), [1]):
+            if not isinstance(wrong, tuple) or not all(type(n) is int and abs(n) < 2 ** 62 for n in wrong):
+                self.assertRaises(InvalidOperation, Session, wrong)
+        self.assertEqual(Session((1, 2)).inputs, (1, 2))
+
+    def test_sessions_that_answer_alike(self):
+        """[12.6]: two sessions that answer alike need not be equal."""
+        one, other = Session(), Session()
+        self.assertEqual(one.phrase("1 + 1"), other.phrase("2"))
+        self.assertFalse(one == other)
+
+    def test_a_fresh_session(self):
+        texts = ("val r = ref 0", "val _ = r := read ()", "exception A", "(raise A : int)", "val x = !r", "val y = read ()", "read ()")
+        session = Session((4, 5))
+        stood = []
+        for text in texts:
+            if reason_of(session.phrase, text) is None:
+                stood.append(text)
+        self.assertEqual(len(stood), 5)
+        self.assertEqual(state(session), state(given(*stood, inputs=(4, 5))))
+        self.assertEqual(session.phrases, tuple(read_declaration(text) for text in stood))
+
+
+if __name__ == "__main__":
+    unittest.main()

@@ -131,6 +131,32 @@ class Package:
         return found
 
 
+def kept_tables(trees):
+    """The names of lists and dicts at module level that are not only read: passed on, returned or given another name."""
+    tables = {node.targets[0].id for tree in trees for node in tree.body
+              if isinstance(node, ast.Assign) and isinstance(node.value, (ast.List, ast.Dict))}
+    found = []
+    for tree in trees:
+        outer = {inner: node for node in ast.walk(tree) for inner in ast.iter_child_nodes(node)}
+        for node in ast.walk(tree):
+            if isinstance(node, ast.Name) and isinstance(node.ctx, ast.Load) and node.id in tables:
+                above = outer[node]
+                reading = isinstance(above, (ast.Attribute, ast.For, ast.comprehension, ast.Compare)) or (
+                    isinstance(above, ast.Subscript) and above.value is node) or (
+                    isinstance(above, ast.Call) and isinstance(above.func, ast.Name) and above.func.id in MAKING | {"len", "min", "max", "sum"})
+                if not reading:
+                    found.append(node.id)
+    return found
+
+
+class TablesTest(unittest.TestCase):
+    def test_tables_are_only_read(self):
+        self.assertEqual(kept_tables(TREES.values()), [])
+        for text, many in (("A = {}\ndef f():\n return g(A)", 1), ("A = []\ndef f():\n return A", 1), ("A = {}\ndef f(k):\n return A[k], A.get(k), dict(A), k in A", 0),
+                           ("A = {}\ndef f(k):\n b = A\n return b", 1), ("A = (1, 2)\ndef f():\n return A", 0)):
+            self.assertEqual(len(kept_tables([ast.parse(text)])), many, text)
+
+
 class SubscriptTest(unittest.TestCase):
     def test_no_star_in_a_subscript(self):
         for module, tree in TREES.items():

@@ -17,10 +17,14 @@ class Way:
         self.asked_keys = asked
         self.start = start
 
-    def behind(self, place, keys, entry):
-        """The way on behind a test."""
-        entries = {**self.entries, place: entry} if entry is not None else self.entries
-        return Way(entries, {**self.asked_keys, place: [*self.asked_keys.get(place, []), *keys]}, self.start)
+    def asking(self, place, keys):
+        """The way on behind a test, as far as it is the same for all that can be found."""
+        asked = {**self.asked_keys, place: [*self.asked_keys.get(place, []), *keys]}
+        return Way(self.entries, asked, self.start)
+
+    def finding(self, place, entry):
+        """The way on where an entry has been found."""
+        return Way({**self.entries, place: entry}, self.asked_keys, self.start)
 
 
 def _is_index(value, rows):
@@ -113,19 +117,20 @@ class TreeJudge:
         _, place, table, other = value
         keys = [pair[0] for pair in table]
         entry = way.entries.get(place, ("but", ()))
+        asking = way.asking(place, keys)
         found = []
         for key, tree in table:
             is_let = entry[0] == "but" or entry[1] == key
-            found.append((tree, way.behind(place, keys, ("is", key)) if is_let else None))
+            found.append((tree, asking.finding(place, ("is", key)) if is_let else None))
         if other is None:
             return found
         if entry[0] == "is":
-            behind = None if entry[1] in keys else way.behind(place, keys, None)
+            behind = None if entry[1] in keys else asking
         elif self.has_all(self.kind_at(place, way), keys):
             behind = None
         else:
             excluded = tuple(sorted([*entry[1], *keys]))
-            behind = way.behind(place, keys, ("but", excluded) if excluded else None)
+            behind = asking.finding(place, ("but", excluded)) if excluded else asking
         return [*found, (other, behind)]
 
     def _met(self, way):
@@ -146,7 +151,7 @@ class TreeJudge:
         """Whether each value on a way meets this row ahead of all others, and binds the names at these places."""
         ahead = []
         for alternative, entries in self._met(way):
-            if is_found(self.kinds, self.kind, ahead, entries):
+            if not ahead or is_found(self.kinds, self.kind, ahead, entries):
                 own = tuple(list(alternative.bound.items()))
                 if alternative.row != row or not _is_same(bound, own):
                     return False

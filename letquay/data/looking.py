@@ -4,8 +4,8 @@ from letquay.data.faces import Face, is_reserved_tag, is_reserved_type, maker_of
 from letquay.data.groups import extended_by
 from letquay.errors import InvalidFace, InvalidOperation, InvalidTree, Refused, TooMany, UnknownName
 from letquay.text.names import is_high, is_low
-from letquay.text.trees import is_tree, part_at, places_in
-from letquay.types.schemes import Scheme
+from letquay.text.trees import is_tree
+from letquay.types.schemes import scheme_of_type
 from letquay.types.shapes import MAX_SIZE, nodes_of
 from letquay.types.terms import check_book, put_in
 
@@ -83,25 +83,50 @@ def _parameters(names):
     return {("var", name): number for number, name in enumerate(names)}
 
 
+def type_meant(scope, tree, variables):
+    """What `type_of_tree` tells, for what has been looked at already."""
+    return Names(scope, _parameters(variables), {}).type_at(tree, ())
+
+
 def type_of_tree(book, scope, tree, *, variables=()):
     """The type of a tree, in which the variables with these names can stand."""
     check_scope(book, scope)
     _check_tree(tree, "type")
     if not is_tree(variables, "parameters"):
         raise InvalidOperation("variables are a tuple of at most four different low names")
-    return Names(scope, _parameters(variables), {}).type_at(tree, ())
+    return type_meant(scope, tree, variables)
+
+
+def _variables_in_tree(tree, found):
+    """Note the variables in a tree, as they first stand in it."""
+    if tree[0] in ("var", "eqvar"):
+        found.setdefault(tree, len(found))
+        return
+    parts = tree[1:] if tree[0] == "fn" else tree[-1]
+    for part in parts:
+        _variables_in_tree(part, found)
+
+
+def scheme_meant(scope, tree):
+    """What `scheme_of_tree` tells, for what has been looked at already."""
+    variables = {}
+    _variables_in_tree(tree, variables)
+    T = Names(scope, variables, {}).type_at(tree, ())
+    return scheme_of_type(T, [number for part, number in variables.items() if part[0] == "eqvar"])
 
 
 def scheme_of_tree(book, scope, tree):
     """The scheme of a tree in which all variables are general."""
     check_scope(book, scope)
     _check_tree(tree, "type")
-    parts = [part_at(tree, place) for place in places_in(tree)]
-    found = {part: True for part in parts if part[0] in ("var", "eqvar")}
-    variables = {part: number for number, part in enumerate(found)}
-    T = Names(scope, variables, {}).type_at(tree, ())
-    marked = [number for part, number in variables.items() if part[0] == "eqvar"]
-    return Scheme.of(book, T, marked=tuple(marked))
+    return scheme_meant(scope, tree)
+
+
+def type_declared(scope, params, name, tree):
+    """What `declared_type` tells, for what has been looked at already."""
+    if is_reserved_type(name):
+        raise Refused(("twice", (), name))
+    return Face().with_type(name, (len(params), type_meant(scope, tree, params)))
 
 
 def declared_type(book, scope, params, name, tree):
@@ -110,10 +135,14 @@ def declared_type(book, scope, params, name, tree):
     _check_tree(params, "parameters")
     _check_name(is_low(name))
     _check_tree(tree, "type")
-    if is_reserved_type(name):
+    return type_declared(scope, params, name, tree)
+
+
+def exception_declared(scope, name, tree):
+    """What `declared_exception` tells, for what has been looked at already."""
+    if is_reserved_tag(name):
         raise Refused(("twice", (), name))
-    T = Names(scope, _parameters(params), {}).type_at(tree, ())
-    return Face().with_type(name, (len(params), T))
+    return Face().with_exception(name, None if tree is None else type_meant(scope, tree, ()))
 
 
 def declared_exception(book, scope, name, tree):
@@ -122,10 +151,7 @@ def declared_exception(book, scope, name, tree):
     _check_name(is_high(name))
     if tree is not None:
         _check_tree(tree, "type")
-    if is_reserved_tag(name):
-        raise Refused(("twice", (), name))
-    carried = None if tree is None else Names(scope, {}, {}).type_at(tree, ())
-    return Face().with_exception(name, carried)
+    return exception_declared(scope, name, tree)
 
 
 def _check_names(group):
@@ -163,6 +189,11 @@ def declared_group(book, scope, group):
     """The pair of the book with the stamps of a group, and of the face with its types and constructors alone."""
     check_scope(book, scope)
     _check_tree(group, "group")
+    return group_declared(book, scope, group)
+
+
+def group_declared(book, scope, group):
+    """What `declared_group` tells, for what has been looked at already."""
     _check_names(group)
     first = len(book) + 1
     makers = {name: maker_of(first + row, len(params)) for row, (params, name, _) in enumerate(group)}

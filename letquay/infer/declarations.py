@@ -9,7 +9,7 @@ from letquay.infer.parts import is_final_tree, names_of
 from letquay.infer.told import Telling, cases_with, derivation_of
 from letquay.infer.walking import Walk, bound_by, functions_of, unlike
 from letquay.text.trees import is_declaration
-from letquay.types.schemes import Scheme
+from letquay.types.schemes import scheme_of_type
 
 
 def _check_values(tree):
@@ -38,13 +38,18 @@ def typed_values(book, face, tree):
     """The typing of a declaration of values."""
     check_scope(book, face)
     _check_values(tree)
+    return values_typed(book, face, tree)
+
+
+def values_typed(book, face, tree):
+    """What `typed_values` tells, for what has been looked at already."""
     walk = Walk(book, looked_up_values(book, face, tree).found, False)
     bound, first = _bound(walk, tree)
     telling = Telling(walk)
     derivation = derivation_of(telling)
     _check_open(walk, bound)
     names = {
-        name: Scheme.of(book, telling.type_of(bound[name].node), marked=derivation[1]) for name in sorted(bound)}
+        name: scheme_of_type(telling.type_of(bound[name].node), derivation[1]) for name in sorted(bound)}
     return Typing(book, derivation, telling.type_of(first), cases=cases_with(telling), names=names)
 
 

@@ -7,7 +7,7 @@ from letquay.infer.parts import is_final_tree
 from letquay.infer.told import Telling, cases_with, derivation_of
 from letquay.infer.walking import Walk, expression
 from letquay.text.trees import is_expression
-from letquay.types.schemes import Scheme
+from letquay.types.schemes import scheme_of_type
 from letquay.types.shapes import outline
 from letquay.types.terms import text_with
 
@@ -70,5 +70,5 @@ def typed(book, face, tree):
     telling = Telling(walk)
     derivation = derivation_of(telling)
     body = derivation[0][0][1]
-    scheme = Scheme.of(book, body, marked=derivation[1]) if is_final_tree(tree) else None
+    scheme = scheme_of_type(body, derivation[1]) if is_final_tree(tree) else None
     return Typing(book, derivation, body, cases=cases_with(telling), scheme=scheme)

@@ -1,31 +1,33 @@
 """Telling: the derivation of a walk, with the types of the solution of all its demands."""
 
-from letquay.types.graphs import check_size
-from letquay.types.shapes import replaced, variables_in
+from letquay.errors import TooMany
+from letquay.types.graphs import Spelling
+from letquay.types.shapes import MAX_SIZE
 
 
-class Telling:
+class Telling(Spelling):
     """New numbers for the variables of a walk, in the order in which they first stand in its derivation."""
 
     def __init__(self, walk):
+        Spelling.__init__(self, walk.graph)
         self.walk = walk
         self.numbers = {}
         self.are_marked = {}
 
-    def _number(self, T):
-        """Give numbers to the variables of a type that have none."""
-        graph = self.walk.graph
-        for variable in variables_in(T):
-            if variable not in self.numbers:
-                self.numbers[variable] = len(self.numbers)
-                self.are_marked[self.numbers[variable]] = graph.free_and_marked(self.walk.variables[variable])
+    def variable(self, index):
+        """The type of a root that is a variable, with its new number."""
+        _, _, _, least, must, _ = self.graph.nodes[index]
+        number = len(self.numbers)
+        self.numbers[least] = number
+        self.are_marked[number] = must
+        return ("var", number)
 
     def type_of(self, node):
         """The type of a node, with the new numbers."""
-        check_size(self.walk.graph, node)
-        T = self.walk.graph.type_at(node)
-        self._number(T)
-        return replaced(T, {variable: ("var", self.numbers[variable]) for variable in variables_in(T)})
+        T = self.spelled(node)
+        if self.size_of(node) > MAX_SIZE:
+            raise TooMany(MAX_SIZE)
+        return T
 
     def types_put_in(self, pairs):
         """The tuple of the types that are put in, those for a local name in the order of its new numbers."""

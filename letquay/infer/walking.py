@@ -6,7 +6,6 @@ variables are generalized, and the rows of all matches.
 
 from letquay.infer.parts import ROWS_AT, cases_of, is_final_tree, pattern_parts
 from letquay.types.graphs import Graph, check_size, demand_one
-from letquay.types.shapes import variables_in
 
 INT = ("made", 1, ())
 STRING = ("made", 2, ())
@@ -86,12 +85,11 @@ class Walk:
         self.put_in[place] = []
         if not local.general:
             return local.node
-        T = self.graph.type_at(local.node)
-        images = {number: self.variables[number] for number in variables_in(T)}
+        images = {}
         for number, root in local.general:
-            images[number] = self.fresh(self.graph.free_and_marked(root))
-            self.put_in[place].append((number, images[number]))
-        return self.graph.add_type(T, images)
+            images[root] = self.fresh(self.graph.free_and_marked(root))
+            self.put_in[place].append((number, images[root]))
+        return self.graph.instance_of(local.node, images)
 
     def generalized(self, place, bound, names):
         """The locals for bound nodes, which see some names: what no name has that can be seen is generalized."""

@@ -6,8 +6,8 @@ from letquay.errors import InvalidNumber, InvalidOperation, InvalidTree, Refused
 from letquay.modules.applying import application
 from letquay.modules.bases import FunctorBase, behind
 from letquay.modules.scopes import check_scope_of
-from letquay.modules.signatures import signed_face
-from letquay.modules.structures import typed_structure
+from letquay.modules.signatures import signature_meant
+from letquay.modules.structures import structure_typed
 from letquay.text.names import is_high
 from letquay.text.trees import is_signature, is_structure
 from letquay.types.shapes import children, nodes_of
@@ -45,14 +45,14 @@ class Functor(FunctorBase):
 
 def _parameter(book, scope, signature):
     try:
-        return signed_face(book, scope, signature)
+        return signature_meant(book, scope, signature)
     except Refused as refused:
         raise Refused(behind(refused.reason, ("signature",))) from None
 
 
 def _body(book, scope, body):
     try:
-        return typed_structure(book, scope, body)
+        return structure_typed(book, scope, body)
     except Refused as refused:
         raise Refused(behind(refused.reason, ("body",))) from None
 
@@ -62,6 +62,11 @@ def typed_functor(book, scope, name, signature, body):
     check_scope_of(book, scope)
     if not is_high(name) or not is_signature(signature) or not is_structure(body):
         raise InvalidTree("a functor has a high name, a signature and a structure")
+    return functor_typed(book, scope, name, signature, body)
+
+
+def functor_typed(book, scope, name, signature, body):
+    """What `typed_functor` tells, for what has been looked at already."""
     extended, signed = _parameter(book, scope, signature)
     result = _body(extended, scope.with_face(scope.face.with_structure(name, signed.face)), body)
     made = tuple(range(len(extended) + 1, len(result.book) + 1))

@@ -1,6 +1,7 @@
 """Matching: whether a structure has what a signature wants."""
 
 from letquay.checks import is_integer
+from letquay.data.copies import renewed_stamps
 from letquay.data.faces import is_maker
 from letquay.data.looking import check_scope
 from letquay.errors import InvalidFace, Refused, TooMany
@@ -158,15 +159,28 @@ def is_matching(book, found, signed, value):
 
 def fitted(book, found, signed):
     """The face that is fitted to a signed face."""
-    makers = matched(book, found, signed)
-    return signed.put(makers)
+    check_scope(book, found)
+    _check_signed(book, signed)
+    return face_fitted(book, found, signed)
+
+
+def face_fitted(book, found, signed):
+    """What `fitted` tells, for what has been looked at already."""
+    return signed.face.with_makers(realization_of(book, found, signed))
 
 
 def sealed(book, found, signed):
     """The pair of the book with new stamps and of the sealed face."""
-    matched(book, found, signed)
-    extended, new = signed.renewed(book)
-    return extended, new.face
+    check_scope(book, found)
+    _check_signed(book, signed)
+    return face_sealed(book, found, signed)
+
+
+def face_sealed(book, found, signed):
+    """What `sealed` tells, for what has been looked at already."""
+    realization_of(book, found, signed)
+    extended, makers = renewed_stamps(book, signed.bound)
+    return extended, signed.face.with_makers(makers)
 
 
 def is_below(book, one, other):

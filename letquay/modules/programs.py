@@ -2,7 +2,7 @@
 
 from letquay.data.faces import Face, base_face
 from letquay.errors import InvalidFace, InvalidTree, Refused
-from letquay.modules.functors import typed_functor
+from letquay.modules.functors import functor_typed
 from letquay.modules.scopes import Scope
 from letquay.modules.structures import Course, Declaring
 from letquay.text.names import is_high
@@ -94,7 +94,7 @@ class UnitCourse:
     def _functor(self, tree, place):
         course, declaring = self.course, self.declaring
         try:
-            book, functor = typed_functor(course.book, declaring.scope, tree[2], tree[3], tree[4])
+            book, functor = functor_typed(course.book, declaring.scope, tree[2], tree[3], tree[4])
         except Refused as refused:
             word, (part, *rest), *more = refused.reason
             raise Refused((word, (*place, FUNCTOR_PARTS[part], *rest), *more)) from None

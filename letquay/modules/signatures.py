@@ -3,7 +3,7 @@
 from letquay.checks import is_integer
 from letquay.data.copies import copied_stamps, renewed_stamps
 from letquay.data.faces import Face, is_maker, is_reserved_tag, is_reserved_type, maker_of
-from letquay.data.looking import check_scope, declared_group, scheme_of_tree, type_of_tree
+from letquay.data.looking import check_scope, group_declared, scheme_meant, type_meant
 from letquay.errors import InvalidFace, InvalidOperation, InvalidTree, Refused, UnknownName
 from letquay.modules.bases import SignedBase, behind
 from letquay.modules.scopes import check_scope_of
@@ -225,17 +225,17 @@ class Sense:
         if word == "data":
             return self._group(seen, tree[1])
         if word == "val":
-            face = Face().with_value(tree[1], scheme_of_tree(self.book, seen, tree[2]))
+            face = Face().with_value(tree[1], scheme_meant(seen, tree[2]))
             return Meaning(face, (), (("value", (tree[1],)),))
         if word == "abbr":
-            T = type_of_tree(self.book, seen, tree[3], variables=tree[1])
+            T = type_meant(seen, tree[3], tree[1])
             return Meaning(Face().with_type(tree[2], (len(tree[1]), T)), (), (("type", (tree[2],)),))
-        carried = None if tree[2] is None else type_of_tree(self.book, seen, tree[2])
+        carried = None if tree[2] is None else type_meant(seen, tree[2], ())
         return Meaning(Face().with_exception(tree[1], carried), (), (("exception", (tree[1],)),))
 
     def _group(self, seen, group):
         first = len(self.book)
-        self.book, face = declared_group(self.book, seen, group)
+        self.book, face = group_declared(self.book, seen, group)
         paths = tuple([(name,) for _, name, _ in group])
         return Meaning(face, tuple(range(first + 1, len(self.book) + 1)), (("data", paths),))
 
@@ -249,7 +249,7 @@ class Sense:
         if len(params) != self.book.arity(stamp):
             raise Refused(("where", place, path))
         try:
-            T = type_of_tree(self.book, scope.face, written, variables=params)
+            T = type_meant(scope.face, written, params)
         except Refused as refused:
             raise Refused(behind(refused.reason, (*place, 4))) from None
         if self.book.asks(stamp) is not None and not admits_with(self.book, T, tuple(range(len(params)))):
@@ -285,6 +285,11 @@ def signed_face(book, scope, tree):
     check_scope_of(book, scope)
     if not is_signature(tree):
         raise InvalidTree("this is no signature")
+    return signature_meant(book, scope, tree)
+
+
+def signature_meant(book, scope, tree):
+    """What `signed_face` tells, for what has been looked at already."""
     sense = Sense(book)
     meaning = sense.meaning(scope, tree, ())
     return sense.book, Signed(sense.book, meaning.face, meaning.bound, meaning.entries)

@@ -1,14 +1,14 @@
 """Structures: their faces, and the typings of all declarations of values in them."""
 
 from letquay.data.faces import Face, is_reserved_tag
-from letquay.data.looking import declared_exception, declared_group, declared_type
+from letquay.data.looking import exception_declared, group_declared, type_declared
 from letquay.errors import InvalidTree, Refused, UnknownName
-from letquay.infer.declarations import typed_values
+from letquay.infer.declarations import values_typed
 from letquay.modules.applying import application
 from letquay.modules.bases import behind, placed
-from letquay.modules.matching import fitted, sealed
+from letquay.modules.matching import face_fitted, face_sealed
 from letquay.modules.scopes import check_scope_of
-from letquay.modules.signatures import item_at, signed_face
+from letquay.modules.signatures import item_at, signature_meant
 from letquay.text.trees import is_structure
 
 # Where the trees stand that the functions for declarations of types are about.
@@ -70,7 +70,7 @@ class Course:
     def signed_at(self, scope, tree, place):
         """The signed face of a signature, which stands at a place."""
         try:
-            self.book, signed = signed_face(self.book, scope, tree)
+            self.book, signed = signature_meant(self.book, scope, tree)
         except Refused as refused:
             raise Refused(behind(refused.reason, place)) from None
         return signed
@@ -78,7 +78,7 @@ class Course:
     def seal(self, found, signed, place):
         """A sealed face; what does not match is told at a place."""
         try:
-            self.book, face = sealed(self.book, found, signed)
+            self.book, face = face_sealed(self.book, found, signed)
         except Refused as refused:
             raise Refused(placed(refused.reason, place)) from None
         return face
@@ -89,7 +89,7 @@ class Course:
         if tree[0] == "seal":
             return self.seal(found, signed, place)
         try:
-            return fitted(self.book, found, signed)
+            return face_fitted(self.book, found, signed)
         except Refused as refused:
             raise Refused(placed(refused.reason, place)) from None
 
@@ -156,7 +156,7 @@ class Declaring:
 
     def _values(self, tree, place):
         try:
-            note = typed_values(self.course.book, self.scope.face, tree)
+            note = values_typed(self.course.book, self.scope.face, tree)
         except Refused as refused:
             raise Refused(behind(refused.reason, place)) from None
         self.course.notes.append((place, note))
@@ -189,10 +189,10 @@ class Declaring:
     def _declared_types(self, tree):
         course, seen = self.course, self.scope.face
         if tree[0] == "type":
-            return declared_type(course.book, seen, tree[1], tree[2], tree[3])
+            return type_declared(seen, tree[1], tree[2], tree[3])
         if tree[0] == "exception":
-            return declared_exception(course.book, seen, tree[1], tree[2])
-        course.book, face = declared_group(course.book, seen, tree[1])
+            return exception_declared(seen, tree[1], tree[2])
+        course.book, face = group_declared(course.book, seen, tree[1])
         return face
 
 
@@ -201,6 +201,11 @@ def typed_structure(book, scope, tree):
     check_scope_of(book, scope)
     if not is_structure(tree):
         raise InvalidTree("this is no structure")
+    return structure_typed(book, scope, tree)
+
+
+def structure_typed(book, scope, tree):
+    """What `typed_structure` tells, for what has been looked at already."""
     course = Course(book)
     face = course.structure(scope, tree, ())
     return course.result(face)

@@ -86,6 +86,24 @@ class Graph:
                 todo.extend([(inner, False) for inner in children(part)[::-1]])
         return done[0]
 
+    def instance_of(self, start, images):
+        """The node of the type of a node with other nodes for some variables, a dict by roots; all else is shared."""
+        done = dict(images)
+        todo = [self.root(start)]
+        while todo:
+            index = todo[-1]
+            if index not in done:
+                _, head, parts, _, _, _ = self.nodes[index]
+                roots = [self.root(part) for part in parts]
+                left = [part for part in roots if part not in done]
+                if left:
+                    todo.extend(left)
+                    continue
+                others = [done[part] for part in roots]
+                done[index] = index if others == roots else self._add(head, tuple(others), None, False)
+            todo.pop()
+        return done[index]
+
     def root(self, index):
         """The node that tells about a node."""
         while self.nodes[index][0] != index:
@@ -182,31 +200,24 @@ class Graph:
 
     def is_great(self, start):
         """Whether the type of a node has a greater size than a type that can be passed."""
-        todo = [start]
-        size = 0
-        while todo and size <= MAX_SIZE:
-            size += 1
-            todo.extend(self.nodes[self.root(todo.pop())][2])
-        return size > MAX_SIZE
+        sizes = {}
+        index = self.root(start)
+        todo = [index] if self.nodes[index][2] else []
+        while todo:
+            index = todo[-1]
+            if index not in sizes:
+                parts = [self.root(part) for part in self.nodes[index][2]]
+                left = [part for part in parts if part not in sizes]
+                if left:
+                    todo.extend(left)
+                    continue
+                sizes[index] = 1 + sum([sizes[part] for part in parts])
+            todo.pop()
+        return sizes.get(index, 1) > MAX_SIZE
 
     def type_at(self, start):
         """The type of a node, one that is not great."""
-        done = []
-        todo = [(start, False)]
-        while todo:
-            index, ready = todo.pop()
-            _, head, parts, least, _, _ = self.nodes[self.root(index)]
-            if head is None:
-                done.append(("var", least))
-            elif ready:
-                first = len(done) - len(parts)
-                inner = tuple(done[first:])
-                del done[first:]
-                done.append(with_children(head, inner))
-            else:
-                todo.append((index, True))
-                todo.extend([(part, False) for part in parts[::-1]])
-        return done[0]
+        return Spelling(self).spelled(start)
 
     def variables_below(self, start):
         """The dict of the pairs (root, number) of the variables that stand in the type of a node."""
@@ -232,6 +243,42 @@ class Graph:
         """Whether a node is a variable without a type put in, that must admit equality."""
         _, head, _, _, must, _ = self.nodes[self.root(index)]
         return head is None and must
+
+
+class Spelling:
+    """The types of the nodes of a graph that does not change meanwhile: that of each root is made once."""
+
+    def __init__(self, graph):
+        self.graph = graph
+        self.known = {}
+        self.sizes = {}
+
+    def variable(self, index):
+        """The type of a root that is a variable."""
+        return ("var", self.graph.nodes[index][3])
+
+    def spelled(self, start):
+        """The type of a node. Variables are come to in the order in which they stand in it."""
+        graph, made = self.graph, self.known
+        todo = [graph.root(start)]
+        while todo:
+            index = todo[-1]
+            if index not in made:
+                _, head, parts, _, _, _ = graph.nodes[index]
+                roots = [graph.root(part) for part in parts]
+                left = [part for part in roots if part not in made]
+                if left:
+                    todo.extend(left[::-1])
+                    continue
+                inner = tuple([made[part] for part in roots])
+                made[index] = self.variable(index) if head is None else with_children(head, inner)
+                self.sizes[index] = 1 + sum([self.sizes[part] for part in roots])
+            todo.pop()
+        return made[index]
+
+    def size_of(self, start):
+        """The size of the type of a node that has been spelled."""
+        return self.sizes[self.graph.root(start)]
 
 
 def marked_number(graph, index):

@@ -31,6 +31,9 @@ def images_of(body, T):
     return images
 
 
+UNIT = ("tuple", ())
+
+
 class Scheme:
     """A body, and which of its variables are marked. It never changes."""
 
@@ -58,15 +61,7 @@ class Scheme:
     def with_makers(self, makers):
         """The scheme in whose body the types of some stamps are those of their makers, or None if it gets too great."""
         T = with_makers(self.body, makers)
-        if T is None:
-            return None
-        variables = variables_in(T)
-        scheme = Scheme(Book(), (), ("tuple", ()))
-        scheme.marks = tuple([number for number, variable in enumerate(variables) if variable in self.marks])
-        scheme.body = replaced(T, numbered(variables))
-        scheme.total = len(variables)
-        scheme._outline = outline(scheme.body)
-        return scheme
+        return None if T is None else scheme_of_type(T, self.marks)
 
     def _check_body(self, book):
         """Raise an error unless the body is a type of the book."""
@@ -127,3 +122,16 @@ class Scheme:
 
     def __str__(self):
         return f"scheme with {self.total} variables, {len(self.marks)} marked"
+
+
+def scheme_of_type(T, marked):
+    """The scheme of a type of some book, with all variables renumbered, those that are marked as marks."""
+    variables = variables_in(T)
+    marks = tuple([number for number, variable in enumerate(variables) if variable in marked])
+    body = T if variables == tuple(range(len(variables))) else replaced(T, numbered(variables))
+    scheme = Scheme(Book(), (), UNIT)
+    scheme.marks = marks
+    scheme.body = body
+    scheme.total = len(variables)
+    scheme._outline = outline(body)
+    return scheme

@@ -61,6 +61,8 @@ def renumbered(book, T):
 
 def put_in(T, images):
     """The type with images, a dict by variables, put in: `TooMany` if it gets too great."""
+    if not images:
+        return T
     sizes = {variable: len(nodes_of(image)) for variable, image in images.items()}
     if size_with(T, sizes) > MAX_SIZE:
         raise TooMany(MAX_SIZE)

@@ -156,6 +156,10 @@ class Face:
             raise InvalidOperation("this is no name of a type")
         if not is_maker(maker):
             raise InvalidType("this is no maker")
+        return self.with_known_type(name, maker)
+
+    def with_known_type(self, name, maker):
+        """The face with a type, whose name and maker are right."""
         return self._with_item("type", name, maker, greatest_in(maker[1]), 1)
 
     def with_constructor(self, name, stamp, index):

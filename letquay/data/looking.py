@@ -6,7 +6,7 @@ from letquay.errors import InvalidFace, InvalidOperation, InvalidTree, Refused, 
 from letquay.text.names import is_high, is_low
 from letquay.text.trees import is_tree
 from letquay.types.schemes import scheme_of_type
-from letquay.types.shapes import MAX_SIZE, nodes_of
+from letquay.types.shapes import MAX_SIZE, all_in
 from letquay.types.terms import check_book, put_in
 
 
@@ -29,7 +29,7 @@ def _check_name(truth):
 
 def _bounded(T):
     """The type itself: `TooMany` if it is too great."""
-    if len(nodes_of(T)) > MAX_SIZE:
+    if len(all_in(T)) > MAX_SIZE:
         raise TooMany(MAX_SIZE)
     return T
 
@@ -126,7 +126,7 @@ def type_declared(scope, params, name, tree):
     """What `declared_type` tells, for what has been looked at already."""
     if is_reserved_type(name):
         raise Refused(("twice", (), name))
-    return Face().with_type(name, (len(params), type_meant(scope, tree, params)))
+    return Face().with_known_type(name, (len(params), type_meant(scope, tree, params)))
 
 
 def declared_type(book, scope, params, name, tree):

@@ -229,7 +229,7 @@ class Sense:
             return Meaning(face, (), (("value", (tree[1],)),))
         if word == "abbr":
             T = type_meant(seen, tree[3], tree[1])
-            return Meaning(Face().with_type(tree[2], (len(tree[1]), T)), (), (("type", (tree[2],)),))
+            return Meaning(Face().with_known_type(tree[2], (len(tree[1]), T)), (), (("type", (tree[2],)),))
         carried = None if tree[2] is None else type_meant(seen, tree[2], ())
         return Meaning(Face().with_exception(tree[1], carried), (), (("exception", (tree[1],)),))
 

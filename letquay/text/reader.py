@@ -1,7 +1,8 @@
 """Reading: the tree with a text, by the table of the grammar.
 
 What is still to be read stands in a list, the next item last, so that no text is too deep to be read. An item is a
-kind of token, rules one behind the other with blanks between them, or an action as a pair (word, count).
+kind of token, rules one behind the other with blanks between them, or an action as a triple (word, count, rest): the
+count is that of the parts of a node that is made, or 0, and the rest is what stands behind the word.
 """
 
 from letquay.errors import ParseError
@@ -14,9 +15,12 @@ MOST_OPEN = 60
 
 
 def _action(symbol):
-    """An action of the grammar as a pair; the count is 0 where there is none."""
+    """An action of the grammar as a triple."""
     word, slash, count = symbol[1:].partition("/")
-    return (word, int(count)) if slash else (symbol[1:], 0)
+    if slash:
+        return ("make" if int(count) > 0 else "leaf", int(count), word)
+    word, _, rest = word.partition("-")
+    return (word, 0, rest)
 
 
 def _items(symbols):
@@ -81,6 +85,10 @@ class Reading:
         if self.many_open > MOST_OPEN:
             raise ParseError(self.next_spot())
 
+    def leave(self):
+        """Close the token that was opened last."""
+        self.many_open -= 1
+
     def take_last(self, many):
         """Take away the last values, as a tuple."""
         first = len(self.held) - many
@@ -96,11 +104,6 @@ class Reading:
         """Hold a value more."""
         self.held.append(worth)
 
-    def make(self, word, count):
-        """Make a node of the last values."""
-        first = len(self.held) - count
-        self.held[first:] = [(word, *self.held[first:])]
-
     def line_at(self, rules, kind):
         """The items that stand for rules at the next token, which is of a kind."""
         key = (rules, kind)
@@ -114,26 +117,29 @@ class Reading:
     def run(self, rule):
         """Read the whole text by a rule, and give back its tree."""
         todo = ["end of text", rule]
+        held, lines = self.held, self.lines
         kind, worth, _ = self.tokens[0]
         while todo:
             item = todo.pop()
             if isinstance(item, tuple):
-                word, count = item
+                word, count, rest = item
                 if count > 0:
-                    self.make(word, count)
+                    held[-count:] = [(rest, *held[-count:])]
                 else:
-                    _act(self, word)
+                    action = ACTIONS[word]
+                    action(self, rest)
             elif item == kind:
                 if worth is not None:
-                    self.held.append(worth)
+                    held.append(worth)
                 self.position += 1
                 if todo:
                     kind, worth, _ = self.tokens[self.position]
             elif item[0] in HIGH_LETTERS:
-                todo.extend(self.line_at(item, kind))
+                line = lines.get((item, kind))
+                todo.extend(self.line_at(item, kind) if line is None else line)
             else:
                 raise ParseError(self.next_spot())
-        return self.held[0]
+        return held[0]
 
 
 def _one_or_tuple(found):
@@ -148,50 +154,90 @@ def _sequence(found):
     return tree
 
 
-def _act_on_parts(reading, word):
-    """Do what takes away values and gives one of them, or a tuple."""
-    if word == "tuple":
-        reading.push(reading.take_marked())
-    elif word == "members":
-        reading.push(_one_or_tuple(reading.take_marked()))
-    elif word == "then":
-        reading.push(_sequence(reading.take_marked()))
-    elif word == "one":
-        reading.push(reading.take_last(1))
-    elif word == "swap":
-        first, second = reading.take_last(2)
-        reading.push(second)
-        reading.push(first)
-    elif word == "applied":
-        args, path = reading.take_last(2)
-        reading.push(("con", path, args))
-    elif word == "cons":
-        reading.push(("call", ("con", ("Cons",)), ("tuple", reading.take_last(2))))
-    elif word == "pattern":
-        reading.push(("con", ("Cons",), ("tuple", reading.take_last(2))))
+def _leaf(reading, rest):
+    reading.push((rest,))
 
 
-def _act(reading, word):
-    """Do an action of the grammar that has no count, or the count 0."""
-    lead, _, rest = word.partition("-")
-    if word == "any":
-        reading.push((word,))
-    elif word == "in":
-        reading.enter()
-    elif word == "out":
-        reading.many_open -= 1
-    elif word == "mark":
-        reading.marks.append(len(reading.held))
-    elif word == "unmark":
-        reading.marks.pop()
-    elif word in ("none", "true", "false"):
-        reading.push({"none": None, "true": True, "false": False}[word])
-    elif lead == "name":
-        reading.push(rest)
-    elif lead in ("op", "monad"):
-        reading.push(("op", rest, reading.take_last(2 if lead == "op" else 1)))
-    else:
-        _act_on_parts(reading, word)
+def _enter(reading, rest):
+    reading.enter()
+
+
+def _leave(reading, rest):
+    reading.leave()
+
+
+def _mark(reading, rest):
+    reading.marks.append(len(reading.held))
+
+
+def _unmark(reading, rest):
+    reading.marks.pop()
+
+
+def _none(reading, rest):
+    reading.push(None)
+
+
+def _true(reading, rest):
+    reading.push(True)
+
+
+def _false(reading, rest):
+    reading.push(False)
+
+
+def _name(reading, rest):
+    reading.push(rest)
+
+
+def _op(reading, rest):
+    reading.push(("op", rest, reading.take_last(2)))
+
+
+def _monad(reading, rest):
+    reading.push(("op", rest, reading.take_last(1)))
+
+
+def _tuple(reading, rest):
+    reading.push(reading.take_marked())
+
+
+def _members(reading, rest):
+    reading.push(_one_or_tuple(reading.take_marked()))
+
+
+def _then(reading, rest):
+    reading.push(_sequence(reading.take_marked()))
+
+
+def _one(reading, rest):
+    reading.push(reading.take_last(1))
+
+
+def _swap(reading, rest):
+    first, second = reading.take_last(2)
+    reading.push(second)
+    reading.push(first)
+
+
+def _applied(reading, rest):
+    args, path = reading.take_last(2)
+    reading.push(("con", path, args))
+
+
+def _cons(reading, rest):
+    reading.push(("call", ("con", ("Cons",)), ("tuple", reading.take_last(2))))
+
+
+def _pattern(reading, rest):
+    reading.push(("con", ("Cons",), ("tuple", reading.take_last(2))))
+
+
+ACTIONS = {
+    "leaf": _leaf, "in": _enter, "out": _leave, "mark": _mark, "unmark": _unmark, "none": _none, "true": _true,
+    "false": _false, "name": _name, "op": _op, "monad": _monad, "tuple": _tuple, "members": _members, "then": _then,
+    "one": _one, "swap": _swap, "applied": _applied, "cons": _cons, "pattern": _pattern,
+}
 
 
 def _read(text, rule, sort):

@@ -45,17 +45,21 @@ def _parts_of(value):
 def _made_in(value):
     """The list of the pairs (stamp, number of arguments) in any value, or None if it is no type that can be passed."""
     found = []
-    todo = [value]
+    level = [value]
     size = 0
-    while todo:
-        part = todo.pop()
-        parts = _parts_of(part)
-        size += 1
-        if parts is None or size > MAX_SIZE:
+    while level:
+        size += len(level)
+        if size > MAX_SIZE:
             return None
-        if part[0] == "made":
-            found.append((part[1], len(parts)))
-        todo.extend(parts)
+        inside = []
+        for part in level:
+            parts = _parts_of(part)
+            if parts is None:
+                return None
+            if part[0] == "made":
+                found.append((part[1], len(parts)))
+            inside.extend(parts)
+        level = inside
     return found
 
 
@@ -88,6 +92,16 @@ def nodes_of(T):
     return found
 
 
+def all_in(T):
+    """The list of all types that stand in a type, itself included, those that are less deep first."""
+    found = []
+    level = [T]
+    while level:
+        found.extend(level)
+        level = [inner for part in level for inner in children(part)]
+    return found
+
+
 def outline(T):
     """The tuple of what each type in a type has of its own, in this order: types with equal outlines are equal."""
     own = {"var": 1, "made": 1}
@@ -102,12 +116,12 @@ def variables_in(T):
 
 def greatest_in(T):
     """The greatest stamp that stands in a type, or 0."""
-    return max([0, *[part[1] for part in nodes_of(T) if part[0] == "made"]])
+    return max([0, *[part[1] for part in all_in(T) if part[0] == "made"]])
 
 
 def size_with(T, sizes):
     """The size of a type when types of these sizes, a dict by variables, are put in the place of all variables."""
-    return sum([sizes[part[1]] if part[0] == "var" else 1 for part in nodes_of(T)])
+    return sum([sizes[part[1]] if part[0] == "var" else 1 for part in all_in(T)])
 
 
 def replaced(T, images):

@@ -4,7 +4,7 @@ from letquay.checks import is_ascending
 from letquay.errors import InvalidBook, InvalidOperation, InvalidType, TooMany
 from letquay.text.names import LOW_LETTERS
 from letquay.types.books import Book
-from letquay.types.shapes import MAX_SIZE, is_shape, nodes_of, numbered, replaced, size_with, variables_in
+from letquay.types.shapes import MAX_SIZE, all_in, is_shape, nodes_of, numbered, replaced, size_with, variables_in
 
 # The rows of the grammar of types: what belongs to a lower row than the one that stands there has parentheses.
 FN_ROW = 0
@@ -63,7 +63,7 @@ def put_in(T, images):
     """The type with images, a dict by variables, put in: `TooMany` if it gets too great."""
     if not images:
         return T
-    sizes = {variable: len(nodes_of(image)) for variable, image in images.items()}
+    sizes = {variable: len(all_in(image)) for variable, image in images.items()}
     if size_with(T, sizes) > MAX_SIZE:
         raise TooMany(MAX_SIZE)
     return replaced(T, images)

@@ -1,13 +1,16 @@
 """Sessions: promises [12.1] to [12.3], part 12a."""
 
+import random
 import unittest
 
 from letquay.desk.sessions import Session
 from letquay.errors import InvalidNumber, InvalidOperation, NothingToUndo, ParseError, Refused, TooMany, UnknownName
 from letquay.modules.programs import typed_unit
 from letquay.rules.runs import Run
+from letquay.text.printer import write_declaration
 from letquay.text.reader import read_declaration, read_unit
 from tests.odd import ODD
+from tests.program_tools import random_text
 
 
 def state(session):
@@ -224,6 +227,25 @@ class KeepingTest(unittest.TestCase):
             if not isinstance(wrong, tuple) or not all(type(n) is int and abs(n) < 2 ** 62 for n in wrong):
                 self.assertRaises(InvalidOperation, Session, wrong)
         self.assertEqual(Session((1, 2)).inputs, (1, 2))
+
+    def test_phrases_of_random_programs(self):
+        many = 0
+        for seed in range(12):
+            unit = read_unit(random_text(random.Random(seed + 300), 2))
+            run = Run(typed_unit(unit), (1, 2))
+            run.go_on(most=20000)
+            session = Session((1, 2))
+            for tree in unit:
+                if reason_of(session.phrase, write_declaration(tree)) is not None:
+                    break
+            if run.ends[0] == "done":
+                many += 1
+                self.assertEqual((session.phrases, session.output, session.reads), (unit, run.output, run.reads))
+                self.assertEqual({name: session.text(name) for name in session.names}, {name: text for name, text in run.ends[1] if "." not in name})
+                self.assertEqual(session.program, run.program)
+            else:
+                self.assertLess(len(session), len(unit))
+        self.assertGreater(many, 3)
 
     def test_sessions_that_answer_alike(self):
         """[12.6]: two sessions that answer alike need not be equal."""

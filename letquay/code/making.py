@@ -334,9 +334,14 @@ ACTIONS = {
 }
 
 
+def code_of(core, uses):
+    """Code of a term, with units that are all that it names, for what has been looked at already."""
+    return Code(Making().make(core), uses)
+
+
 def compiled(core, *, uses=()):
     """Code of a term, with some units that it can name."""
     units = free_units(core)
     if not are_units(uses) or not all([name in uses for name in units]):
         raise InvalidOperation("the units are an ascending tuple of names, with all those of the term")
-    return Code(Making().make(core), uses)
+    return code_of(core, uses)

@@ -2,12 +2,16 @@
 
 from letquay.checks import is_whole
 from letquay.errors import InvalidNumber, NothingToUndo, ParseError, Refused, TooMany, UnknownName
-from letquay.modules.programs import typed_unit
-from letquay.rules.runs import MAX_STEPS, Run, check_inputs
+from letquay.modules.programs import begun_unit
+from letquay.rules.playing import Play
+from letquay.rules.runs import MAX_STEPS, check_inputs
+from letquay.rules.steps import do_step
+from letquay.rules.texts import text_of_value
 from letquay.text.printer import write_declaration
 from letquay.text.reader import read_declaration, read_expression
 from letquay.text.tokens import tokens_of
-from letquay.text.trees import MAX_DEPTH, MAX_NODES, depth_of, is_unit, names_bound
+from letquay.text.trees import MAX_DEPTH, MAX_NODES, count_of, depth_of, names_bound
+from letquay.types.books import Book
 
 DECLARING = ("val", "type", "datatype", "exception", "structure", "open", "signature", "functor")
 
@@ -26,33 +30,62 @@ def _phrase_of(text):
     return _value_of(text, read_expression(text))
 
 
-def _typed(declarations):
-    """The program of declarations, each of which is right."""
-    if not is_unit(declarations):
-        raise TooMany(MAX_NODES)
-    return typed_unit(declarations)
-
-
 class Standing:
-    """What stands behind some phrases: the program, the texts of its values, what was printed, how much was read."""
+    """What stands behind some phrases: how they were typed, and the run of them, which is done. It never changes."""
 
-    def __init__(self, declarations, inputs):
-        self.trees = declarations
-        self.typed = _typed(declarations)
-        run = Run(self.typed, inputs)
-        run.go_on(most=MAX_STEPS)
-        if run.ends is None:
+    def __init__(self, trees, nodes, course, play, many):
+        self.trees = trees
+        self.many_nodes = nodes
+        self.course = course
+        self.play = play
+        self.many_steps = many
+        self.typed = course.as_program(trees, None, course.declaring.face)
+        self.lines = tuple(play.lines)
+        self.taken = play.taken
+
+    def _nodes_with(self, tree):
+        """How many nodes the program has with a declaration more: an error if they are too many."""
+        many = count_of(tree, "top")
+        if many is None or self.many_nodes + many > MAX_NODES:
+            raise TooMany(MAX_NODES)
+        return self.many_nodes + many
+
+    def course_with(self, tree):
+        """The course of the unit with a declaration more."""
+        self._nodes_with(tree)
+        course = self.course.copied()
+        course.declare(tree, (len(self.trees),))
+        return course
+
+    def asked(self, tree):
+        """The text of the scheme of `it`, for a declaration of this value that is not run."""
+        course = self.course_with(tree)
+        return course.declaring.face.schemes["it"].text(course.course.book)
+
+    def behind(self, tree):
+        """What stands behind a declaration more."""
+        course = self.course_with(tree)
+        trees = (*self.trees, tree)
+        play = self.play.copied()
+        play.go_further(trees)
+        many = self.many_steps
+        while play.word is not None and many < MAX_STEPS:
+            do_step(play)
+            many += 1
+        if play.word is not None:
             raise Refused(("long",))
-        if run.ends[0] == "raised":
-            raise Refused(run.ends)
-        self.texts = dict(run.ends[1])
-        self.lines = run.output
-        self.taken = run.reads
+        if play.final[0] != "table":
+            raise Refused(("raised", play.seen(play.final)[1]))
+        return Standing(trees, self._nodes_with(tree), course, play, many)
+
+    def text_of(self, name):
+        """The text of a value."""
+        return text_of_value(self.typed.book, self.typed.face, self.play, self.play.final, name)
 
     def lines_of_values(self, names):
         """A line for each of some values."""
         schemes = self.typed.face.schemes
-        return [f"val {name} : {schemes[name].text(self.typed.book)} = {self.texts[name]}" for name in names]
+        return [f"val {name} : {schemes[name].text(self.typed.book)} = {self.text_of(name)}" for name in names]
 
     def lines_of(self, tree):
         """The lines that tell what a declaration has declared."""
@@ -71,6 +104,13 @@ class Standing:
         return [f"{'exception' if word == 'alias' else word} {tree[1]}"]
 
 
+def _first_standing(inputs):
+    """What stands ahead of all phrases."""
+    play = Play(inputs)
+    play.begin(())
+    return Standing((), 0, begun_unit(Book(), {}), play, 0)
+
+
 class Session:
     """Phrases that stand. All that was is kept, so that phrases can be taken back and given again."""
 
@@ -78,7 +118,7 @@ class Session:
         check_inputs(inputs)
         self._inputs = inputs
         # What stands behind 0, 1, .. phrases, and what was taken back, the next one to be given again last.
-        self._state = ((Standing((), inputs),), ())
+        self._state = ((_first_standing(inputs),), ())
 
     def _now(self):
         return self._state[0][-1]
@@ -88,15 +128,13 @@ class Session:
         tree = _phrase_of(text)
         standings, _ = self._state
         before = standings[-1]
-        after = Standing((*before.trees, tree), self._inputs)
+        after = before.behind(tree)
         self._state = ((*standings, after), ())
         return (*after.lines[len(before.lines):], *after.lines_of(tree))
 
     def asked(self, text):
         """The text of the scheme of an expression."""
-        tree = _value_of(text, read_expression(text))
-        program = _typed((*self._now().trees, tree))
-        return program.face.schemes["it"].text(program.book)
+        return self._now().asked(_value_of(text, read_expression(text)))
 
     @property
     def inputs(self):
@@ -126,7 +164,7 @@ class Session:
     @property
     def names(self):
         """The ascending tuple of the values."""
-        return tuple([name for name in self._state[0][-1].texts if "." not in name])
+        return tuple(self._state[0][-1].typed.face.schemes)
 
     def scheme_of(self, name):
         """The text of the scheme of a value."""
@@ -139,7 +177,7 @@ class Session:
         """The text of a value."""
         if name not in self.names:
             raise UnknownName(name)
-        return self._now().texts[name]
+        return self._now().text_of(name)
 
     def undo(self, *, many=1):
         """Take the last phrases back; the texts of them, the first moved one ahead."""

@@ -51,6 +51,10 @@ def _lacks(state, value, face):
     return False
 
 
+# Code that does nothing, by which a machine is made that then goes on as another one does.
+NOTHING = ((0, 0, (("tuple", 0), ("return",))),)
+
+
 class Machine:
     """A machine that runs codes. All its steps are kept, so that they can be taken back."""
 
@@ -162,7 +166,9 @@ class Machine:
 
     def twin(self):
         """An equal machine that goes on by itself."""
-        machine = Machine(self._codes, self._inputs)
+        machine = Machine((("U", Code(NOTHING)),))
+        machine._codes = self._codes
+        machine._inputs = self._inputs
         machine._state = self._state.copied()
         machine._past = list(self._past)
         machine._collected = list(self._collected)

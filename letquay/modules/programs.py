@@ -70,6 +70,21 @@ class UnitCourse:
         self.signed = {}
         self.made_once = {}
 
+    def copied(self):
+        """An equal one that goes on by itself."""
+        unit = UnitCourse(self.course.book, self.declaring.scope, self.used)
+        course, declaring = unit.course, unit.declaring
+        course.notes, course.face_notes = list(self.course.notes), list(self.course.face_notes)
+        declaring.face = self.declaring.face
+        unit.signed, unit.made_once = dict(self.signed), dict(self.made_once)
+        return unit
+
+    def as_program(self, declarations, signature, face):
+        """The program of the declarations that it has gone through, with this face."""
+        tables = _ascending(self.signed), _ascending(self.made_once)
+        inner = self.declaring.face
+        return Program((declarations, signature, _ascending(self.used)), self.course.result(inner), face, tables)
+
     def declare(self, tree, place):
         """Go through a declaration, which stands at a place."""
         word = tree[0]
@@ -109,6 +124,14 @@ def _ascending(table):
     return {name: table[name] for name in sorted(table)}
 
 
+def begun_unit(book, uses):
+    """The course of a unit ahead of its declarations."""
+    face = base_face()
+    for name in sorted(uses):
+        face = face.with_structure(name, uses[name])
+    return UnitCourse(book, Scope(face), uses)
+
+
 def typed_unit(declarations, *, signature=None, book=None, uses=None):
     """The program of a unit."""
     if not is_unit(declarations) or signature is not None and not is_signature(signature):
@@ -119,16 +142,12 @@ def typed_unit(declarations, *, signature=None, book=None, uses=None):
     if uses is None:
         uses = {}
     _check_uses(book, uses)
-    face = base_face()
-    for name in sorted(uses):
-        face = face.with_structure(name, uses[name])
-    unit = UnitCourse(book, Scope(face), uses)
+    unit = begun_unit(book, uses)
+    scope = unit.declaring.scope
     for k, tree in enumerate(declarations):
         unit.declare(tree, (k,))
-    inner = unit.declaring.face
-    outer = inner
+    face = unit.declaring.face
     if signature is not None:
-        signed = unit.course.signed_at(Scope(face), signature, ("signature",))
-        outer = unit.course.seal(inner, signed, ("signature",))
-    tables = _ascending(unit.signed), _ascending(unit.made_once)
-    return Program((declarations, signature, _ascending(uses)), unit.course.result(inner), outer, tables)
+        signed = unit.course.signed_at(scope, signature, ("signature",))
+        face = unit.course.seal(face, signed, ("signature",))
+    return unit.as_program(declarations, signature, face)

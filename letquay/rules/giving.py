@@ -20,7 +20,7 @@ def finish(play, items, declared):
         return
     play.take()
     if own:
-        play.be_over(("table", table))
+        play.be_done(len(trees), with_items(scope, items), table)
     else:
         play.give(("table", table))
 

@@ -21,6 +21,8 @@ class Play:
         self.lines = []
         # The items of the table of the program, or the value of the exception, when the run is over.
         self.final = None
+        # How many declarations are done at the end, and the scope behind them.
+        self.ended = None
         # The pair (cell, what it had) of the reference that the last step has changed.
         self.changed = None
 
@@ -30,13 +32,19 @@ class Play:
             self.push(("list", trees, 0, base_scope(), {}, True))
             self.word = "declare"
         else:
-            self.final = ("table", {})
+            self.be_done(0, base_scope(), {})
+
+    def go_further(self, trees):
+        """Go on with the declarations of a program that begins with those that are done."""
+        self.push(("list", trees, self.ended[0], self.ended[1], self.final[1], True))
+        self.word = "declare"
+        self.final = None
 
     def copied(self):
         """An equal state that goes on by itself."""
         play = Play(self.given)
         play.word, play.what, play.chain = self.word, self.what, self.chain
-        play.taken, play.final = self.taken, self.final
+        play.taken, play.final, play.ended = self.taken, self.final, self.ended
         play.cells, play.labels, play.lines = list(self.cells), list(self.labels), list(self.lines)
         return play
 
@@ -88,6 +96,11 @@ class Play:
         """Try rows next; if there are none left, an exception is carried on, or `Match` raised if this is `None`."""
         self.word = "try"
         self.what = (rows, 0, value, scope, carried)
+
+    def be_done(self, many, scope, table):
+        """Let the run be over, with so many declarations, the scope behind them, and their table."""
+        self.ended = (many, scope)
+        self.be_over(("table", table))
 
     def be_over(self, final):
         """Let the run be over."""

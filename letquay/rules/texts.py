@@ -113,6 +113,12 @@ def schemes_of(face):
     return {path: found[path] for path in sorted(found)}
 
 
+def text_of_value(book, face, memory, table, name):
+    """The text of one value of a face, of which a table has the values."""
+    texts = Texts(Kinds(book, face), memory)
+    return texts.text_of(memory.value_at(table, (name,)), texts.kinds.add(face.schemes[name].body, ()))
+
+
 def texts_of_face(book, face, memory, table):
     """The pairs (name, text) of all values of a face, of which a table has the values."""
     texts = Texts(Kinds(book, face), memory)

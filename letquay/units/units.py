@@ -1,6 +1,6 @@
 """Units: what they are, their faces, and compiling them apart."""
 
-from letquay.code.making import compiled
+from letquay.code.making import code_of
 from letquay.errors import InvalidFace, InvalidUnit
 from letquay.modules.flatten import flattened
 from letquay.modules.programs import typed_unit
@@ -176,5 +176,5 @@ def compiled_unit(unit, faces):
     """The compiled unit."""
     used = _used_by(unit, faces)
     program = _typed(unit, used)
-    code = compiled(flattened(program), uses=tuple(sorted(unit.uses)))
+    code = code_of(flattened(program), tuple(sorted(unit.uses)))
     return Compiled(unit, _face_of(unit, program, used), {name: faces[name] for name in unit.uses}, program, code)

@@ -314,10 +314,9 @@ class MachineTest(unittest.TestCase):
         bad = Code(((0, 0, (END,)),))
         using = Code(((0, 0, (("global", "U"), END)),), ("U",))
         for wrong in (*ODD, (IDLE,), (("u", IDLE),), [("U", IDLE)], (("U", IDLE), ("V",)), (("U", bad),), (("U", IDLE), ("U", bad)), (("U", IDLE, 1),), ((["U"], IDLE),)):
-            if wrong != ():
-                self.assertRaises(InvalidCode, Machine, wrong)
-                self.assertRaises(InvalidCode, Machine, wrong, None)
-        for wrong in ((), (("U", IDLE), ("U", IDLE)), (("V", using),), (("V", using), ("U", IDLE)), (("U", using),)):
+            self.assertRaises(InvalidCode, Machine, wrong)
+            self.assertRaises(InvalidCode, Machine, wrong, None)
+        for wrong in ((("U", IDLE), ("U", IDLE)), (("V", using),), (("V", using), ("U", IDLE)), (("U", using),)):
             self.assertRaises(InvalidOperation, Machine, wrong)
         Machine((("U", IDLE), ("V", using)))
         for wrong in ([1], (2 ** 62,), (True,), None, 1, ("1",)):

@@ -76,9 +76,9 @@ class Judging:
             else:
                 left.append(name)
         while left:
-            name = [name for name in left if all([used in self.told for used in uses[name]])][0]
-            left.remove(name)
-            self.told[name] = self._verdict(self.by_name[name])
+            ready = [name for name in left if all([used in self.told for used in uses[name]])]
+            left.remove(ready[0])
+            self.told[ready[0]] = self._verdict(self.by_name[ready[0]])
 
     def _verdict(self, unit):
         """The verdict of a unit that uses others whose verdicts are told; it is compiled if it must be."""

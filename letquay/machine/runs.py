@@ -26,12 +26,10 @@ def _is_pair(value):
 
 def _check_codes(codes):
     """Raise an error unless they are pairs of units and sound codes, those that one uses ahead of it."""
-    if not isinstance(codes, tuple) or not all([_is_pair(pair) for pair in codes]):
-        raise InvalidCode("codes are pairs of a unit and its code")
+    if not isinstance(codes, tuple) or len(codes) == 0 or not all([_is_pair(pair) for pair in codes]):
+        raise InvalidCode("codes are one or more pairs of a unit and its code")
     if not all([is_sound(code) for _, code in codes]):
         raise InvalidCode("a code is not sound")
-    if len(codes) == 0:
-        raise InvalidOperation("there is no code")
     ahead = {}
     for name, code in codes:
         if name in ahead or not all([used in ahead for used in code.uses]):

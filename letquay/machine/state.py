@@ -63,7 +63,7 @@ class State:
         """Begin a frame."""
         self.chain = (frame, self.chain, 1 if self.chain is None else self.chain[2] + 1)
 
-    def replace(self, frame):
+    def put_frame(self, frame):
         """Put a frame in the place of the newest one."""
         _, behind, many = self.chain
         self.chain = (frame, behind, many)

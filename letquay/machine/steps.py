@@ -11,13 +11,13 @@ def _go_on(state, frame, many, pushed):
     """Go on at the next instruction, without the last operands, so many, and with others."""
     unit, block, index, operands, slots, values, handlers = frame
     left = operands[:len(operands) - many]
-    state.replace((unit, block, index + 1, (*left, *pushed), slots, values, handlers))
+    state.put_frame((unit, block, index + 1, (*left, *pushed), slots, values, handlers))
 
 
 def _jump(state, frame, many, target):
     """Go on at another instruction, without the last operands, so many."""
     unit, block, _, operands, slots, values, handlers = frame
-    state.replace((unit, block, target, operands[:len(operands) - many], slots, values, handlers))
+    state.put_frame((unit, block, target, operands[:len(operands) - many], slots, values, handlers))
 
 
 def _throw(state, packet):
@@ -27,7 +27,7 @@ def _throw(state, packet):
         unit, block, _, operands, slots, values, handlers = frame
         if handlers:
             height, target = handlers[-1]
-            state.replace((unit, block, target, (*operands[:height], packet), slots, values, handlers[:-1]))
+            state.put_frame((unit, block, target, (*operands[:height], packet), slots, values, handlers[:-1]))
             return
         state.chain = behind
     state.finish(("raised", state.labels[state.cells[packet[1]][1]]))
@@ -44,7 +44,7 @@ def _slot(state, instruction, frame):
 def _set(state, instruction, frame):
     unit, block, index, operands, slots, values, handlers = frame
     k = instruction[1]
-    state.replace((unit, block, index + 1, operands[:-1], (*slots[:k], operands[-1], *slots[k + 1:]), values, handlers))
+    state.put_frame((unit, block, index + 1, operands[:-1], (*slots[:k], operands[-1], *slots[k + 1:]), values, handlers))
 
 
 def _drop(state, instruction, frame):
@@ -210,7 +210,7 @@ def _call(state, instruction, frame):
     many = state.blocks[unit][block][1]
     called = (unit, block, 0, (), (argument, *(None,) * (many - 1)), values, ())
     if instruction[0] == "tail":
-        state.replace(called)
+        state.put_frame(called)
     else:
         _go_on(state, frame, 2, ())
         state.push(called)
@@ -221,7 +221,7 @@ def _return(state, instruction, frame):
     state.chain = state.chain[1]
     if state.chain is not None:
         unit, block, index, operands, slots, values, handlers = state.chain[0]
-        state.replace((unit, block, index, (*operands, value), slots, values, handlers))
+        state.put_frame((unit, block, index, (*operands, value), slots, values, handlers))
         return
     # The code that returns is that behind those whose tables are there.
     position = len(state.tables)
@@ -243,12 +243,12 @@ def _raise(state, instruction, frame):
 def _handle(state, instruction, frame):
     unit, block, index, operands, slots, values, handlers = frame
     handler = (len(operands), instruction[1])
-    state.replace((unit, block, index + 1, operands, slots, values, (*handlers, handler)))
+    state.put_frame((unit, block, index + 1, operands, slots, values, (*handlers, handler)))
 
 
 def _unhandle(state, instruction, frame):
     unit, block, index, operands, slots, values, handlers = frame
-    state.replace((unit, block, index + 1, operands, slots, values, handlers[:-1]))
+    state.put_frame((unit, block, index + 1, operands, slots, values, handlers[:-1]))
 
 
 STEPS = {

@@ -14,7 +14,7 @@ def finish(play, items, declared):
     if declared:
         table = {**table, **items}
     if index + 1 < len(trees):
-        play.replace(("list", trees, index + 1, with_items(scope, items), table, own))
+        play.put_frame(("list", trees, index + 1, with_items(scope, items), table, own))
         play.word = "declare"
         play.what = None
         return
@@ -86,7 +86,7 @@ def _members(play, frame, value):
     word, what, trees, found, scope = frame
     found = (*found, value)
     if len(found) < len(trees):
-        play.replace((word, what, trees, found, scope))
+        play.put_frame((word, what, trees, found, scope))
         play.look(trees[len(found)], scope)
         return
     play.take()
@@ -99,7 +99,7 @@ def _members(play, frame, value):
 def _function(play, frame, value):
     """The function of a call."""
     _, tree, scope = frame
-    play.replace(("argument", value))
+    play.put_frame(("argument", value))
     play.look(tree, scope)
 
 
@@ -159,10 +159,10 @@ def _while(play, frame, value):
     """Behind the condition, or behind the body."""
     word, condition, body, scope = frame
     if word == "body":
-        play.replace(("while", condition, body, scope))
+        play.put_frame(("while", condition, body, scope))
         play.look(condition, scope)
     elif value == TRUE:
-        play.replace(("body", condition, body, scope))
+        play.put_frame(("body", condition, body, scope))
         play.look(body, scope)
     else:
         play.take()

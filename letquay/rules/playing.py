@@ -72,7 +72,7 @@ class Play:
         frame, self.chain, _ = self.chain
         return frame
 
-    def replace(self, frame):
+    def put_frame(self, frame):
         """Put a frame in the place of the newest one."""
         _, behind, many = self.chain
         self.chain = (frame, behind, many)

@@ -91,7 +91,7 @@ class Texts:
     def _carried(self, value, kind):
         """The items of what a constructor or reference carries, in parentheses if it carries something itself."""
         inside = ("value", value, kind)
-        return ["(", inside, ")"] if self.many_shown < MAX_SHOWN and self._is_carrying(value, kind) else [inside]
+        return ["(", inside, ")"] if self._is_carrying(value, kind) else [inside]
 
     def _is_carrying(self, value, kind):
         word, own, _ = self.kinds.rows[kind]

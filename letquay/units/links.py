@@ -80,9 +80,9 @@ def sorted_units(units):
     found = []
     done = {}
     while left:
-        name = [name for name in sorted(left) if all([used in done for used in left[name].uses])][0]
-        done[name] = True
-        found.append(left.pop(name))
+        ready = [name for name in sorted(left) if all([used in done for used in left[name].uses])]
+        done[ready[0]] = True
+        found.append(left.pop(ready[0]))
     return found
 
 

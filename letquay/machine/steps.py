@@ -44,7 +44,8 @@ def _slot(state, instruction, frame):
 def _set(state, instruction, frame):
     unit, block, index, operands, slots, values, handlers = frame
     k = instruction[1]
-    state.put_frame((unit, block, index + 1, operands[:-1], (*slots[:k], operands[-1], *slots[k + 1:]), values, handlers))
+    others = (*slots[:k], operands[-1], *slots[k + 1:])
+    state.put_frame((unit, block, index + 1, operands[:-1], others, values, handlers))
 
 
 def _drop(state, instruction, frame):

@@ -5,11 +5,12 @@ import unittest
 
 from letquay.code.core import core_nodes, free_units, is_core
 from letquay.data.faces import Face
-from letquay.errors import InvalidCode, InvalidFace, InvalidOperation, TooMany
+from letquay.errors import InvalidCode, InvalidFace, InvalidOperation, Refused, TooMany
 from letquay.modules.flatten import flattened, picked
 from letquay.text.reader import read_signature
 from tests.odd import ODD
 from tests.program_tools import both_runs, program, random_text
+from tests.structure_maker import random_structures
 
 
 def val(x):
@@ -279,6 +280,23 @@ class BoundsTest(unittest.TestCase):
             run, machine, _ = both_runs(unit, (3, 4))
             self.assertEqual((machine.output, len(machine.left)), (run.output, 2 - run.reads), seed)
             self.assertEqual(machine.ends[0], run.ends[0])
+
+
+    def test_structures_run_alike(self):
+        """What is opened, hidden, cut and applied is the same by the rules and by the machine."""
+        counts = {"open": 0, "Fa(": 0, ":>": 0}
+        for seed in range(150):
+            text = random_structures(random.Random(seed))
+            try:
+                unit = program(text)
+            except Refused:
+                continue
+            run, machine, _ = both_runs(unit)
+            self.assertTrue(is_core(flattened(unit)), seed)
+            self.assertEqual((machine.ends, machine.shown(unit.book, unit.face)), (("done",), run.ends[1]), seed)
+            for word in counts:
+                counts[word] += word in text
+        self.assertGreater(min(counts.values()), 30, counts)
 
 
 if __name__ == "__main__":

@@ -6,8 +6,10 @@ import unittest
 from letquay.code.core import MAX_CORE, MAX_CORE_DEPTH, core_nodes, free_units, is_core
 from letquay.errors import InvalidTree
 from letquay.modules.flatten import flattened
+from tests.core_tools import changed, judged
 from tests.odd import ODD
 from tests.program_tools import program, random_text
+from tests.structure_maker import random_structures
 
 X, Y, F, S, E = ("value", "x"), ("value", "y"), ("value", "f"), ("structure", "S"), ("exception", "E")
 ONE = ("int", 1)
@@ -132,6 +134,22 @@ class CoreTest(unittest.TestCase):
         self.assertTrue(is_core(fn(nested(158, lambda p: ("con", "C", p), ANY), ONE)))
         self.assertFalse(is_core(fn(nested(159, lambda p: ("con", "C", p), ANY), ONE)))
         self.assertFalse(is_core(nested(190, lambda t: ("tuple", (t, t)))))
+
+    def test_against_a_second_judge(self):
+        rng = random.Random(11)
+        bases = [term for term, _ in RIGHT]
+        for seed in range(8):
+            bases.append(flattened(program(random_text(random.Random(seed + 70), 1))))
+            bases.append(flattened(program(random_structures(random.Random(2)))))
+        counts = {True: 0, False: 0}
+        for _ in range(6000):
+            value = changed(rng, rng.choice(bases))
+            wanted = judged(value)
+            self.assertIs(is_core(value), wanted is not None, value)
+            counts[wanted is not None] += 1
+            if wanted is not None:
+                self.assertEqual((core_nodes(value), free_units(value)), wanted)
+        self.assertGreater(min(counts.values()), 300, counts)
 
     def test_terms_of_programs(self):
         for seed in range(10):

@@ -199,21 +199,21 @@ class Graph:
         return self.demand_of_parts([index])
 
     def is_great(self, start):
-        """Whether the type of a node has a greater size than a type that can be passed."""
-        sizes = {}
-        index = self.root(start)
-        todo = [index] if self.nodes[index][2] else []
-        while todo:
-            index = todo[-1]
-            if index not in sizes:
-                parts = [self.root(part) for part in self.nodes[index][2]]
-                left = [part for part in parts if part not in sizes]
-                if left:
-                    todo.extend(left)
-                    continue
-                sizes[index] = 1 + sum([sizes[part] for part in parts])
-            todo.pop()
-        return sizes.get(index, 1) > MAX_SIZE
+        """Whether the type of a node has a greater size than a type that can be passed.
+
+        The roots at one depth are looked at together, each once, with how many times it stands there.
+        """
+        size = 0
+        level = {self.root(start): 1}
+        while level and size <= MAX_SIZE:
+            inside = {}
+            for index, many in level.items():
+                size += many
+                for part in self.nodes[index][2]:
+                    root = self.root(part)
+                    inside[root] = inside.get(root, 0) + many
+            level = inside
+        return size > MAX_SIZE
 
     def type_at(self, start):
         """The type of a node, one that is not great."""

@@ -12,6 +12,7 @@ from letquay.text.reader import read_signature, read_unit
 from letquay.units.links import anew, compiled_all, linked, order_of, updated, whole
 from letquay.units.units import Unit, compiled_unit
 from tests.odd import ODD
+from tests.structure_maker import Shape, StructureMaker
 from tests.test_units import CELL, reason_of, unit
 
 USE = unit("Use", ("Cell",), "val two = case Cell.B 1 of Cell.A => 0 | Cell.B n => n + Cell.one end")
@@ -147,6 +148,40 @@ class WholeTest(unittest.TestCase):
                 units.append(unit(name, uses, text))
             rng.shuffle(units)
             self.check(tuple(units))
+
+
+class StructuresTest(unittest.TestCase):
+    """[11.6] for units of structures, which open and name those that they use."""
+
+    def test_random_structures(self):
+        many = 0
+        for seed in range(60):
+            rng = random.Random(seed)
+            shapes, units = {}, []
+            for k, name in enumerate(("Ua", "Ub", "Uc", "Ud")):
+                uses = rng.sample(sorted(shapes), rng.randint(0, k))
+                maker = StructureMaker(rng)
+                text, shape = maker.declarations(Shape((), (), {used: shapes[used] for used in uses}), 1)
+                signature = None
+                if rng.random() < 0.5:
+                    signature, shape = maker.signature(shape)
+                units.append(unit(name, tuple(uses), text, signature))
+                shapes[name] = shape
+            rng.shuffle(units)
+            try:
+                parts = compiled_all(tuple(units))
+            except Refused:
+                continue
+            many += 1
+            run = Run(typed_unit(whole(tuple(units))))
+            run.go_on(most=20000)
+            machine = Machine(linked(parts))
+            machine.go_on(most=100000)
+            self.assertEqual((machine.ends, run.ends[0]), (("done",), "done"))
+            last = parts[-1]
+            wanted = [(name.partition(".")[2], text) for name, text in run.ends[1] if name.startswith(last.unit.name + ".")]
+            self.assertEqual(list(machine.shown(last.program.book, last.program.face)), wanted, seed)
+        self.assertGreater(many, 40)
 
 
 class AnewTest(unittest.TestCase):

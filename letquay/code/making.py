@@ -268,8 +268,8 @@ def _label_if(label):
 def _if(making, core, tail):
     other = making.block().new_label()
     if tail:
-        making.later(
-            [("term", core[1], False), ("emit", (("unless", other),)), ("term", core[2], True), ("label", other),
+        making.later([
+            ("term", core[1], False), ("emit", (("unless", other),)), ("term", core[2], True), ("label", other),
             ("term", core[3], True)])
         return
     behind = making.block().new_label()

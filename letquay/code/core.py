@@ -110,13 +110,12 @@ def keys_of(pattern):
     if word == "or":
         one, other = keys_of(pattern[1]), keys_of(pattern[2])
         return one if one is not None and other is not None and sorted(one) == sorted(other) else None
-    found = [pattern[1]] if word in ("name", "as") else []
     parts = pattern[1] if word == "tuple" else (pattern[-1],) if word in ("con", "packet", "as") else ()
-    for part in parts:
-        more = [] if part is None else keys_of(part)
-        if more is None:
-            return None
-        found.extend(more)
+    inside = [keys_of(part) for part in parts if part is not None]
+    if any([keys is None for keys in inside]):
+        return None
+    own = [pattern[1]] if word in ("name", "as") else []
+    found = [*own, *[key for keys in inside for key in keys]]
     return found if len(set(found)) == len(found) else None
 
 

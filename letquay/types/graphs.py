@@ -198,6 +198,15 @@ class Graph:
         self._mark(index)
         return self.demand_of_parts([index])
 
+    def _level_below(self, level):
+        """The dict of the roots directly inside of some roots; both tell how many times each one stands there."""
+        inside = {}
+        for index, many in level.items():
+            for part in self.nodes[index][2]:
+                root = self.root(part)
+                inside[root] = inside.get(root, 0) + many
+        return inside
+
     def is_great(self, start):
         """Whether the type of a node has a greater size than a type that can be passed.
 
@@ -206,13 +215,8 @@ class Graph:
         size = 0
         level = {self.root(start): 1}
         while level and size <= MAX_SIZE:
-            inside = {}
-            for index, many in level.items():
-                size += many
-                for part in self.nodes[index][2]:
-                    root = self.root(part)
-                    inside[root] = inside.get(root, 0) + many
-            level = inside
+            size += sum(level.values())
+            level = self._level_below(level)
         return size > MAX_SIZE
 
     def type_at(self, start):

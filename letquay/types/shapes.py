@@ -51,15 +51,11 @@ def _made_in(value):
         size += len(level)
         if size > MAX_SIZE:
             return None
-        inside = []
-        for part in level:
-            parts = _parts_of(part)
-            if parts is None:
-                return None
-            if part[0] == "made":
-                found.append((part[1], len(parts)))
-            inside.extend(parts)
-        level = inside
+        inside = [_parts_of(part) for part in level]
+        if any([parts is None for parts in inside]):
+            return None
+        found.extend([(part[1], len(parts)) for part, parts in zip(level, inside) if part[0] == "made"])
+        level = [inner for parts in inside for inner in parts]
     return found
 
 

@@ -97,7 +97,7 @@ class Standing:
         if word == "open":
             return []
         if word == "type":
-            return [f"type {tree[2]}"]
+            return ["type " + tree[2]]
         if word == "data":
             names = ", ".join([name for _, name, _ in tree[1]])
             return [f"datatype {names}"]

@@ -9,6 +9,7 @@ from letquay.modules.programs import typed_unit
 from letquay.rules.runs import Run
 from letquay.text.printer import write_declaration
 from letquay.text.reader import read_declaration, read_unit
+from letquay.text.trees import part_at
 from tests.odd import ODD
 from tests.program_tools import random_text
 
@@ -70,10 +71,10 @@ class PhraseTest(unittest.TestCase):
         before = state(session)
         for text, wanted in (
                 ("(print \"a\"; r := 5; read (); 1 div 0)", ("raised", "Div")), ("(raise E 3 : int)", ("raised", "E")), ("val 1 = 2", ("raised", "Match")),
-                ("let rec f = fn n => f (n + 1) end in (print \"a\"; (f 0 : int)) end", ("long",)), ("nothing", ("unbound", (3, 2), ("nothing",))),
-                ("val y = 1 + True", ("clash", (3, 2, 2, 1), ("made", 1, ()), ("made", 3, ()))), ("exception E", ("twice", (3,), "E")),
-                ("val y = ref []", ("open", (3, 1), "y")), ("open S", ("unbound", (3,), ("S",))), ("(read (); read ())", ("raised", "End")),
-                ("structure S = struct val a = 1 val b = c end", ("unbound", (3, 2, 1, 1, 2), ("c",)))):
+                ("let rec f = fn n => f (n + 1) end in (print \"a\"; (f 0 : int)) end", ("long",)), ("nothing", ("unbound", (2,), ("nothing",))),
+                ("val y = 1 + True", ("clash", (2, 2, 1), ("made", 1, ()), ("made", 3, ()))), ("exception E", ("twice", (), "E")),
+                ("val y = ref []", ("open", (1,), "y")), ("open S", ("unbound", (), ("S",))), ("(read (); read ())", ("raised", "End")),
+                ("structure S = struct val a = 1 val b = c end", ("unbound", (2, 1, 1, 2), ("c",)))):
             self.assertEqual(reason_of(session.phrase, text), wanted, text)
             self.assertEqual(state(session), before, text)
         self.assertEqual(session.phrase("read ()"), ("val it : int = 6",))
@@ -135,10 +136,62 @@ class PhraseTest(unittest.TestCase):
                              ("read ()", "int")):
             self.assertEqual(session.asked(text), wanted)
         self.assertEqual(reason_of(session.asked, "map 1")[0], "clash")
-        self.assertEqual(reason_of(session.asked, "ref []"), ("open", (2, 1), "it"))
+        self.assertEqual(reason_of(session.asked, "ref []"), ("open", (1,), "it"))
         for text in ("val x = 1", "open S", "1 1 +"):
             self.assertRaises(ParseError, session.asked, text)
         self.assertEqual(state(session), before)
+
+
+class PlacesTest(unittest.TestCase):
+    """Part 12a: the place of a refusal of the typing begins in the declaration of the phrase."""
+
+    AHEAD = (
+        "datatype t = A | B of int", "structure S = struct val k = 4 exception E end", "signature N = sig type t val k : t end",
+        "functor F(X : sig type 'a t end) = struct datatype d = D of d X.t end")
+    REFUSED = (
+        ("a + 1", ("unbound", (2, 2, 0), ("a",))), ("case A of B => 1 end", ("arity", (2, 2, 0, 0), ("B",))), ("fn x => x x end", ("endless",)),
+        ("(fn x => x end) = (fn x => x end)", ("unequal",)), ("ref []", ("open", (1,), "it")), ("1 + \"a\"", ("clash",)), ("(1 : u)", ("unbound", (2, 2), ("u",))),
+        ("val rec f = fn x => y end", ("unbound", (1, 0, 1, 0, 2), ("y",))), ("val rec f = fn x => x x end", ("endless",)), ("type u = v", ("unbound", (3,), ("v",))),
+        ("type t = int", ("twice", (), "t")), ("datatype t = C", ("twice", (), "t")), ("datatype u = A", ("twice", (), "A")), ("datatype u = C and v = C", ("twice", (1, 1, 2, 0), "C")),
+        ("datatype u = C of u", ("empty", (1, 0), "u")), ("datatype u = C of int t", ("arity", (1, 0, 2, 0, 1), ("t",))), ("exception A", ("twice", (), "A")),
+        ("exception C of u", ("unbound", (2,), ("u",))), ("exception C = A", ("unbound", (), ("A",))), ("exception Div = S.E", ("twice", (), "Div")), ("exception C = S.G", ("unbound", (), ("S", "G"))),
+        ("structure S = struct end", ("twice", (), "S")), ("structure T = U", ("unbound", (2,), ("U",))), ("structure T = G(struct end)", ("unbound", (2,), ("G",))),
+        ("structure T = F(struct end)", ("lacks", (2,), "type", ("t",))), ("structure T = F(struct type 'a t = 'a end)", ("empty", (2,), "d")),
+        ("structure T = S :> N", ("lacks", (2,), "type", ("t",))), ("structure T = S : sig val k : string end", ("unlike", (2,), "value", ("k",))),
+        ("structure T = struct structure U = S :> P end", ("unbound", (2, 1, 0, 2, 2), ("P",))),
+        ("structure T = S :> N where type u = int", ("where", (2, 2), ("u",))), ("open T", ("unbound", (), ("T",))), ("signature N = sig end", ("twice", (), "N")),
+        ("signature M = sig val a : u end", ("unbound", (2, 1, 0, 2), ("u",))), ("signature M = sig val a : int val a : int end", ("twice", (2, 1, 1), "a")),
+        ("functor F(X : N) = X", ("twice", (), "F")), ("functor G(X : N) = struct val a = X.l end", ("unbound", (4, 1, 0, 2), ("X", "l"))),
+        ("functor G(X : sig val a : u end) = X", ("unbound", (3, 1, 0, 2), ("u",))), ("functor G(X : N) = X :> sig val k : int end", ("unlike", (4,), "value", ("k",))))
+
+    def test_all_kinds_of_refusals(self):
+        for ahead in range(3):
+            session = given(*self.AHEAD, *[f"val x = {k}" for k in range(ahead)])
+            before = state(session)
+            for text, wanted in self.REFUSED:
+                reason = reason_of(session.phrase, text)
+                self.assertEqual(reason[:len(wanted)], wanted, text)
+                self.assertEqual(state(session), before)
+                first = text.split(" ")[0]
+                if first not in ("val", "type", "datatype", "exception", "structure", "open", "signature", "functor"):
+                    self.assertEqual(reason_of(session.asked, text), reason)
+                    text = f"val it = {text}"
+                self.check_place(session, read_declaration(text), reason)
+
+    def check_place(self, session, tree, reason):
+        """The place is that of the typing of the program, without the number of the declaration, and leads somewhere."""
+        number = len(session)
+        whole = reason_of(typed_unit, (*session.phrases, tree))
+        self.assertEqual(whole, (reason[0], (number, *reason[1]), *reason[2:]))
+        part_at(tree, reason[1])
+
+    def test_places_of_the_program_stay(self):
+        session = given(*self.AHEAD, "val x = 1", "structure T = struct val y = x end")
+        program = session.program
+        self.assertEqual([place for place, _ in program.notes], [(1, 2, 1, 0), (4,), (5, 2, 1, 0)])
+        self.assertEqual([place for place, _ in program.faces], [(1, 2), (3, 4), (5, 2)])
+        self.assertEqual(program.notes, typed_unit(session.phrases).notes)
+        self.assertEqual(program.faces, typed_unit(session.phrases).faces)
 
 
 class KeepingTest(unittest.TestCase):

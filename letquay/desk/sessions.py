@@ -2,6 +2,7 @@
 
 from letquay.checks import is_whole
 from letquay.errors import InvalidNumber, NothingToUndo, ParseError, Refused, TooMany, UnknownName
+from letquay.modules.bases import inside
 from letquay.modules.programs import begun_unit
 from letquay.rules.playing import Play
 from letquay.rules.runs import MAX_STEPS, check_inputs
@@ -54,7 +55,10 @@ class Standing:
         """The course of the unit with a declaration more."""
         self._nodes_with(tree)
         course = self.course.copied()
-        course.declare(tree, (len(self.trees),))
+        try:
+            course.declare(tree, (len(self.trees),))
+        except Refused as refused:
+            raise Refused(inside(refused.reason)) from None
         return course
 
     def asked(self, tree):

@@ -20,3 +20,8 @@ def behind(reason, place):
 def placed(reason, place):
     """A reason that has no place, with one."""
     return (reason[0], place, *reason[1:])
+
+
+def inside(reason):
+    """A reason whose place begins with the number of a declaration, with its place in this declaration."""
+    return (reason[0], reason[1][1:], *reason[2:])

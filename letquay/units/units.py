@@ -177,4 +177,5 @@ def compiled_unit(unit, faces):
     used = _used_by(unit, faces)
     program = _typed(unit, used)
     code = code_of(flattened(program), tuple(sorted(unit.uses)))
-    return Compiled(unit, _face_of(unit, program, used), {name: faces[name] for name in unit.uses}, program, code)
+    outer_faces = {name: faces[name] for name in sorted(unit.uses)}
+    return Compiled(unit, _face_of(unit, program, used), outer_faces, program, code)

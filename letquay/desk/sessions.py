@@ -44,16 +44,8 @@ class Standing:
         self.lines = tuple(play.lines)
         self.taken = play.taken
 
-    def _nodes_with(self, tree):
-        """How many nodes the program has with a declaration more: an error if they are too many."""
-        many = count_of(tree, "top")
-        if many is None or self.many_nodes + many > MAX_NODES:
-            raise TooMany(MAX_NODES)
-        return self.many_nodes + many
-
-    def course_with(self, tree):
+    def _course_with(self, tree):
         """The course of the unit with a declaration more."""
-        self._nodes_with(tree)
         course = self.course.copied()
         try:
             course.declare(tree, (len(self.trees),))
@@ -61,14 +53,25 @@ class Standing:
             raise Refused(inside(refused.reason)) from None
         return course
 
+    def typed_with(self, tree):
+        """The pair of the course of the unit with a declaration more, and of how many nodes it has.
+
+        That they are too many is told only of what can be typed.
+        """
+        course = self._course_with(tree)
+        many = count_of(tree, "top")
+        if many is None or self.many_nodes + many > MAX_NODES:
+            raise TooMany(MAX_NODES)
+        return course, self.many_nodes + many
+
     def asked(self, tree):
         """The text of the scheme of `it`, for a declaration of this value that is not run."""
-        course = self.course_with(tree)
+        course, _ = self.typed_with(tree)
         return course.declaring.face.schemes["it"].text(course.course.book)
 
     def behind(self, tree):
         """What stands behind a declaration more."""
-        course = self.course_with(tree)
+        course, nodes = self.typed_with(tree)
         trees = (*self.trees, tree)
         play = self.play.copied()
         play.go_further(trees)
@@ -80,7 +83,7 @@ class Standing:
             raise Refused(("long",))
         if play.final[0] != "table":
             raise Refused(("raised", play.seen(play.final)[1]))
-        return Standing(trees, self._nodes_with(tree), course, play, many)
+        return Standing(trees, nodes, course, play, many)
 
     def text_of(self, name):
         """The text of a value."""

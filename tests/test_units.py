@@ -154,7 +154,7 @@ class CompiledTest(unittest.TestCase):
         found.faces.clear()
         self.assertEqual(list(found.faces), ["Cell"])
         several = compiled_unit(unit("V", ("Z", "Cell"), "val x = Cell.one"), {"Cell": cell.face, "Z": face_of_unit(unit("Z", (), ""), {})})
-        self.assertEqual((several.code.uses, list(several.faces)), (("Cell", "Z"), ["Z", "Cell"]))
+        self.assertEqual((several.code.uses, list(several.faces)), (("Cell", "Z"), ["Cell", "Z"]))
 
     def test_a_client_hangs_on_the_face_alone(self):
         user = unit("Use", ("Cell",), "val x = Cell.get Cell.zero")

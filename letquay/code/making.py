@@ -2,81 +2,21 @@
 
 What is still to be made is a list of tuples (action, ..), the next one last, so that no term is too deep. Values that
 are matched are kept in slots; what a pattern finds out leaves nothing among the operands. Each function is a block of
-its own; what it names of the blocks around it, it holds.
+its own; what it names of the blocks around it, it holds. Keys that an `open` names like fields are looked up where they
+stand. A term is "exact" unless its tables can be loose.
 """
 
 from letquay.code.blocks import Code, are_units
-from letquay.code.building import Bindings, Block
+from letquay.code.building import Making
 from letquay.code.core import free_units
+from letquay.code.loose import add_exact, add_loose, add_part_known, add_table_known
 from letquay.code.meeting import add_part, add_pattern
+from letquay.code.tables import opened_by, parameter_of
 from letquay.errors import InvalidOperation
 
 MATCH = (("reserved", "Match"), ("packet", False), ("raise",))
-
-
-class Making:
-    """Makes the blocks of a term."""
-
-    def __init__(self):
-        self.blocks = [None]
-        # The blocks that are being made, the innermost last, with the numbers that they will have.
-        self.levels = [(0, Block(0))]
-        self.bindings = Bindings()
-        self.todo = []
-
-    def block(self):
-        """The innermost block."""
-        return self.levels[-1][1]
-
-    def emit(self, instruction):
-        """Add an instruction to the innermost block."""
-        self.block().add_instruction(instruction)
-
-    def emit_all(self, instructions):
-        """Add instructions to the innermost block."""
-        for instruction in instructions:
-            self.emit(instruction)
-
-    def later(self, actions):
-        """Do some actions next, in order."""
-        self.todo.extend(actions[::-1])
-
-    def make(self, core):
-        """The blocks of a term."""
-        self.later([("term", core, True)])
-        while self.todo:
-            word, *rest = self.todo.pop()
-            action = ACTIONS[word]
-            action(self, *rest)
-        self.end_block(0)
-        return tuple(self.blocks)
-
-    def push_binding(self, binding):
-        """Push what a binding stands for; blocks inside of its own one hold it."""
-        level, word, place = binding
-        if level == len(self.levels) - 1:
-            self.emit((word, place))
-        else:
-            self.emit(("free", self.block().held_at(binding)))
-
-    def push_name(self, key):
-        """Push what a name stands for."""
-        binding = self.bindings.innermost(key)
-        if binding is None:
-            self.emit(("global", key[1]))
-        else:
-            self.push_binding(binding)
-
-    def begin_block(self):
-        """Begin a block of a function."""
-        self.levels.append((len(self.blocks), Block(1)))
-        self.blocks.append(None)
-
-    def end_block(self, siblings):
-        """End the innermost block, of a function of a group of so many: its number, and the bindings that it holds."""
-        number, block = self.levels.pop()
-        self.blocks[number] = block.finished(siblings)
-        return number, list(block.held)
+# How many fields are looked up for a key that an `open` names.
+MOST_FIELDS = 100
 
 
 def _end(making, tail):
@@ -91,8 +31,11 @@ def _literal(making, core, tail):
 
 
 def _name(making, core, tail):
-    making.push_name(core[1])
-    _end(making, tail)
+    known = making.push_name(core[1])
+    if known is None:
+        _end(making, tail)
+    else:
+        making.later([("exact", [known], 0), ("end", tail)])
 
 
 def _members(making, terms, instruction, tail):
@@ -114,7 +57,8 @@ def _table(making, core, tail):
 
 
 def _field(making, core, tail):
-    _members(making, (core[1],), ("field", core[2]), tail)
+    known = []
+    making.later([("loose", core, False, known), ("exact", known, 0), ("end", tail)])
 
 
 def _packet(making, core, tail):
@@ -131,7 +75,18 @@ def _raise(making, core, tail):
 
 
 def _call(making, core, tail):
-    making.later([("term", core[1], False), ("term", core[2], False), ("emit", (("tail",) if tail else ("call",),))])
+    if making.is_applied(core):
+        known = []
+        making.later([("loose", core, tail, known), ("returned", known) if tail else ("exact", known, 0)])
+        return
+    call = ("tail",) if tail else ("call",)
+    making.later([("term", core[1], False), ("term", core[2], False), ("emit", (call,))])
+
+
+def _returned(making, known):
+    """What a tail leaves to another block cannot be cut any more."""
+    if known[0] is not None:
+        making.room = -1
 
 
 def _fn(making, core, tail):
@@ -146,28 +101,85 @@ def _function(making, rows):
 
 def _closure(making, tail):
     number, held = making.end_block(0)
-    for binding in held:
-        making.push_binding(binding)
+    for root in held:
+        making.push_root(root)
     making.emit(("closure", number, len(held)))
     _end(making, tail)
 
 
 def _let(making, core, tail):
+    pick = making.pick_in(core)
+    if pick is not None:
+        making.later([("loose", pick[0], False, []), ("exact", [pick[1]], 0), ("end", tail)])
+        return
+    _, pairs, last = core
+    # What is handed on as a whole is cut where it is bound, once.
+    whole = {field[1][1]: True for field in last[1] if field[1][0] == "name"} if last[0] == "table" else {}
     bound = []
-    making.later([*[("pair", pair, bound) for pair in core[1]], ("term", core[2], tail), ("unbind", bound)])
+    making.later([*[("pair", pair, whole, bound) for pair in pairs], ("term", last, tail), ("unbind", bound)])
 
 
-def _pair(making, pair, bound):
+def _pair(making, pair, whole, bound):
     head, body = pair
     if head is None:
         _group(making, body, bound)
-        return
+    elif not _open(making, opened_by(pair), bound) and not _functor(making, head, parameter_of(pair), bound):
+        if head[0] == "name":
+            known = [None] if head[1] in whole else []
+            term = ("term", body, False) if known else ("loose", body, False, known)
+            making.later([term, ("bind value", head[1], known, bound)])
+        else:
+            _matched(making, head, body, bound)
+
+
+def _matched(making, head, body, bound):
+    """A pair whose pattern is looked at."""
     slot = making.block().new_slot()
     failed, matched = making.block().new_label(), making.block().new_label()
     found = {}
     making.later([
         ("term", body, False), ("emit", (("set", slot),)), ("pattern", head, slot, failed, found, {}),
         ("match", failed, matched), ("bind", found, bound)])
+
+
+def _bind_value(making, key, known, bound):
+    """Bind a key to the value on top, of which is known what stands in a list."""
+    slot = making.block().new_slot()
+    making.emit(("set", slot))
+    making.bind_slot(key, slot, known[0])
+    bound.append(key)
+
+
+def _open(making, opened, bound):
+    """Bind keys to fields of a path, if that is what a pair does; whether it is."""
+    if opened is None:
+        return False
+    path, keys = opened
+    if len(making.bindings.place_at(path)[1]) >= MOST_FIELDS:
+        return False
+    places = [(key, making.bindings.place_at(("field", path, key))) for key in keys]
+    for key, place in places:
+        making.bindings.bind(key, place)
+        bound.append(key)
+    return True
+
+
+def _functor(making, head, parameter, bound):
+    """The function of a functor that is nothing but applied, if that is what a pair binds; whether it is."""
+    if parameter is None or not making.is_functor(head[1]):
+        return False
+    key, body = parameter
+    result = []
+    making.begin_block()
+    making.bind_slot(key, 0, making.of_functors[head[1]])
+    making.later([
+        ("loose", body, True, result), ("unbind", [key]), ("closure", False), ("bind value", head[1], [None], bound),
+        ("result", head[1], result)])
+    return True
+
+
+def _result(making, key, result):
+    making.results[key] = result[0]
 
 
 def _match(making, failed, matched):
@@ -181,9 +193,8 @@ def _match(making, failed, matched):
 
 def _bind(making, found, bound):
     """Bind keys to slots of the innermost block."""
-    level = len(making.levels) - 1
     for key, slot in found.items():
-        making.bindings.bind(key, (level, "slot", slot))
+        making.bind_slot(key, slot, None)
         bound.append(key)
 
 
@@ -196,7 +207,7 @@ def _group(making, functions, bound):
     """A group of functions, which hold their own values and behind them all functions."""
     level = len(making.levels)
     for place, (key, _) in enumerate(functions):
-        making.bindings.bind(key, (level, "sibling", place))
+        making.bindings.bind(key, ((level, "sibling", place), (), None))
     made = []
     inside = [("member", functions, rows, made) for _, rows in functions]
     making.later([*inside, ("group", functions, made, bound)])
@@ -214,8 +225,8 @@ def _end_member(making, functions, made):
 def _end_group(making, functions, made, bound):
     _unbind(making, [key for key, _ in functions])
     for _, held in made:
-        for binding in held:
-            making.push_binding(binding)
+        for root in held:
+            making.push_root(root)
     making.emit(("group", tuple([(number, len(held)) for number, held in made])))
     slots = {key: making.block().new_slot() for key, _ in functions}
     for key in list(slots)[::-1]:
@@ -305,6 +316,22 @@ def _part(making, *rest):
     add_part(making, *rest)
 
 
+def _loose(making, *rest):
+    add_loose(making, *rest)
+
+
+def _exact(making, *rest):
+    add_exact(making, *rest)
+
+
+def _part_known(making, *rest):
+    add_part_known(*rest)
+
+
+def _table_known(making, *rest):
+    add_table_known(*rest)
+
+
 def _emit(making, instructions):
     making.emit_all(instructions)
 
@@ -330,13 +357,30 @@ def _term(making, core, tail):
 ACTIONS = {
     "term": _term, "emit": _emit, "end": _end, "label": _label, "function": _function, "closure": _closure,
     "pair": _pair, "match": _match, "bind": _bind, "unbind": _unbind, "member": _member, "end member": _end_member,
-    "group": _end_group, "rows": _rows, "row": _row, "pattern": _pattern, "part": _part,
+    "group": _end_group, "rows": _rows, "row": _row, "pattern": _pattern, "part": _part, "bind value": _bind_value,
+    "result": _result, "returned": _returned, "loose": _loose, "exact": _exact, "part known": _part_known,
+    "table known": _table_known,
 }
+
+
+def _blocks_of(core, lets_loose):
+    """The blocks of a term, or `None` if loose tables are let and cannot be."""
+    making = Making(core, lets_loose)
+    making.later([("term", core, True)])
+    while making.todo and making.room >= 0:
+        word, *rest = making.todo.pop()
+        action = ACTIONS[word]
+        action(making, *rest)
+    if making.room < 0:
+        return None
+    making.end_block(0)
+    return tuple(making.blocks)
 
 
 def code_of(core, uses):
     """Code of a term, with units that are all that it names, for what has been looked at already."""
-    return Code(Making().make(core), uses)
+    blocks = _blocks_of(core, True)
+    return Code(_blocks_of(core, False) if blocks is None else blocks, uses)
 
 
 def compiled(core, *, uses=()):

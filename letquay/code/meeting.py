@@ -62,12 +62,7 @@ def add_part(making, instruction, pattern, slot, failed, found, fixed):
 
 def _exception(making, core):
     """Push the exception that a name, or fields of a name, or a reserved name tells."""
-    keys = []
-    while core[0] == "field":
-        keys.append(core[2])
-        core = core[1]
     if core[0] == "reserved":
         making.emit(core)
     else:
-        making.push_name(core[1])
-    making.emit_all([("field", key) for key in keys[::-1]])
+        making.push_exception(core)

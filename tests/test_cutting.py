@@ -152,11 +152,19 @@ class CuttingTest(unittest.TestCase):
 
     def test_exceptions_with_long_paths(self):
         """One step of the rules tries a row, however many exceptions stand in it, and however long their paths are."""
-        for many, levels in ((200, 27), (100, 20), (10, 27)):
-            path = ".".join("S" * levels) + ".E"
-            head = f"structure S = {nested(levels, 'S', 'struct exception E end')} val t = let e = {path} in ({', '.join('e' * many)}) end "
-            for opens, row in (("", f"({', '.join([path] * many)})"), ("open S " * levels, f"({', '.join('E' * many)})")):
-                self.check(f"{head} {opens} val f = fn {row} => 1 end val rec g = fn 0 => 0 | k => let _ = f t in g (k - 1) end end val _ = g 40", 0.25)
+        rng = random.Random(7)
+        loop = "val rec g = fn 0 => 0 | k => let _ = f t in g (k - 1) end end"
+        for many, single, double in ((200, 22, 5), (100, 26, 0), (10, 20, 6)):
+            way = ".".join("S" * (single + 1))
+            paths = [".".join([way, *rng.choices("PQ", k=double), "E"]) for _ in range(many)]
+            inner = nested(single + 1, "S", nested(double + 1, "PQ", "struct exception E end"))
+            head = f"structure S = {inner} val t = let e = {paths[0]} in ({', '.join('e' * many)}) end "
+            row = f"({', '.join(paths)})"
+            for text in (
+                    f"val f = fn {row} => 1 end {loop} val _ = g 40", f"val r = ref 0 val _ = while !r < 40 do case t of {row} => r := !r + 1 end end",
+                    f"functor F(X : sig end) = struct structure S = S val f = fn {row} => 1 end {loop} val _ = g 40 end structure Z = F(struct end) :> sig end",
+                    f"{'open S ' * single} val f = fn {row.replace(way, 'S')} => 1 end {loop} val _ = g 40"):
+                self.check(f"{head} {text}", 0.25)
 
     def test_random_structures(self):
         many = 0

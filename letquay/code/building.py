@@ -116,6 +116,8 @@ class Making:
         self.of_functors = None
         self.results = {}
         self.room = MOST_CUTTING
+        # For each way (root, keys) that has been gone for the newest row the slot of what it leads to.
+        self.ways = {}
 
     def block(self):
         """The innermost block."""
@@ -139,8 +141,6 @@ class Making:
         level, word, place = root
         if level not in (OUTSIDE, len(self.levels) - 1):
             self.emit(("free", self.block().held_at(root)))
-        elif word == "path":
-            self.push_path(*place)
         else:
             self.emit((word, place))
 
@@ -149,22 +149,22 @@ class Making:
         self.push_root(root)
         self.emit_all([("field", key) for key in keys])
 
+    def push_exception(self, root, keys):
+        """Push what is asked for by a row, from the end of the longest way that has been gone for it."""
+        gone = len(keys)
+        while gone > 0 and (root, keys[:gone]) not in self.ways:
+            gone -= 1
+        if gone == 0:
+            self.push_path(root, keys)
+        else:
+            self.emit(("slot", self.ways[(root, keys[:gone])]))
+            self.emit_all([("field", key) for key in keys[gone:]])
+
     def push_name(self, key):
         """Push what a name stands for; what is known of it."""
         root, keys, known = self.bindings.innermost(key)
         self.push_path(root, keys)
         return known
-
-    def push_exception(self, path):
-        """Push the exception at a path of a pattern.
-
-        Functions hold what is far away in the outermost block: one row can have many patterns with long paths.
-        """
-        root, keys, _ = self.bindings.place_at(path)
-        if root[0] <= 0 < len(self.levels) - 1 and len(keys) > 1:
-            self.push_root((0, "path", (root, keys)))
-        else:
-            self.push_path(root, keys)
 
     def bind_slot(self, key, slot, known):
         """Let a key stand for a slot of the innermost block."""

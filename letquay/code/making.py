@@ -10,7 +10,7 @@ from letquay.code.blocks import Code, are_units
 from letquay.code.building import Making
 from letquay.code.core import free_units
 from letquay.code.loose import add_exact, add_loose, add_part_known, add_table_known
-from letquay.code.meeting import add_part, add_pattern
+from letquay.code.meeting import add_match, add_part, add_pattern
 from letquay.code.tables import opened_by, parameter_of
 from letquay.errors import InvalidOperation
 
@@ -138,7 +138,7 @@ def _matched(making, head, body, bound):
     failed, matched = making.block().new_label(), making.block().new_label()
     found = {}
     making.later([
-        ("term", body, False), ("emit", (("set", slot),)), ("pattern", head, slot, failed, found, {}),
+        ("term", body, False), ("emit", (("set", slot),)), ("row pattern", head, slot, failed, found),
         ("match", failed, matched), ("bind", found, bound)])
 
 
@@ -258,7 +258,7 @@ def _row(making, row, slot, label):
     guarded = () if guard is None else (("term", guard, False), ("emit", (("unless", other),)))
     behind = () if label is None else (("emit", (("jump", label),)),)
     making.later([
-        ("pattern", head, slot, other, found, {}), ("bind", found, bound), *guarded,
+        ("row pattern", head, slot, other, found), ("bind", found, bound), *guarded,
         ("term", body, label is None), *behind, ("unbind", bound), ("label", other)])
 
 
@@ -306,6 +306,10 @@ def _while(making, core, tail):
     making.later([
         ("label", start), ("term", core[1], False), ("emit", (("unless", behind),)), ("term", core[2], False),
         ("emit", (("drop",), ("jump", start))), ("label", behind), ("emit", (("tuple", 0),)), ("end", tail)])
+
+
+def _row_pattern(making, *rest):
+    add_match(making, *rest)
 
 
 def _pattern(making, *rest):
@@ -359,7 +363,7 @@ ACTIONS = {
     "pair": _pair, "match": _match, "bind": _bind, "unbind": _unbind, "member": _member, "end member": _end_member,
     "group": _end_group, "rows": _rows, "row": _row, "pattern": _pattern, "part": _part, "bind value": _bind_value,
     "result": _result, "returned": _returned, "loose": _loose, "exact": _exact, "part known": _part_known,
-    "table known": _table_known,
+    "table known": _table_known, "row pattern": _row_pattern,
 }
 
 

@@ -1,6 +1,23 @@
-"""Code that looks whether the value of a slot meets a pattern, and keeps what it binds in slots."""
+"""Code that looks whether the value of a slot meets a pattern, and keeps what it binds in slots.
+
+One row can have many exceptions with long paths, and is tried in one step of the rules. So ways on which several of
+them go on together are gone once for the row.
+"""
 
 from letquay.code.core import keys_of
+from letquay.code.tables import paths_in, shared_ways
+
+
+def add_match(making, pattern, slot, failed, found):
+    """Go on at a label unless the value of a slot meets the pattern of a row; the slots of keys come into a dict."""
+    places = [making.bindings.place_at(path) for path in paths_in(pattern)]
+    making.ways = {}
+    for root, keys in shared_ways(places):
+        making.push_exception(root, keys)
+        shared = making.block().new_slot()
+        making.emit(("set", shared))
+        making.ways[(root, keys)] = shared
+    making.later([("pattern", pattern, slot, failed, found, {})])
 
 
 def add_pattern(making, pattern, slot, failed, found, fixed):
@@ -65,4 +82,5 @@ def _exception(making, core):
     if core[0] == "reserved":
         making.emit(core)
     else:
-        making.push_exception(core)
+        root, keys, _ = making.bindings.place_at(core)
+        making.push_exception(root, keys)

@@ -110,3 +110,39 @@ def opened_by(pair):
     if any([name[0] != "name" or field != ("field", path, name[1]) for name, field in zip(names, fields)]):
         return None
     return path, [name[1] for name in names]
+
+
+def paths_in(pattern):
+    """The list of the paths of all exceptions in a pattern, but for reserved ones."""
+    found = []
+    todo = [pattern]
+    while todo:
+        part = todo.pop()
+        if part[0] == "packet" and part[1][0] != "reserved":
+            found.append(part[1])
+        if part[0] == "tuple":
+            todo.extend(part[1])
+        elif part[0] == "or":
+            todo.extend(part[1:])
+        elif part[0] in ("as", "con", "packet") and part[2] is not None:
+            todo.append(part[2])
+    return found
+
+
+def _length(way):
+    return len(way[1])
+
+
+def shared_ways(places):
+    """The list of the ways (root, keys) at whose ends several of some places end, or part; the shortest first."""
+    many = {}
+    for root, keys, _ in places:
+        for k in range(1, len(keys) + 1):
+            way = (root, keys[:k])
+            many[way] = many.get(way, 0) + 1
+    shared = {way: True for way, times in many.items() if times > 1}
+    for (root, keys), times in many.items():
+        ahead = (root, keys[:-1])
+        if ahead in shared and many[ahead] == times:
+            del shared[ahead]
+    return sorted(shared, key=_length)
